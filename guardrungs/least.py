@@ -1,0 +1,105 @@
+"""Least machines: alike standings and the rounds that part unlike ones."""
+
+from guardrungs.bits import is_whole, row_at
+from guardrungs.errors import BadNumber, OtherShape
+from guardrungs.machines import Machine
+
+
+def _numbered(keys):
+    """For each key its number, equal ones having one; numbered in the order of their first places."""
+    numbers = {}
+    told = []
+    for key in keys:
+        if key not in numbers:
+            numbers[key] = len(numbers)
+        told.append(numbers[key])
+    return told
+
+
+def _splits(rows):
+    """The classes of all standings ahead of the first round and behind each round that splits something."""
+    answers = _numbered([tuple([answer for answer, _ in row]) for row in rows])
+    # Readings that lead everywhere to the same standings part nothing that one of them does not part.
+    behinds = [[behind for _, behind in row] for row in rows]
+    columns = list({column: True for column in zip(*behinds)})
+    behinds = list(zip(*columns))
+    rounds_told = [[0] * len(rows)]
+    now = answers
+    while max(now) > max(rounds_told[-1]):
+        rounds_told.append(now)
+        keys = [(old, tuple([now[state] for state in behind])) for old, behind in zip(now, behinds)]
+        now = _numbered(keys)
+    return rounds_told
+
+
+def _reached(rows):
+    """The rows of the standings that are reached, numbered as met."""
+    numbers = {0: 0}
+    met = [0]
+    told = []
+    while len(told) < len(met):
+        row = []
+        for answer, behind in rows[met[len(told)]]:
+            if behind not in numbers:
+                numbers[behind] = len(met)
+                met.append(behind)
+            row.append((answer, numbers[behind]))
+        told.append(row)
+    return told
+
+
+def least(machine):
+    """The least machine."""
+    rows = _reached(machine.rows)
+    told = _splits(rows)[-1]
+    firsts = {}
+    for standing, number in enumerate(told):
+        firsts.setdefault(number, standing)
+    merged = [[(answer, told[behind]) for answer, behind in rows[standing]] for standing in firsts.values()]
+    return Machine(machine.inputs, machine.outputs, _reached(merged))
+
+
+def classes(machine):
+    """For each standing the number of its class of alike standings."""
+    return tuple(_splits(machine.rows)[-1])
+
+
+def rounds(machine):
+    """The number of rounds that split something."""
+    return len(_splits(machine.rows)) - 1
+
+
+def told_apart(machine, s, t):
+    """The least shortest row of readings that tells the standings apart; None if they are alike."""
+    if not is_whole(s, 0, len(machine.rows) - 1):
+        raise BadNumber("s")
+    if not is_whole(t, 0, len(machine.rows) - 1):
+        raise BadNumber("t")
+    splits = _splits(machine.rows)
+    left = len([told for told in splits if told[s] == told[t]])
+    if left == len(splits):
+        return None
+    told = []
+    while left > 0:
+        left -= 1
+        number = _parting(machine.rows[s], machine.rows[t], splits[left], left)
+        told.append(row_at(number, len(machine.inputs)))
+        s, t = machine.rows[s][number][1], machine.rows[t][number][1]
+    return tuple(told)
+
+
+def _parting(row, other, told, left):
+    """The number of the least reading behind which so many readings, or for 0 the answers, part two standings."""
+    for number, (pair, other_pair) in enumerate(zip(row, other)):
+        if left == 0 and pair[0] != other_pair[0]:
+            return number
+        if left > 0 and told[pair[1]] != told[other_pair[1]]:
+            return number
+    return -1
+
+
+def alike_machines(m, n):
+    """True if the two machines answer all rows of readings alike."""
+    if len(m.inputs) != len(n.inputs) or len(m.outputs) != len(n.outputs):
+        raise OtherShape()
+    return least(m) == least(n)
