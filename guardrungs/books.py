@@ -1,6 +1,6 @@
 """The base of all books."""
 
-from guardrungs.bits import check_row, rows_of
+from guardrungs.bits import case_rows, check_row, columns_of, spread
 from guardrungs.errors import BadBook
 from guardrungs.formulas import is_name
 
@@ -48,8 +48,15 @@ class Book:
         raise NotImplementedError()
 
     def step_each(self, standing):
-        """For each reading, in counting order, the answer and the next standing; at most 10 inputs."""
-        return [self.step(standing, reading) for reading in rows_of(len(self.inputs))]
+        """For each reading, in counting order, the answer and the next standing; for few inputs."""
+        cases = 1 << len(self.inputs)
+        return self._cycle(standing, columns_of(len(self.inputs)), (1 << cases) - 1)
+
+    def _cycle(self, standing, columns, full):
+        """For each case, the inputs' bits being told by columns, the answer and the next standing."""
+        cases = full.bit_length()
+        readings = case_rows([spread(column, cases) for column in columns], cases)
+        return [self.step(standing, reading) for reading in readings]
 
     def checked(self, reading):
         """The reading as a tuple."""

@@ -35,7 +35,7 @@ class Names:
             self.ages[step] = cells[:many]
             cells = cells[many:]
 
-    def cells(self):
+    def all_told(self):
         """All these cells."""
         ages = [cell for cells in self.ages.values() for cell in cells]
         return [self.begun] + self.working() + ages
@@ -114,7 +114,7 @@ def chain_cells(chain):
     for name in chain.outputs + chain.cells:
         rungs.extend(_name_rungs(chain, name, names))
     rungs.append((("bit", 1), tuple(end)))
-    cells = list(chain.steps + chain.cells) + names.cells()
+    cells = list(chain.steps + chain.cells) + names.all_told()
     pairs = tuple([(name, name) for name in chain.steps + chain.outputs + chain.cells])
     return Rungs(chain.inputs, chain.outputs, cells, rungs), pairs
 

@@ -1,15 +1,16 @@
 """Step chains: steps, transitions and actions."""
 
-from guardrungs.bits import case_rows, columns_of, is_order, is_whole, spread
+from guardrungs.bits import case_rows, is_order, is_whole, spread
 from guardrungs.books import Book, check_names
 from guardrungs.errors import BadBook, BadNumber
 from guardrungs.formulas import is_formula, told_edges, worked
 
 
 class ChainCycle:
-    """One cycle of a chain, for all cases at once: marks and names are columns, ages are told by sort.
+    """One cycle of a chain, for all cases at once: each bit is a column.
 
-    Steps that are neither marked nor given in any case are in none of the dicts.
+    old, ages, taken and given have no entry for a step that is nowhere marked, taken or given. A step's age is 0 in
+    the cases in which it is given; ages has what it is in the others.
     """
 
     def __init__(self, chain, standing, columns, full):
@@ -125,11 +126,6 @@ class Chain(Book):
     def step(self, standing, reading):
         """The answer and the next standing."""
         return self._cycle(standing, self.checked(reading), 1)[0]
-
-    def step_each(self, standing):
-        """For each reading, in counting order, the answer and the next standing."""
-        cases = 1 << len(self.inputs)
-        return self._cycle(standing, columns_of(len(self.inputs)), (1 << cases) - 1)
 
     def marks_in(self, standing):
         """The steps that are marked."""

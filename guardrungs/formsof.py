@@ -155,7 +155,8 @@ def _pairs_met(machine):
     left = [0]
     pairs = {}
     while left:
-        for answer, behind in machine.rows[left.pop()]:
+        standing = left.pop()
+        for answer, behind in machine.rows[standing]:
             pairs[(answer, behind)] = True
             if behind not in met:
                 met[behind] = True

@@ -15,8 +15,9 @@ def told_text(formula):
         return f"{kind} {inside}"
     if kind == "not":
         return f"not {told_text(inside)}"
-    words = f" {kind} "
-    return f"({words.join([told_text(part) for part in inside])})"
+    joint = f" {kind} "
+    parts = joint.join([told_text(part) for part in inside])
+    return f"({parts})"
 
 
 def formula_text(formula):
@@ -75,10 +76,11 @@ class Reader:
 
     def read_beginning(self, word):
         """Read a word where a formula must begin."""
+        bracket = self.brackets[-1]
         if word == "(":
             self.brackets.append(Bracket())
         elif word == "not":
-            self.brackets[-1].nots += 1
+            bracket.nots += 1
         elif word in EDGES:
             self.edge = word
         elif word in ("0", "1"):

@@ -38,8 +38,9 @@ def _reached(rows):
     met = [0]
     told = []
     while len(told) < len(met):
+        standing = met[len(told)]
         row = []
-        for answer, behind in rows[met[len(told)]]:
+        for answer, behind in rows[standing]:
             if behind not in numbers:
                 numbers[behind] = len(met)
                 met.append(behind)

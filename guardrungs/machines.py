@@ -86,42 +86,36 @@ def _two_names(names, others):
 
 
 def _beside_rows(rows, others):
-    """The rows of two machines beside one another, their pairs numbered as met."""
-    numbers = {(0, 0): 0}
-    pairs = [(0, 0)]
-    told = []
-    while len(told) < len(pairs):
-        first, second = pairs[len(told)]
-        row = []
-        for answer, behind in rows[first]:
-            for other_answer, other_behind in others[second]:
-                pair = (behind, other_behind)
-                if pair not in numbers:
-                    numbers[pair] = len(pairs)
-                    pairs.append(pair)
-                row.append((answer + other_answer, numbers[pair]))
-        if len(pairs) > 2000:
-            raise TooMany(2000)
-        told.append(row)
-    return told
+    """The rows of two machines beside one another."""
+    readings = list(range(len(others[0])))
+    parts = [[(answer, behind, number) for answer, behind in row for number in readings] for row in rows]
+    return _pair_rows(parts, others)
 
 
 def _row_rows(rows, others):
-    """The rows of two machines in a row, their pairs numbered as met."""
-    read = [[number_of(answer) for answer, _ in row] for row in rows]
+    """The rows of two machines in a row."""
+    return _pair_rows([[((), behind, number_of(answer)) for answer, behind in row] for row in rows], others)
+
+
+def _pair_rows(parts, others):
+    """The rows of two machines, their pairs numbered as met.
+
+    parts has for each standing of the first machine and each reading of the whole what the first machine gives to the
+    answer, its next standing, and the number of the reading of the second machine.
+    """
     numbers = {(0, 0): 0}
     pairs = [(0, 0)]
     told = []
     while len(told) < len(pairs):
         first, second = pairs[len(told)]
         row = []
-        for number, (_, behind) in zip(read[first], rows[first]):
+        for answer, behind, number in parts[first]:
             other_answer, other_behind = others[second][number]
             pair = (behind, other_behind)
             if pair not in numbers:
                 numbers[pair] = len(pairs)
                 pairs.append(pair)
-            row.append((other_answer, numbers[pair]))
+            row.append((answer + other_answer, numbers[pair]))
         if len(pairs) > 2000:
             raise TooMany(2000)
         told.append(row)
@@ -136,8 +130,9 @@ def machine_of(book):
     standings = [book.start()]
     rows = []
     while len(rows) < len(standings):
+        standing = standings[len(rows)]
         row = []
-        for answer, behind in book.step_each(standings[len(rows)]):
+        for answer, behind in book.step_each(standing):
             if behind not in numbers:
                 numbers[behind] = len(standings)
                 standings.append(behind)

@@ -1,6 +1,6 @@
 """Books of rungs."""
 
-from guardrungs.bits import case_rows, columns_of, is_order, is_whole, spread
+from guardrungs.bits import case_rows, is_order, is_whole, spread
 from guardrungs.books import Book, check_names
 from guardrungs.errors import BadBook, BadName, BadNumber
 from guardrungs.formulas import EDGES, JOINTS, is_formula, told_edges, worked
@@ -135,11 +135,6 @@ class Rungs(Book):
     def step(self, standing, reading):
         """The answer and the next standing."""
         return self._cycle(standing, self.checked(reading), 1)[0]
-
-    def step_each(self, standing):
-        """For each reading, in counting order, the answer and the next standing."""
-        cases = 1 << len(self.inputs)
-        return self._cycle(standing, columns_of(len(self.inputs)), (1 << cases) - 1)
 
     def _cycle(self, standing, columns, full):
         cycle = RungCycle(self, standing, columns, full)

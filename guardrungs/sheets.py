@@ -2,7 +2,7 @@
 
 from heapq import heapify, heappop, heappush
 
-from guardrungs.bits import case_rows, columns_of, is_whole, spread
+from guardrungs.bits import case_rows, is_whole, spread
 from guardrungs.books import Book, check_names
 from guardrungs.errors import BadBook
 from guardrungs.formulas import is_name
@@ -61,11 +61,6 @@ class Sheet(Book):
     def step(self, standing, reading):
         """The answer and the next standing."""
         return self._cycle(standing, self.checked(reading), 1)[0]
-
-    def step_each(self, standing):
-        """For each reading, in counting order, the answer and the next standing."""
-        cases = 1 << len(self.inputs)
-        return self._cycle(standing, columns_of(len(self.inputs)), (1 << cases) - 1)
 
     def wires_in(self, standing, reading):
         """The blocks' bits, in the blocks' order, in the cycle that begins here."""
@@ -207,9 +202,10 @@ def _ring_through(place, reads):
     left = [place]
     at = 0
     while at < len(left) and place not in behind:
-        for maker in reads[left[at]]:
+        reader = left[at]
+        for maker in reads[reader]:
             if maker not in behind:
-                behind[maker] = left[at]
+                behind[maker] = reader
                 left.append(maker)
         at += 1
     if place not in behind:
