@@ -53,7 +53,8 @@ class ChainCycle:
     def mark(self, top):
         """Set marks and ages; top is the greatest age. Each step that is marked in some case is returned."""
         marked = []
-        for step in list(self.old) + [step for step in self.given if step not in self.old]:
+        new = [step for step in self.given if step not in self.old]
+        for step in list(self.old) + new:
             self.bits[step] = self.stays(step) | self.given.get(step, 0)
             self.ages[step] = min(self.ages.get(step, 0) + 1, top)
             if self.bits[step] != 0:

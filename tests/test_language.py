@@ -220,6 +220,16 @@ class TestSubset(unittest.TestCase):
                 if isinstance(node, ast.Compare) and isinstance(node.ops[0], (ast.Is, ast.IsNot)):
                     self.assertIn(node.comparators[0].value, (None, True, False), where)
 
+    def test_targets(self):
+        for name, tree in self.each():
+            for node in ast.walk(tree):
+                if isinstance(node, ast.Attribute) and isinstance(node.ctx, ast.Store):
+                    self.assertIsInstance(node.value, ast.Name, f"{name}:{node.lineno}")
+                if isinstance(node, ast.Call) and isinstance(node.func, ast.Name):
+                    self.assertNotIn(node.func.id, ("type", "print", "map", "filter", "input", "open"))
+                if isinstance(node, ast.Raise):
+                    self.assertIsInstance(node.exc, ast.Call, f"{name}:{node.lineno}")
+
     def test_decorators(self):
         for name, tree in self.each():
             for node in ast.walk(tree):
