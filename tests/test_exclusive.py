@@ -67,6 +67,11 @@ class TestOverlap(Case):
         chain = of("a b c", [(("a",), ("name", "c"), ("c",)), (("a",), ("not", ("name", "a")), ("c",)), (("a", "b"), ONE, ("c",))])
         self.told((0, 2), overlap, chain)
 
+    def test_first_and_last_choice(self):
+        for formula in [("not", ("name", "i")), ("name", "i"), ("and", (("not", ("name", "i")), ("not", ("name", "j"))))]:
+            self.told((0, 1), overlap, of("a b", [(("a",), formula, ("b",))] * 2))
+            self.told(None, overlap, of("a b", [(("a",), formula, ("b",)), (("a",), ("not", formula), ("b",))]))
+
     def test_without_a_common_step(self):
         self.told(None, overlap, of("a b", [(("a",), ONE, ("b",)), (("b",), ONE, ("a",))]))
 

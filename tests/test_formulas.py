@@ -178,6 +178,13 @@ class TestTexts(Case):
             # Where more than the depth is wrong there is no such cause.
             self.assertIsNone(self.refused(BadText, {"line": 1}, formula_from, text + ")").__cause__)
 
+    def test_depth_of_bits_and_edges(self):
+        for text, formula in [("0", ("bit", 0)), ("1", ("bit", 1)), ("rise a", ("rise", "a")), ("fall a", ("fall", "a"))]:
+            self.told(nots(formula, 39), formula_from, "not " * 39 + text)
+            self.refused(BadText, {"line": 1}, formula_from, "not " * 40 + text)
+            self.told(("and", (A, nots(formula, 38))), formula_from, "(a and " + "not " * 38 + text + ")")
+            self.refused(BadText, {"line": 1}, formula_from, "(a and " + "not " * 39 + text + ")")
+
     def test_needless_brackets_have_no_depth(self):
         self.told(A, formula_from, "(" * 200 + "a" + ")" * 200)
         self.told(nots(A, 39), formula_from, "(not " * 39 + "( a )" + ")" * 39)

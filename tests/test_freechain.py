@@ -121,6 +121,8 @@ class TestFreeChain(Case):
             self.refused(BadLot, {"place": -1}, can_fire, chain, marks, None)
         for wrong in ["z", "a", "b", None, 0, ["c"], ("c",)]:
             self.refused(BadLot, {"place": 1}, can_fire, chain, ("b", wrong, "z"), None)
+        for wrong in ["z", "", None, 0, ["c"], ("c",)]:
+            self.refused(BadLot, {"place": 0}, can_fire, chain, (wrong, "z"), None)
         for lot in [None, "0", 0, {0: 1}]:
             self.refused(BadLot, {"place": -1}, can_fire, chain, ["a", "c"], lot)
         for wrong in NO_NUMBERS + [-1, 0, 1, 3]:
@@ -301,6 +303,11 @@ class TestCoverings(Case):
         pairs = [f"p{k} > q{k}" for k in range(4)]
         chain = of(" ".join(f"p{k} q{k}" for k in range(4)), " ".join(f"p{k}" for k in range(4)), *pairs)
         self.assertEqual(len(covering(chain)), 4)
+
+    def test_lots_of_one_step(self):
+        self.assertEqual(sorted(covering(of("a b", "b a"))), [("a",), ("b",)])
+        self.told((("a",),), covering, of("a", "a", "a > a"))
+        self.told(None, covering, of("a b", "a", "a > b", "b > a b"))
 
     def test_is_covering(self):
         chain = of("a b c d", "a c", "a c > b d", "b > a", "d > c")

@@ -246,6 +246,7 @@ class TestTogether(Case):
             wide * rise()
         self.assertEqual(raised.exception.limit, 10)
         self.assertEqual(len(rise() * Machine.of_rows(1, 0, [[((), 0)] * 2])), 2)
+        self.assertEqual(len(Machine.of_rows(10, 1, [[((0,), 0)] * 1024]) * rise()), 1)
         self.assertEqual(len(ring(40) * ring(49, 1)), 1960)
         with self.assertRaises(TooMany) as raised:
             ring(29) * ring(69, 1)
