@@ -48,6 +48,11 @@ def rows_of(many):
         raise BadNumber("many")
     if many > 10:
         raise TooMany(10)
+    return all_rows(many)
+
+
+def all_rows(many):
+    """All rows of so many bits in counting order, without a limit."""
     rows = [()]
     for _ in range(many):
         rows = [row + (bit,) for row in rows for bit in (0, 1)]

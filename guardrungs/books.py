@@ -50,9 +50,9 @@ class Book:
     def step_each(self, standing):
         """For each reading, in counting order, the answer and the next standing; for few inputs."""
         cases = 1 << len(self.inputs)
-        return self._cycle(standing, columns_of(len(self.inputs)), (1 << cases) - 1)
+        return self.step_cases(standing, columns_of(len(self.inputs)), (1 << cases) - 1)
 
-    def _cycle(self, standing, columns, full):
+    def step_cases(self, standing, columns, full):
         """For each case, the inputs' bits being told by columns, the answer and the next standing."""
         cases = full.bit_length()
         readings = case_rows([spread(column, cases) for column in columns], cases)

@@ -126,7 +126,7 @@ class Chain(Book):
 
     def step(self, standing, reading):
         """The answer and the next standing."""
-        return self._cycle(standing, self.checked(reading), 1)[0]
+        return self.step_cases(standing, self.checked(reading), 1)[0]
 
     def marks_in(self, standing):
         """The steps that are marked."""
@@ -160,7 +160,7 @@ class Chain(Book):
             seen.extend([cycle.bits[name] for name in edges])
         return cycle, seen
 
-    def _cycle(self, standing, columns, full):
+    def step_cases(self, standing, columns, full):
         """For each case the answer and the standing behind the cycle."""
         cycle, seen = self._fired(standing, columns, full)
         marked = cycle.mark(self._top)

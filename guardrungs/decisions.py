@@ -76,11 +76,11 @@ def choice(name, low, high):
     return ("or", (("and", (no, low)), ("and", (yes, high))))
 
 
-def decided(tree):
+def decided(decision):
     """The formula of a decision."""
-    if isinstance(tree, int):
-        return ("bit", tree)
-    name, low, high = tree
+    if isinstance(decision, int):
+        return ("bit", decision)
+    name, low, high = decision
     return choice(name, decided(low), decided(high))
 
 

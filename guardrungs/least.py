@@ -5,7 +5,7 @@ from guardrungs.errors import BadNumber, OtherShape
 from guardrungs.machines import Machine
 
 
-def _numbered(keys):
+def numbered(keys):
     """For each key its number, equal ones having one; numbered in the order of their first places."""
     numbers = {}
     told = []
@@ -16,9 +16,9 @@ def _numbered(keys):
     return told
 
 
-def _splits(rows):
+def splits(rows):
     """The classes of all standings ahead of the first round and behind each round that splits something."""
-    answers = _numbered([tuple([answer for answer, _ in row]) for row in rows])
+    answers = numbered([tuple([answer for answer, _ in row]) for row in rows])
     # Readings that lead everywhere to the same standings part nothing that one of them does not part.
     behinds = [[behind for _, behind in row] for row in rows]
     columns = list({column: True for column in zip(*behinds)})
@@ -28,11 +28,11 @@ def _splits(rows):
     while max(now) > max(rounds_told[-1]):
         rounds_told.append(now)
         keys = [(old, tuple([now[state] for state in behind])) for old, behind in zip(now, behinds)]
-        now = _numbered(keys)
+        now = numbered(keys)
     return rounds_told
 
 
-def _reached(rows):
+def reached_rows(rows):
     """The rows of the standings that are reached, numbered as met."""
     numbers = {0: 0}
     met = [0]
@@ -51,23 +51,23 @@ def _reached(rows):
 
 def least(machine):
     """The least machine."""
-    rows = _reached(machine.rows)
-    told = _splits(rows)[-1]
+    rows = reached_rows(machine.rows)
+    told = splits(rows)[-1]
     firsts = {}
     for standing, number in enumerate(told):
         firsts.setdefault(number, standing)
     merged = [[(answer, told[behind]) for answer, behind in rows[standing]] for standing in firsts.values()]
-    return Machine(machine.inputs, machine.outputs, _reached(merged))
+    return Machine(machine.inputs, machine.outputs, reached_rows(merged))
 
 
 def classes(machine):
     """For each standing the number of its class of alike standings."""
-    return tuple(_splits(machine.rows)[-1])
+    return tuple(splits(machine.rows)[-1])
 
 
 def rounds(machine):
     """The number of rounds that split something."""
-    return len(_splits(machine.rows)) - 1
+    return len(splits(machine.rows)) - 1
 
 
 def told_apart(machine, s, t):
@@ -76,17 +76,32 @@ def told_apart(machine, s, t):
         raise BadNumber("s")
     if not is_whole(t, 0, len(machine.rows) - 1):
         raise BadNumber("t")
-    splits = _splits(machine.rows)
-    left = len([told for told in splits if told[s] == told[t]])
-    if left == len(splits):
+    return telling_row(machine.rows, splits(machine.rows), s, t, len(machine.inputs))
+
+
+def telling_row(rows, parted, s, t, inputs):
+    """The least shortest row of readings that tells two standings of these rows apart; None if they are alike.
+
+    parted is what splits tells of the rows, inputs the number of inputs.
+    """
+    left = rounds_together(parted, s, t)
+    if left == len(parted):
         return None
     told = []
     while left > 0:
         left -= 1
-        number = _parting(machine.rows[s], machine.rows[t], splits[left], left)
-        told.append(row_at(number, len(machine.inputs)))
-        s, t = machine.rows[s][number][1], machine.rows[t][number][1]
+        number = _parting(rows[s], rows[t], parted[left], left)
+        told.append(row_at(number, inputs))
+        s, t = rows[s][number][1], rows[t][number][1]
     return tuple(told)
+
+
+def rounds_together(parted, s, t):
+    """In how many of the lots of classes that splits tells the two standings are in one class."""
+    many = 0
+    while many < len(parted) and parted[many][s] == parted[many][t]:
+        many += 1
+    return many
 
 
 def _parting(row, other, told, left):
@@ -103,4 +118,33 @@ def alike_machines(m, n):
     """True if the two machines answer all rows of readings alike."""
     if len(m.inputs) != len(n.inputs) or len(m.outputs) != len(n.outputs):
         raise OtherShape()
-    return least(m) == least(n)
+    return rows_alike(m.rows, n.rows)
+
+
+def rows_alike(rows, others):
+    """True if the first standings of the rows of two machines of one shape are alike."""
+    # Standings that must be alike if the first ones are get one root; the others' standings stand behind the rows'.
+    many = len(rows)
+    above = list(range(many + len(others)))
+    above[many] = 0
+    left = [(0, 0)]
+    while left:
+        s, t = left.pop()
+        if [answer for answer, _ in rows[s]] != [answer for answer, _ in others[t]]:
+            return False
+        pairs = {(behind, other): True for (_, behind), (_, other) in zip(rows[s], others[t])}
+        for behind, other in pairs:
+            root = _root(above, behind)
+            other_root = _root(above, many + other)
+            if root != other_root:
+                above[other_root] = root
+                left.append((behind, other))
+    return True
+
+
+def _root(above, place):
+    """The root of the place; ways to it are made shorter."""
+    while above[place] != place:
+        above[place] = above[above[place]]
+        place = above[place]
+    return place

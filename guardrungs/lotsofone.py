@@ -5,7 +5,7 @@ from guardrungs.errors import BadLot, BadNumber, TooMany
 from guardrungs.freechain import walked
 
 
-def _wrong_place(chain, lot):
+def wrong_place(chain, lot):
     """The first place at which no step stands or one that has been there, -1 for no list; None for a lot of steps."""
     if not is_listed(lot):
         return -1
@@ -18,7 +18,7 @@ def _wrong_place(chain, lot):
 
 
 def _check_lot(chain, lot):
-    place = _wrong_place(chain, lot)
+    place = wrong_place(chain, lot)
     if place is not None:
         raise BadLot(place)
 
@@ -28,12 +28,12 @@ def _check_place(chain, place):
         raise BadNumber("place")
 
 
-def _many_in(steps, lot):
+def many_in(steps, lot):
     return len([step for step in steps if step in lot])
 
 
 def _is_even(transition, lot):
-    return _many_in(transition[0], lot) == _many_in(transition[2], lot)
+    return many_in(transition[0], lot) == many_in(transition[2], lot)
 
 
 def _fires_ever(walk, place):
@@ -44,7 +44,7 @@ def is_lot_of_one(chain, lot):
     """True if just one step of the lot is ever marked, and none of them is doubled."""
     _check_lot(chain, lot)
     walk = walked(chain)
-    if _many_in(chain.marked, lot) != 1:
+    if many_in(chain.marked, lot) != 1:
         return False
     uneven = [place for place, transition in enumerate(chain.transitions) if not _is_even(transition, lot)]
     return not any([_fires_ever(walk, place) for place in uneven])
@@ -64,9 +64,9 @@ def fires_ever(chain, place):
 
 
 def _fits(chain, lot):
-    if _many_in(chain.marked, lot) != 1:
+    if many_in(chain.marked, lot) != 1:
         return False
-    return all([_many_in(part[0], lot) < 2 and _is_even(part, lot) for part in chain.transitions])
+    return all([many_in(part[0], lot) < 2 and _is_even(part, lot) for part in chain.transitions])
 
 
 def covering(chain):
@@ -97,7 +97,7 @@ def is_covering(chain, lots):
     if not is_listed(lots):
         raise BadLot(-1)
     for place, lot in enumerate(lots):
-        if _wrong_place(chain, lot) is not None:
+        if wrong_place(chain, lot) is not None:
             raise BadLot(place)
     covered = {step: True for lot in lots for step in lot}
     return len(covered) == len(chain.steps) and all([_fits(chain, lot) for lot in lots])

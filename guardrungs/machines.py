@@ -52,7 +52,7 @@ class Machine(Book):
     def __add__(self, other):
         if len(self.inputs) + len(other.inputs) > 10:
             raise TooMany(10)
-        inputs, outputs = _two_names(self.inputs, other.inputs), _two_names(self.outputs, other.outputs)
+        inputs, outputs = two_names(self.inputs, other.inputs), two_names(self.outputs, other.outputs)
         return Machine(inputs, outputs, _beside_rows(self.rows, other.rows))
 
     def __mul__(self, other):
@@ -60,7 +60,7 @@ class Machine(Book):
             raise OtherShape()
         if len(self.inputs) > 10:
             raise TooMany(10)
-        return Machine(_two_names(self.inputs, ()), _two_names((), other.outputs), _row_rows(self.rows, other.rows))
+        return Machine(two_names(self.inputs, ()), two_names((), other.outputs), _row_rows(self.rows, other.rows))
 
 
 def _told_rows(rows, many, many_outputs):
@@ -80,7 +80,7 @@ def _told_rows(rows, many, many_outputs):
     return tuple(told)
 
 
-def _two_names(names, others):
+def two_names(names, others):
     """The names of two machines that are put together."""
     return [f"a.{name}" for name in names] + [f"b.{name}" for name in others]
 
@@ -122,10 +122,15 @@ def _pair_rows(parts, others):
     return told
 
 
-def machine_of(book):
-    """The book's machine."""
-    if len(book.inputs) > 10:
-        raise TooMany(10)
+def check_inputs(*books):
+    """Raise TooMany if one of the books has more inputs than a book whose machine is made may have."""
+    for book in books:
+        if len(book.inputs) > 10:
+            raise TooMany(10)
+
+
+def book_rows(book):
+    """The rows of the book's machine, as lists."""
     numbers = {book.start(): 0}
     standings = [book.start()]
     rows = []
@@ -140,4 +145,10 @@ def machine_of(book):
         if len(standings) > 2000:
             raise TooMany(2000)
         rows.append(row)
-    return Machine(book.inputs, book.outputs, rows)
+    return rows
+
+
+def machine_of(book):
+    """The book's machine."""
+    check_inputs(book)
+    return Machine(book.inputs, book.outputs, book_rows(book))

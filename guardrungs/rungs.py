@@ -134,9 +134,9 @@ class Rungs(Book):
 
     def step(self, standing, reading):
         """The answer and the next standing."""
-        return self._cycle(standing, self.checked(reading), 1)[0]
+        return self.step_cases(standing, self.checked(reading), 1)[0]
 
-    def _cycle(self, standing, columns, full):
+    def step_cases(self, standing, columns, full):
         cycle = RungCycle(self, standing, columns, full)
         seen = []
         for rung, edges in zip(self.rungs, self._edges):

@@ -60,14 +60,14 @@ class Sheet(Book):
 
     def step(self, standing, reading):
         """The answer and the next standing."""
-        return self._cycle(standing, self.checked(reading), 1)[0]
+        return self.step_cases(standing, self.checked(reading), 1)[0]
 
     def wires_in(self, standing, reading):
         """The blocks' bits, in the blocks' order, in the cycle that begins here."""
         bits, _ = self._worked(standing, self.checked(reading), 1)
         return tuple([bits[wire] for wire, _, _, _ in self.blocks])
 
-    def _cycle(self, standing, columns, full):
+    def step_cases(self, standing, columns, full):
         """For each case the answer and the standing behind the cycle."""
         bits, counts = self._worked(standing, columns, full)
         cases = full.bit_length()

@@ -34,6 +34,33 @@ FUNCTIONS = {
     "machines": "machine_of(book)",
     "least": "least(machine) classes(machine) rounds(machine) told_apart(machine,s,t) alike_machines(m,n)",
     "formsof": "rungs_of(machine) sheet_of(machine) chain_of(machine)",
+    "windows": "timer_bits(kind,number,bits) counter_bits(number,bits,clears) timer_machine(kind,number) "
+               "counter_machine(number) delayed(bits,d)",
+    "timerrows": "check_timer_row(row) row_bits(row,bits,*,delay=0) normal(row,*,delay=0) one_rule(row,delay) "
+                 "rules_at(row) use(row,delay,place) alike_rows(row,delay,other,other_delay) "
+                 "told_by(row,delay,other,other_delay) trims(row) signed_path(row)",
+    "scaling": "scaled(book,k) held(readings,k) held_answers(book,k) settles(machine)",
+    "timercells": "timer_sheet(kind,number) untimed(sheet)",
+    "alike": "alike(book,other) unlike_row(book,other) pairs_met(book,other)",
+    "hangs": "hangs(book,output,place) two_rows(book,output,place) hanging(book)",
+    "needless": "left_out(book,part) needless_parts(book) trimmed(book,order=())",
+    "forgets": "forgetting(book) remembered(book,k) healing(book) unhealed(book,k) recent(book,readings,k)",
+    "moves": "layers(plant,standing,row,many) falling_moves(plant,standing,row,least,most) "
+             "rows_of_changes(plant,standing,row,many) depth(plant,standing,row) depth_of(plant) "
+             "meets(plant,standing,row,least,most,never)",
+    "wishes": "fits(patterns,standing) joined_wish(wish,other) moved(wish,many)",
+    "planttexts": "plant_text(plant) wish_text(wish) plant_from(text) wish_from(text)",
+    "plantchains": "chain_of_plant(plant) plant_of_chain(chain,lots)",
+    "known": "after(arena,lot,row,reading) readings_after(arena,lot,row) known(arena,readings,rows) "
+             "lots_reached(arena) single(arena)",
+    "loops": "judge(game,book) judge_asked(game,book) is_guard(game,book) is_asked_guard(game,book) "
+             "walk(arena,book,picks,*,asks=())",
+    "tables": "broken(game,lots) is_table(game,lots)",
+    "freest": "lets(table,readings,rows) refused_at(table,readings,rows)",
+    "drums": "drum_of(table) is_drum(table,rows)",
+    "plays": "play_of(game) is_play(game,play) reason_wrong(game,play) beaten(game,play,book) lasts(game,cycles)",
+    "around": "unlike_around(arena,book,other) needless_around(arena,book) trimmed_around(arena,book,order=())",
+    "freestplain": "widest_row(table,lot) pair_open(table)",
 }
 
 CLASSES = {
@@ -42,6 +69,16 @@ CLASSES = {
     "sheets": {"Sheet": "__init__ kept start step wires_in"},
     "chains": {"Chain": "__init__ start step marks_in fired_in in_order"},
     "machines": {"Machine": "__init__ of_rows start step __call__ __len__ __eq__ __add__ __mul__"},
+    "joining": {"Beside": "__init__ start step", "InRow": "__init__ start step", "Bent": "__init__ start step"},
+    "hangs": {"Stuck": "__init__ start step"},
+    "plants": {"Plant": "__init__ possible after_change level_row reading_of free_changes joined"},
+    "wishes": {"Wish": "__init__"},
+    "arenas": {"Arena": "__init__ __len__ moves readings_at overdue calm sound plant_standing",
+               "Game": "__init__ in_never bad ends_at is_end"},
+    "tables": {"Table": "__init__ guards __contains__ __getitem__ __len__ __iter__ let_at holding round_of path"},
+    "freest": {"Freest": "__init__ start step lot_in row_in"},
+    "drums": {"Drummed": "__init__ start step"},
+    "freestplain": {"Widest": "__init__ start step"},
 }
 
 CREATED = {
@@ -49,6 +86,18 @@ CREATED = {
     ("sheets", "Sheet"): "(self, inputs, blocks, outputs)",
     ("chains", "Chain"): "(self, inputs, outputs, steps, marked, transitions, actions, *, cells=())",
     ("machines", "Machine"): "(self, inputs, outputs, rows)",
+    ("joining", "Beside"): "(self, first, second)",
+    ("joining", "InRow"): "(self, first, second)",
+    ("joining", "Bent"): "(self, book, wires)",
+    ("hangs", "Stuck"): "(self, book, place, bit)",
+    ("plants", "Plant"): "(self, machines, outputs, inputs, *, drivers=())",
+    ("wishes", "Wish"): "(self, never, ends)",
+    ("arenas", "Arena"): "(self, plant, least, most, *, waits=(), faults=(), many=0)",
+    ("arenas", "Game"): "(self, arena, wish)",
+    ("tables", "Table"): "(self, game)",
+    ("freest", "Freest"): "(self, table)",
+    ("drums", "Drummed"): "(self, table, rows, *, begin=0)",
+    ("freestplain", "Widest"): "(self, table)",
 }
 
 
@@ -66,13 +115,10 @@ class TestInterface(unittest.TestCase):
         for name, told in FUNCTIONS.items():
             defined = {node.name for node in tree(name).body if isinstance(node, ast.FunctionDef)}
             for one in told.split():
-                word, args = one[:-1].split("(")
+                word, args = one[:-1].split("(", 1)
                 self.assertIn(word, defined, name)
-                given = inspect.signature(getattr(module(name), word)).parameters.values()
-                must = [part for part in given if part.default is part.empty]
-                self.assertEqual(len(must), len(args.split(",")), one)
-                if "*" in args:
-                    self.assertEqual(must[0].kind, must[0].VAR_POSITIONAL)
+                told_args = str(inspect.signature(getattr(module(name), word)))
+                self.assertEqual(told_args.replace(" ", ""), f"({args})", one)
 
     def test_classes(self):
         for name, classes in CLASSES.items():
@@ -87,7 +133,23 @@ class TestInterface(unittest.TestCase):
         machine = module("machines").Machine
         self.assertIsInstance(inspect.getattr_static(machine, "of_rows"), classmethod)
         self.assertEqual(list(inspect.signature(machine.of_rows).parameters), ["many_inputs", "many_outputs", "rows"])
-        self.assertIsInstance(inspect.getattr_static(module("sheets").Sheet, "kept"), property)
+        for name, word, told in (("sheets", "Sheet", "kept"), ("plants", "Plant", "free_changes"),
+                                 ("tables", "Table", "guards")):
+            self.assertIsInstance(inspect.getattr_static(getattr(module(name), word), told), property)
+
+    def test_methods_take_what_is_told(self):
+        told = {("plants", "Plant"): "possible(self,standing,row) after_change(self,standing,change) "
+                                     "level_row(self,standing) reading_of(self,standing,changes) joined(self,other)",
+                ("arenas", "Arena"): "moves(self,p,y) readings_at(self,p,y) overdue(self,p,y) calm(self,p,q) "
+                                     "sound(self,p) plant_standing(self,p)",
+                ("arenas", "Game"): "in_never(self,p) bad(self,p,y) ends_at(self,p) is_end(self,p,j)",
+                ("tables", "Table"): "let_at(self,lot) holding(self,lot) round_of(self,lot) path(self,lot,p,j)",
+                ("freest", "Freest"): "lot_in(self,standing) row_in(self,standing)"}
+        for (name, word), methods in told.items():
+            for one in methods.split():
+                method, args = one[:-1].split("(", 1)
+                given = str(inspect.signature(getattr(getattr(module(name), word), method)))
+                self.assertEqual(given.replace(" ", ""), f"({args})", one)
 
     def test_kinds(self):
         self.assertEqual(module("ticks").KINDS, ("on", "off", "pulse"))

@@ -1,0 +1,185 @@
+"""Drums: rows of asks that, asked round and round, make the freest guard a good plain one."""
+
+from guardrungs.bits import is_whole
+from guardrungs.books import Book
+from guardrungs.errors import BadNumber, TooMany
+from guardrungs.freest import Freest, check_guards, numbered_names
+from guardrungs.known import check_rows
+
+
+class Beat:
+    """The pairs of a lot of the table and a standing of it, and how calm runs of the freest guard lead on.
+
+    A lot of pairs is an integer with ones at the places of their numbers.
+    """
+
+    def __init__(self, table):
+        self.table = table
+        self.ends = table.game.end_places
+        self.pairs = [(lot, p) for lot in table.lots for p in lot]
+        self.numbers = {pair: number for number, pair in enumerate(self.pairs)}
+        # For each pair its calm steps under the rows that hold, by the choices of these rows.
+        self.steps = []
+        for lot, p in self.pairs:
+            told = {}
+            for row, _, q, behind in table.calm_steps(lot, p):
+                told.setdefault(self.choice_of(row), []).append((row, self.numbers[(behind, q)]))
+            self.steps.append(told)
+        self.images = {}
+
+    def choice_of(self, row):
+        """The choice of this row."""
+        arena = self.table.game.arena
+        return arena.made.choices[arena.checked_row(row)]
+
+    def behind(self, number, row):
+        """The pairs to which a calm move leads from this one if the row is asked."""
+        lot, _ = self.pairs[number]
+        rows = self.table.told_rows[lot]
+        written = row if row in rows else rows[0]
+        return [behind for _, behind in self.steps[number][self.choice_of(written)]]
+
+    def masks_behind(self, row):
+        """For each pair the mask of the pairs behind it if the row is asked."""
+        if row not in self.images:
+            told = []
+            for number in range(len(self.pairs)):
+                mask = 0
+                for behind in self.behind(number, row):
+                    mask = mask | (1 << behind)
+                told.append(mask)
+            self.images[row] = told
+        return self.images[row]
+
+    def in_end(self, end):
+        """The mask of the pairs that are in the end."""
+        mask = 0
+        for number, (_, p) in enumerate(self.pairs):
+            if self.ends[end][p]:
+                mask = mask | (1 << number)
+        return mask
+
+    def distances_to(self, end):
+        """For each pair how many calm steps, under rows that hold, a shortest path to the end has."""
+        before = [[] for _ in self.pairs]
+        for number, told in enumerate(self.steps):
+            for steps in told.values():
+                for _, behind in steps:
+                    before[behind].append(number)
+        left = [number for number, (_, p) in enumerate(self.pairs) if self.ends[end][p]]
+        told = {number: 0 for number in left}
+        at = 0
+        while at < len(left):
+            for number in before[left[at]]:
+                if number not in told:
+                    told[number] = told[left[at]] + 1
+                    left.append(number)
+            at += 1
+        return told
+
+    def path_rows(self, number, distances):
+        """The rows of a shortest path from the pair to where the distance is 0."""
+        rows = []
+        while distances[number] > 0:
+            steps = [step for told in self.steps[number].values() for step in told]
+            row, number = [step for step in steps if distances[step[1]] < distances[number]][0]
+            rows.append(row)
+        return rows
+
+
+def _ones(mask):
+    """The places of the ones of an integer."""
+    return [place for place in range(mask.bit_length()) if (mask >> place) & 1 == 1]
+
+
+class Roll:
+    """A row of asks in the making, and where calm runs can be behind it from each pair."""
+
+    def __init__(self, beat):
+        self.beat = beat
+        self.rows = []
+        self.now = [1 << number for number in range(len(beat.pairs))]
+        self.ends = [beat.in_end(end) for end in range(len(beat.ends))]
+        self.distances = [beat.distances_to(end) for end in range(len(beat.ends))]
+        everywhere = (1 << len(beat.pairs)) - 1
+        self.lacking = [_ones(everywhere ^ mask) for mask in self.ends]
+
+    def ask(self, row):
+        """Add a row."""
+        masks = self.beat.masks_behind(row)
+        images = {}
+        for mask in self.now:
+            if mask not in images:
+                image = 0
+                for number in _ones(mask):
+                    image = image | masks[number]
+                images[mask] = image
+        self.now = [images[mask] for mask in self.now]
+        self.rows.append(row)
+        for end, mask in enumerate(self.ends):
+            self.lacking[end] = [number for number in self.lacking[end] if self.now[number] & mask == 0]
+
+    def bring(self, number, end):
+        """Add rows by which a run that began at this pair comes to the end."""
+        distances = self.distances[end]
+        nearest = min([(distances[other], other) for other in _ones(self.now[number])])[1]
+        for row in self.beat.path_rows(nearest, distances):
+            self.ask(row)
+
+
+def drum_of(table):
+    """A drum."""
+    check_guards(table)
+    if sum([len(lot) for lot in table.lots]) > 400:
+        raise TooMany(400)
+    roll = Roll(Beat(table))
+    for end in range(len(roll.ends)):
+        while roll.lacking[end]:
+            roll.bring(roll.lacking[end][0], end)
+    return tuple(roll.rows) if roll.rows else (table.game.arena.rows[0],)
+
+
+def is_drum(table, rows):
+    """True if these rows are a drum."""
+    told = check_rows(rows, table.game.arena.plant.outputs)
+    if not told or not table.guards:
+        return False
+    beat = Beat(table)
+    for end in range(len(beat.ends)):
+        there = beat.in_end(end)
+        mask = there
+        for row in reversed(told):
+            ahead = there
+            for number, image in enumerate(beat.masks_behind(row)):
+                if image & mask != 0:
+                    ahead = ahead | (1 << number)
+            mask = ahead
+        if mask != (1 << len(beat.pairs)) - 1:
+            return False
+    return True
+
+
+class Drummed(Book):
+    """The freest guard that is asked rows round and round; a plain guard."""
+
+    def __init__(self, table, rows, *, begin=0):
+        check_guards(table)
+        self.rows = check_rows(rows, table.game.arena.plant.outputs)
+        if not self.rows:
+            raise BadNumber("rows")
+        if not is_whole(begin, 0, len(self.rows) - 1):
+            raise BadNumber("begin")
+        self.begin = begin
+        self.freest = Freest(table)
+        self.inputs = numbered_names("x", len(table.game.arena.plant.inputs))
+        self.outputs = self.freest.outputs
+
+    def start(self):
+        """The freest guard's start, and the place of the first ask."""
+        return self.freest.start() + (self.begin,)
+
+    def step(self, standing, reading):
+        """The answer and the next standing."""
+        row = self.checked(reading)
+        answer, behind = self.freest.step(standing[:2], row + self.rows[standing[2]])
+        return answer, behind + ((standing[2] + 1) % len(self.rows),)
