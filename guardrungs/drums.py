@@ -1,10 +1,11 @@
 """Drums: rows of asks that, asked round and round, make the freest guard a good plain one."""
 
-from guardrungs.bits import is_whole
+from guardrungs.bits import is_whole, number_of
 from guardrungs.books import Book
 from guardrungs.errors import BadNumber, TooMany
 from guardrungs.freest import Freest, check_guards, numbered_names
-from guardrungs.known import check_rows
+from guardrungs.known import check_rows, mask_of
+from guardrungs.tables import Field
 
 
 class Beat:
@@ -139,22 +140,60 @@ def drum_of(table):
     return tuple(roll.rows) if roll.rows else (table.game.arena.rows[0],)
 
 
+class Backwards:
+    """For each lot of the table, as a mask, the standings from which calm runs of the freest guard come to an end.
+
+    The guard is asked rows; the last one is looked at first.
+    """
+
+    def __init__(self, table, end):
+        arena = table.game.arena
+        self.table = table
+        self.choices = arena.made.choices
+        self.field = Field(table.game, table.reached_lots, table.steps)
+        self.numbers = [table.reached_numbers[lot] for lot in table.lots]
+        places = table.game.end_places[end]
+        self.there = {number: mask_of([p for p in self.field.lots[number] if places[p]]) for number in self.numbers}
+        self.now = dict(self.there)
+        self.told_begins = {}
+
+    def choice_at(self, number, row):
+        """The choice of the row that the guard writes at this lot if it is asked this row."""
+        rows = self.table.told_rows[self.field.lots[number]]
+        return self.choices[number_of(row if row in rows else rows[0])]
+
+    def begins(self, choice, reading, mask):
+        """As the field tells it; what was told once is kept."""
+        key = (choice, reading, mask)
+        if key not in self.told_begins:
+            self.told_begins[key] = self.field.begins(choice, reading, mask)
+        return self.told_begins[key]
+
+    def ask_ahead(self, row):
+        """Let this row be asked ahead of all others."""
+        ahead = dict(self.there)
+        for number in self.numbers:
+            choice = self.choice_at(number, row)
+            for reading, behind in self.field.steps[number][choice]:
+                begins = self.begins(choice, reading, self.now[behind])
+                ahead[number] = ahead[number] | (begins & self.field.masks[number])
+        self.now = ahead
+
+    def is_everywhere(self):
+        """True if the end is reached from each standing of each lot."""
+        return all([self.now[number] == self.field.masks[number] for number in self.numbers])
+
+
 def is_drum(table, rows):
     """True if these rows are a drum."""
     told = check_rows(rows, table.game.arena.plant.outputs)
     if not told or not table.guards:
         return False
-    beat = Beat(table)
-    for end in range(len(beat.ends)):
-        there = beat.in_end(end)
-        mask = there
+    for end in range(len(table.game.wish.ends)):
+        backwards = Backwards(table, end)
         for row in reversed(told):
-            ahead = there
-            for number, image in enumerate(beat.masks_behind(row)):
-                if image & mask != 0:
-                    ahead = ahead | (1 << number)
-            mask = ahead
-        if mask != (1 << len(beat.pairs)) - 1:
+            backwards.ask_ahead(row)
+        if not backwards.is_everywhere():
             return False
     return True
 

@@ -47,7 +47,7 @@ class Around:
         return self.worked[(reading, standing)]
 
     def told_steps(self, reading, standing):
-        """For each ask what is told of it in runs, the answer alone or the ask and the answer, and the next standing."""
+        """For each ask what runs tell of it, the answer alone or the ask and the answer, and the next standing."""
         told = []
         for ask, (answer, behind) in zip(self.asks, self.worked_steps(reading, standing)):
             told.append(((ask, answer) if self.is_asked else (answer,), behind))

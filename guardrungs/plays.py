@@ -166,6 +166,7 @@ class Beating:
         self.checking = checking
         self.entries = {entry[0]: (place, entry[1], entry[2]) for place, entry in enumerate(play)}
         self.traces = [None]
+        self.told_against = {}
 
     def found(self):
         """The word, a run and what is told behind it."""
@@ -187,6 +188,13 @@ class Beating:
 
     def against(self, place, lot, answer):
         """What speaks against the answer by the entries ahead of this place; None if nothing does."""
+        key = (place, self.checking.numbers[lot], answer)
+        if key not in self.told_against:
+            self.told_against[key] = self.found_against(place, lot, answer)
+        return self.told_against[key]
+
+    def found_against(self, place, lot, answer):
+        """The same, worked out."""
         row = self.game.arena.checked_row(answer)
         for p in lot:
             if self.game.bad_at(p, row):

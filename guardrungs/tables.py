@@ -2,7 +2,7 @@
 
 from guardrungs.bits import is_listed, is_whole
 from guardrungs.errors import BadLot, BadNumber
-from guardrungs.known import Reached, Spread, check_lot, mask_of
+from guardrungs.known import Reached, Spread, check_lot, lot_of, mask_of
 
 
 class Field:
@@ -50,11 +50,15 @@ class Field:
             lost = self.lost[other]
             lost[choice] += 1
 
-    def begins(self, choice, reading, q):
-        """The mask of the standings from which this is a calm move."""
+    def begins(self, choice, reading, mask):
+        """The mask of the standings from which a calm move with this reading leads to a standing of the mask."""
         if self.calm_before is None:
             self.calm_before = self._calm_before()
-        return self.calm_before[choice].get((reading, q), 0)
+        before = self.calm_before[choice]
+        told = 0
+        for q in lot_of(mask):
+            told = told | before.get((reading, q), 0)
+        return told
 
     def _calm_before(self):
         """For each choice a dict from moves to the standings from which they are calm."""
@@ -72,23 +76,25 @@ class Field:
 
     def reach(self, end):
         """For each lot left the mask of its standings from which a path leads to the end; 0 for others."""
-        told = [0] * len(self.lots)
         places = self.game.end_places[end]
-        fresh = []
-        for number, lot in enumerate(self.lots):
-            if self.left[number]:
-                there = [p for p in lot if places[p]]
-                told[number] = mask_of(there)
-                fresh.extend([(number, p) for p in there])
-        while fresh:
-            number, q = fresh.pop()
+        told = []
+        for lot, is_left in zip(self.lots, self.left):
+            told.append(mask_of([p for p in lot if places[p]]) if is_left else 0)
+        fresh = list(told)
+        left = [number for number, mask in enumerate(fresh) if mask != 0]
+        while left:
+            number = left.pop()
+            now = fresh[number]
+            fresh[number] = 0
             for other, choice, reading in self.ahead[number]:
-                if self.left[other] and self.lost[other][choice] == 0:
-                    new = self.begins(choice, reading, q) & self.masks[other]
-                    new = new & (new ^ told[other])
+                lacking = self.masks[other] ^ told[other]
+                if lacking != 0 and self.left[other] and self.lost[other][choice] == 0:
+                    new = self.begins(choice, reading, now) & lacking
                     if new != 0:
                         told[other] = told[other] | new
-                        fresh.extend([(other, p) for p in self.lots[other] if (new >> p) & 1 == 1])
+                        if fresh[other] == 0:
+                            left.append(other)
+                        fresh[other] = fresh[other] | new
         return told
 
     def without_end(self):

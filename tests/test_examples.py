@@ -1,4 +1,4 @@
-"""The examples of the document's stages 1 to 5, as they stand there."""
+"""The examples of the document's stages 1 to 9, as they stand there."""
 
 import doctest
 import unittest
@@ -96,13 +96,116 @@ EXAMPLES = r"""
 >>> rise = Machine.of_rows(1, 1, ((((0,), 0), ((1,), 1)), (((0,), 0), ((0,), 1))))
 >>> (sheet_of(rise).kept, least(machine_of(chain_of(rise))) == rise, rungs_of(rise).run([(1,), (1,)]))
 (1, True, ((1,), (0,)))
+
+>>> from guardrungs.windows import timer_bits
+>>> (timer_bits("on", 2, (1, 1, 1, 0, 1)), timer_bits("off", 2, (1, 0, 0, 0)), timer_bits("pulse", 2, (1, 0, 1, 1, 0, 1)))
+((0, 0, 1, 0, 0), (1, 1, 1, 0), (1, 1, 1, 1, 0, 1))
+
+>>> from guardrungs.timerrows import normal, one_rule, rules_at
+>>> row = (("on", 2), ("on", 0), ("off", 1), ("on", 4))
+>>> (rules_at(row), one_rule(row, 0), normal(row))
+(((0, 'added'), (1, 'nothing')), ((('on', 2), ('off', 1), ('on', 4)), 0, 'added'), ((('on', 5),), 1))
+
+>>> from guardrungs.rungs import Rungs
+>>> from guardrungs.machines import machine_of
+>>> from guardrungs.scaling import held_answers, settles
+>>> book = Rungs(("i",), ("x",), (), ((("rise", "i"), (("put", "x"),)),))
+>>> (held_answers(book, 2), settles(machine_of(book)))
+(((1,),), False)
+
+>>> from guardrungs.alike import pairs_met, unlike_row
+>>> from guardrungs.rungs import Rungs
+>>> wire = Rungs(("i",), ("x",), (), ((("name", "i"), (("put", "x"),)),))
+>>> edge = Rungs(("i",), ("x",), (), ((("rise", "i"), (("put", "x"),)),))
+>>> (unlike_row(wire, edge), pairs_met(wire, edge), pairs_met(wire, wire))
+(((1,), (1,)), None, 2)
+
+>>> from guardrungs.hangs import hanging, two_rows
+>>> from guardrungs.rungs import Rungs
+>>> book = Rungs(("a", "b"), ("x", "y"), (), ((("name", "x"), (("put", "y"),)), (("name", "a"), (("put", "x"),))))
+>>> (hanging(book), len(two_rows(book, 1, 0)[0]), two_rows(book, 0, 1))
+(((0,), (0,)), 2, None)
+
+>>> from guardrungs.needless import needless_parts, trimmed
+>>> from guardrungs.rungs import Rungs
+>>> both = ("and", (("name", "o"), ("name", "c")))
+>>> book = Rungs(("x",), ("o",), ("c",), ((("name", "x"), (("put", "o"),)), (("bit", 1), (("put", "c"),)), (both, (("put", "o"),))))
+>>> (needless_parts(book), trimmed(book).rungs)
+((2,), ((('name', 'x'), (('put', 'o'),)),))
+
+>>> from guardrungs.forgets import forgetting, healing, recent
+>>> from guardrungs.rungs import Rungs
+>>> edge = Rungs(("i",), ("x",), (), ((("rise", "i"), (("put", "x"),)),))
+>>> clock = Rungs((), ("x",), (), ((("not", ("name", "x")), (("put", "x"),)),))
+>>> rows = [[0], [1], [1]]
+>>> (forgetting(edge), healing(edge), forgetting(clock), healing(clock), recent(edge, rows, 0), recent(edge, rows, 1))
+(1, 1, None, 0, None, (0,))
+
+>>> from guardrungs.moves import falling_moves
+>>> from guardrungs.plants import Plant
+>>> plant = Plant(((2, ((0, "go", 1), (1, "back", 0))),), 1, (("level", 0, (1,)), ("mark", ("back",))), drivers=(("go", 0, 1),))
+>>> (falling_moves(plant, (0,), (1,), 0, 2), falling_moves(plant, (0,), (0,), 1, 1))
+((((0, 0), (0,)), ((0, 1), (0,)), ((1, 0), (1,))), (((0, 0), (0,)),))
+
+>>> from guardrungs.arenas import Arena
+>>> from guardrungs.plants import Plant
+>>> plant = Plant(((2, ((0, "up", 1), (1, "down", 0))),), 0, (("level", 0, (1,)),))
+>>> arena = Arena(plant, 1, 1, faults=((0, "stuck0"),), many=1)
+>>> (arena.moves(0, ()), arena.standings)
+((((0,), 1), ((1,), 2)), (((0,), (), ('',), ()), ((1,), (), ('stuck0',), ()), ((1,), (), ('',), ()), ((0,), (), ('stuck0',), ())))
+
+>>> from guardrungs.chaintexts import chain_text
+>>> from guardrungs.plantchains import chain_of_plant
+>>> from guardrungs.planttexts import plant_from
+>>> chain_text(chain_of_plant(plant_from("plant\nmachine 2\n0 go 1\n1 back 0\noutputs 1\ndriver go 0 1")))
+'chain\ninputs o0 c0 c1\noutputs\ncells\nsteps m0.s0 m0.s1\nmarked m0.s0\nfrom m0.s0 -> m0.s1 : (c0 and o0)\nfrom m0.s1 -> m0.s0 : c1'
+
+>>> from guardrungs.arenas import Arena, Game
+>>> from guardrungs.freest import Freest, refused_at
+>>> from guardrungs.freestplain import Widest, pair_open
+>>> from guardrungs.plants import Plant
+>>> from guardrungs.tables import Table
+>>> from guardrungs.wishes import Wish
+>>> arrows = ((0, "aa", 1), (0, "bb", 2), (1, "bb", 3), (2, "aa", 3))
+>>> levels = (("level", 0, (1,)), ("level", 0, (2,)), ("level", 0, (3,)))
+>>> plant = Plant(((4, arrows),), 2, levels, drivers=(("aa", 0, 1), ("bb", 1, 1)))
+>>> one = Table(Game(Arena(plant, 0, 1), Wish((((0, 3),),), ())))
+>>> two = Table(Game(Arena(plant, 0, 2), Wish((((0, 3),),), ())))
+>>> told = (two[(0,)], pair_open(two), Widest(one).run([(0, 0, 0), (1, 0, 0), (1, 0, 0)]))
+>>> asked = Freest(two).run([(0, 0, 0, 1, 1), (0, 0, 0, 0, 1), (0, 1, 0, 1, 1)])
+>>> (told, asked, refused_at(two, [(0, 0, 0), (1, 0, 0)], [(1, 0), (0, 1)]))
+((((0, 0), (0, 1), (1, 0)), ((0,), (0,)), ((1, 1), (0, 0), (0, 0))), ((0, 0), (0, 1), (0, 0)), 1)
+
+>>> from guardrungs.arenas import Arena, Game
+>>> from guardrungs.drums import Drummed, is_drum
+>>> from guardrungs.plants import Plant
+>>> from guardrungs.tables import Table
+>>> from guardrungs.wishes import Wish
+>>> plant = Plant(((2, ((0, "a", 1), (1, "b", 0))),), 1, (("level", 0, (1,)),), drivers=(("a", 0, 1),))
+>>> table = Table(Game(Arena(plant, 0, 1), Wish((), ((((0, 1),),),))))
+>>> book = Drummed(table, [(0,), (1,)], begin=1)
+>>> (table.lots, is_drum(table, [(1,)]), is_drum(table, [(0,)]), book.run([(0,), (1,), (0,), (0,)]))
+(((0,), (1,)), True, False, ((1,), (0,), (1,), (0,)))
+
+>>> from guardrungs.arenas import Arena, Game
+>>> from guardrungs.loops import judge
+>>> from guardrungs.machines import Machine
+>>> from guardrungs.plants import Plant
+>>> from guardrungs.plays import is_play, lasts, reason_wrong
+>>> from guardrungs.wishes import Wish
+>>> plant = Plant(((3, ((0, "up", 1), (0, "off", 2))),), 1, (), drivers=(("up", 0, 1), ("off", 0, 0)))
+>>> game = Game(Arena(plant, 0, 1), Wish((((0, 1),), ((0, 2),)), ()))
+>>> play = (((0,), "rows", (("bad", 0), ("bad", 0))),)
+>>> book = Machine((), ("y",), ((((1,), 0),),))
+>>> (is_play(game, play), reason_wrong(game, ()), lasts(game, 0), lasts(game, 1), judge(game, book))
+(True, 0, True, False, ('bad', (), (1,)))
 """
 
 
 class TestExamples(unittest.TestCase):
     def test_examples(self):
         test = doctest.DocTestParser().get_doctest(EXAMPLES, {}, "examples", None, 0)
-        self.assertGreater(len(test.examples), 50)
+        self.assertGreater(len(test.examples), 120)
         told = []
         results = doctest.DocTestRunner(verbose=False).run(test, out=told.append)
         self.assertEqual(results.failed, 0, "".join(told))
