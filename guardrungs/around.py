@@ -57,7 +57,7 @@ class Both:
         while self.before[place] is not None:
             place, step = self.before[place]
             steps.append(step)
-        return tuple(list(reversed(steps)))
+        return tuple(reversed(list(steps)))
 
 
 def unlike_around(arena, book, other):

@@ -191,7 +191,7 @@ def is_drum(table, rows):
         return False
     for end in range(len(table.game.wish.ends)):
         backwards = Backwards(table, end)
-        for row in reversed(told):
+        for row in reversed(list(told)):
             backwards.ask_ahead(row)
         if not backwards.is_everywhere():
             return False

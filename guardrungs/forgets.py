@@ -161,10 +161,10 @@ def unhealed(book, k):
 def _row_back(memory, levels, standing):
     """The row of readings that leads to this standing of the last level."""
     told = []
-    for level in reversed(levels[1:]):
+    for level in reversed(list(levels[1:])):
         standing, number = level[standing]
         told.append(row_at(number, memory.inputs))
-    return tuple(list(reversed(told)))
+    return tuple(reversed(list(told)))
 
 
 def recent(book, readings, k):

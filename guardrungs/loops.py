@@ -88,7 +88,7 @@ class Around:
         while self.before[number] is not None:
             number, step = self.before[number]
             steps.append(step)
-        return tuple(list(reversed(steps)))
+        return tuple(reversed(list(steps)))
 
     def leading_to(self, ends):
         """The numbers of the places, as keys, from which calm moves lead to a standing of this lot of places."""

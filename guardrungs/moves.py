@@ -33,7 +33,7 @@ class Ground:
     def _marks_of(self, change):
         """The places, in the numbers of marks, that the change sets."""
         told = [change in self.plant.inputs[place][1] for place in self.marked]
-        return [place for place, is_set in enumerate(reversed(told)) if is_set]
+        return [place for place, is_set in enumerate(reversed(list(told))) if is_set]
 
     def arrows_of(self, number):
         """Pairs of a change and the number of the standing behind it, whatever lets the change come."""
@@ -68,7 +68,7 @@ class Ground:
     def marks_row(self, number):
         """The row of a bit for each input, 1 for the marks that this number tells."""
         row = [0] * len(self.plant.inputs)
-        for at, place in enumerate(reversed(self.marked)):
+        for at, place in enumerate(reversed(list(self.marked))):
             row[place] = (number >> at) & 1
         return tuple(row)
 

@@ -239,7 +239,7 @@ class Beating:
             trace, lot, answer, reading = self.traces[trace]
             steps.append((answer, reading, p))
             p = [q for q in lot if (reading, p) in self.game.arena.moves(q, answer)][0]
-        return tuple(list(reversed(steps)))
+        return tuple(reversed(list(steps)))
 
     def bad_run(self, trace, p, answer):
         """The run to p with the answer there, up to its first bad answer."""

@@ -239,7 +239,7 @@ class Table:
         while before[pair] is not None:
             pair, step = before[pair]
             steps.append(step)
-        return tuple(list(reversed(steps)))
+        return tuple(reversed(list(steps)))
 
 
 def _told_lots(arena, lots):

@@ -5,10 +5,12 @@ import unittest
 
 from guardrungs.alike import alike, pairs_met, unlike_row
 from guardrungs.errors import BadNumber, BadRow, OtherShape, TooMany
+from guardrungs.forgets import forgetting, healing, recent, remembered, unhealed
 from guardrungs.hangs import Stuck, hanging, hangs, two_rows
 from guardrungs.joining import Beside, Bent
 from guardrungs.least import least
 from guardrungs.machines import Machine, machine_of
+from guardrungs.needless import needless_parts, trimmed
 from guardrungs.rungs import Rungs
 from guardrungs.unwired import rungs_of_sheet
 from guardrungs.versions import sheet_of_rungs
@@ -111,6 +113,25 @@ class TestAlike(Case):
             self.refused(TooMany, {"limit": 10}, call, WIDE, WIDE)
             self.refused(OtherShape, {}, call, BIG, small)
             self.refused(TooMany, {"limit": 2000}, call, BIG, BIG)
+
+
+class TestTenInputs(Case):
+    def test_ten_inputs_are_answered(self):
+        ins = tuple(f"i{k}" for k in range(10))
+        book = Rungs(ins, ("x",), (), ((("rise", "i9"), (("put", "x"),)), (("name", "i3"), (("set", "x"),))))
+        other = Rungs(ins, ("x",), (), ((("rise", "i9"), (("put", "x"),)),))
+        self.told(True, alike, book, sheet_of_rungs(book))
+        self.told(((0, 0, 0, 1) + (0,) * 6,), unlike_row, book, other)
+        self.told(4, pairs_met, book, book)
+        self.told(((3, 9),), hanging, book)
+        self.told(((9,),), hanging, other)
+        self.told(1, forgetting, book)
+        self.told(1, healing, other)
+        self.told(None, unhealed, book, 1)
+        self.assertEqual(len(remembered(book, 0)), 2)
+        self.told((1,), recent, book, [(1,) * 10], 0)
+        self.told((), needless_parts, book)
+        self.assertEqual(trimmed(book).rungs, book.rungs)
 
 
 class TestStuck(Case):

@@ -230,6 +230,33 @@ class TestSubset(unittest.TestCase):
                 if isinstance(node, ast.Raise):
                     self.assertIsInstance(node.exc, ast.Call, f"{name}:{node.lineno}")
 
+    def test_reversed_goes_over_new_lists(self):
+        for name, tree in self.each():
+            for node in ast.walk(tree):
+                if isinstance(node, ast.Call) and isinstance(node.func, ast.Name) and node.func.id == "reversed":
+                    over = node.args[0]
+                    fine = isinstance(over, ast.Call) and isinstance(over.func, ast.Name)
+                    self.assertTrue(fine and over.func.id in ("list", "tuple", "sorted", "range"), f"{name}:{node.lineno}")
+
+    def test_no_name_is_a_method_here_and_an_attribute_there(self):
+        methods, stored = set(), set()
+        for name, tree in self.each():
+            for node in ast.walk(tree):
+                if isinstance(node, ast.ClassDef):
+                    methods |= {part.name for part in node.body if isinstance(part, ast.FunctionDef)}
+                if isinstance(node, ast.Attribute) and isinstance(node.ctx, ast.Store):
+                    stored.add(node.attr)
+        self.assertEqual(methods & stored, set())
+
+    def test_generators_are_only_those_of_the_interface(self):
+        for name, tree in self.each():
+            for node in ast.walk(tree):
+                if isinstance(node, ast.FunctionDef):
+                    if any(isinstance(part, (ast.Yield, ast.YieldFrom)) for part in ast.walk(node)):
+                        self.assertEqual(node.name, "rows_of_changes")
+                if isinstance(node, ast.Name) and isinstance(node.ctx, ast.Load):
+                    self.assertNotIn(node.id, ("rows_of_changes", "StopIteration"), f"{name}:{node.lineno}")
+
     def test_decorators(self):
         for name, tree in self.each():
             for node in ast.walk(tree):

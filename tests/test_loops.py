@@ -179,18 +179,20 @@ class TestJudge(Case):
 
     def test_limit(self):
         # A ring of many standings beside a book of many: as many places as pairs.
-        def ring(many, driver):
+        for many, standings in ((200, 100), (177, 113)):
             arrows = tuple((s, "on", (s + 1) % many) for s in range(many)) + ((0, "off", 0),)
-            return Plant(((many, arrows),), 1, (), drivers=(("off", 0, 1),))
-        for many, standings in ((200, 100), (201, 100), (200, 101)):
-            for driver in (0, 1):
-                game = Game(Arena(ring(many, driver), 0, 1), Wish((), ()))
+            plant = Plant(((many, arrows),), 1, (), drivers=(("off", 0, 1),))
+            game = Game(Arena(plant, 0, 1), Wish((), ()))
+            plain = self.counting(standings)
+            asked = Machine.of_rows(1, 1, [[((s % 2,), (s + 1) % standings)] * 2 for s in range(standings)])
+            for call, yes, book in ((judge, is_guard, plain), (judge_asked, is_asked_guard, asked)):
                 if many * standings == 20000:
-                    self.told(("good", (), None), judge, game, self.counting(standings))
-                    self.told(True, is_guard, game, self.counting(standings))
+                    self.told(("good", (), None), call, game, book)
+                    self.told(True, yes, game, book)
                 else:
-                    self.refused(TooMany, {"limit": 20000}, judge, game, self.counting(standings))
-                    self.refused(TooMany, {"limit": 20000}, is_guard, game, self.counting(standings))
+                    self.assertEqual(many * standings, 20001)
+                    self.refused(TooMany, {"limit": 20000}, call, game, book)
+                    self.refused(TooMany, {"limit": 20000}, yes, game, book)
 
     def test_the_limit_counts_up_to_the_shortest_bad_run(self):
         # Behind n steps 1 + 2 + .. + (n + 1) places; the book is bad behind 198 or 199 of them.

@@ -33,7 +33,9 @@ def wrong_lots(arena):
 def games(number, many, **more):
     chance = ArenaChance(number)
     for _ in range(many):
-        game, plain = chance.game(outputs=chance.random.randint(0, 2), most_standings=10, **more)
+        told = {"outputs": chance.random.randint(0, 2), "inputs": chance.pick((0, 1, 2, 2, 2)), "most_standings": 10}
+        told.update(more)
+        game, plain = chance.game(**told)
         yield chance, game, plain
 
 
