@@ -103,13 +103,87 @@ def columns_of(many):
     return columns
 
 
-def spread(column, cases):
-    """The bits of a column, case by case."""
-    return [(column >> case) & 1 for case in range(cases)]
+def case_rows(columns, cases):
+    """For each case the row of its bits in the columns."""
+    return _rows_at(columns, list(range(cases)))
 
 
-def case_rows(lists, cases):
-    """From lists of what each case has at one place: for each case its row."""
+# What a cycle leads to is told by columns, too; a number that is not the same in all cases by a list of pairs of a
+# number and the column of the cases that have it. Cases to which all of these tell the same are one group.
+
+
+def _values_at(told, cases):
+    """What is told to each of these cases, which are given by their places."""
+    if isinstance(told, int):
+        return [(told >> case) & 1 for case in cases]
+    values = []
+    for case in cases:
+        values.append([number for number, column in told if (column >> case) & 1 == 1][0])
+    return values
+
+
+def _rows_at(lists, cases):
+    """For each of these cases the row of what the lists tell."""
     if not lists:
-        return [()] * cases
-    return list(zip(*lists))
+        return [()] * len(cases)
+    values = [_values_at(told, cases) for told in lists]
+    return list(zip(*values))
+
+
+def _columns_in(lists):
+    """The different columns in these lists."""
+    columns = {}
+    for told in lists:
+        if isinstance(told, int):
+            columns[told] = True
+        else:
+            columns.update({column: True for _, column in told})
+    return list(columns)
+
+
+def _groups_in(lists, full):
+    """The columns of groups of cases to which the lists tell the same."""
+    groups = [full]
+    if full == 1:
+        return groups
+    for column in _columns_in(lists):
+        parted = []
+        for group in groups:
+            inside = group & column
+            if inside in (0, group):
+                parted.append(group)
+            else:
+                parted.extend([inside, group ^ inside])
+        groups = parted
+    return groups
+
+
+def told_groups(answers, kept, full):
+    """For each group of cases its answer, what is kept of it, and the column of its cases."""
+    groups = _groups_in(answers + kept, full)
+    firsts = [(group & -group).bit_length() - 1 for group in groups]
+    return list(zip(_rows_at(answers, firsts), _rows_at(kept, firsts), groups))
+
+
+def places_in(column):
+    """The places of the ones of a column, the highest first."""
+    signs = f"{column:b}"
+    last = len(signs) - 1
+    told = []
+    at = signs.find("1")
+    while at >= 0:
+        told.append(last - at)
+        at = signs.find("1", at + 1)
+    return told
+
+
+def spread_groups(groups, full):
+    """For each case the answer and what is kept, from groups."""
+    if full == 1:
+        return [groups[0][:2]]
+    told = [None] * full.bit_length()
+    for answer, kept, group in groups:
+        pair = (answer, kept)
+        for case in places_in(group):
+            told[case] = pair
+    return told

@@ -1,6 +1,6 @@
 """The base of all books."""
 
-from guardrungs.bits import case_rows, check_row, columns_of, spread
+from guardrungs.bits import case_rows, check_row, columns_of, spread_groups
 from guardrungs.errors import BadBook
 from guardrungs.formulas import is_name
 
@@ -47,16 +47,29 @@ class Book:
         """The answer and the next standing."""
         raise NotImplementedError()
 
+    def groups(self, standing, columns, full):
+        """For groups of cases, the inputs' bits being told by columns, answer, next standing and column."""
+        told = {}
+        for case, reading in enumerate(case_rows(columns, full.bit_length())):
+            pair = self.step(standing, reading)
+            told[pair] = told.get(pair, 0) | (1 << case)
+        return [(answer, behind, column) for (answer, behind), column in told.items()]
+
+    def step_cases(self, standing, columns, full):
+        """For each case the answer and the next standing."""
+        return spread_groups(self.groups(standing, columns, full), full)
+
     def step_each(self, standing):
         """For each reading, in counting order, the answer and the next standing; for few inputs."""
         cases = 1 << len(self.inputs)
         return self.step_cases(standing, columns_of(len(self.inputs)), (1 << cases) - 1)
 
-    def step_cases(self, standing, columns, full):
-        """For each case, the inputs' bits being told by columns, the answer and the next standing."""
-        cases = full.bit_length()
-        readings = case_rows([spread(column, cases) for column in columns], cases)
-        return [self.step(standing, reading) for reading in readings]
+    def step_groups(self, standing):
+        """For groups of readings, by their first ones, answer, next standing and the column of the readings."""
+        cases = 1 << len(self.inputs)
+        groups = self.groups(standing, columns_of(len(self.inputs)), (1 << cases) - 1)
+        firsts = {column & -column: (answer, behind, column) for answer, behind, column in groups}
+        return [firsts[first] for first in sorted(firsts)]
 
     def checked(self, reading):
         """The reading as a tuple."""

@@ -1,6 +1,6 @@
 """Step chains: steps, transitions and actions."""
 
-from guardrungs.bits import case_rows, is_order, is_whole, spread
+from guardrungs.bits import is_order, is_whole, told_groups
 from guardrungs.books import Book, check_names
 from guardrungs.errors import BadBook, BadNumber
 from guardrungs.formulas import is_formula, told_edges, worked
@@ -69,8 +69,9 @@ class ChainCycle:
         return column
 
     def ages_of(self, step):
-        """The step's ages case by case."""
-        return [self.ages[step] * bit for bit in spread(self.stays(step), self.full.bit_length())]
+        """The step's ages with their columns."""
+        stays = self.stays(step)
+        return [(self.ages[step], stays), (0, self.full ^ stays)]
 
 
 class Chain(Book):
@@ -126,7 +127,7 @@ class Chain(Book):
 
     def step(self, standing, reading):
         """The answer and the next standing."""
-        return self.step_cases(standing, self.checked(reading), 1)[0]
+        return self.groups(standing, self.checked(reading), 1)[0][:2]
 
     def marks_in(self, standing):
         """The steps that are marked."""
@@ -160,19 +161,15 @@ class Chain(Book):
             seen.extend([cycle.bits[name] for name in edges])
         return cycle, seen
 
-    def step_cases(self, standing, columns, full):
-        """For each case the answer and the standing behind the cycle."""
+    def groups(self, standing, columns, full):
+        """For groups of cases answer, next standing and column."""
         cycle, seen = self._fired(standing, columns, full)
         marked = cycle.mark(self._top)
         self._act(cycle, marked)
-        cases = full.bit_length()
-        zeros = [0] * cases
-        lists = [spread(cycle.bits[step], cases) if step in cycle.ages else zeros for step in self.steps]
-        lists.extend([cycle.ages_of(step) if step in cycle.ages else zeros for step in self.steps])
-        names = [spread(cycle.bits[name], cases) for name in self.outputs + self.cells]
-        lists.extend(names)
-        lists.extend([spread(column, cases) for column in seen])
-        return list(zip(case_rows(names[:len(self.outputs)], cases), case_rows(lists, cases)))
+        kept = [cycle.bits[step] if step in cycle.ages else 0 for step in self.steps]
+        kept.extend([cycle.ages_of(step) if step in cycle.ages else 0 for step in self.steps])
+        names = [cycle.bits[name] for name in self.outputs + self.cells]
+        return told_groups(names[:len(self.outputs)], kept + names + seen, full)
 
     def _act(self, cycle, marked):
         """Set the names behind the marks and ages."""

@@ -30,11 +30,11 @@ class Stuck(Book):
         row = self.checked(reading)
         return self.book.step(standing, row[:self.place] + (self.bit,) + row[self.place + 1:])
 
-    def step_cases(self, standing, columns, full):
-        """For each case the answer and the next standing."""
+    def groups(self, standing, columns, full):
+        """For groups of cases answer, next standing and column."""
         told = list(columns)
         told[self.place] = full * self.bit
-        return self.book.step_cases(standing, told, full)
+        return self.book.groups(standing, told, full)
 
 
 def _shown(rows, output):

@@ -17,6 +17,18 @@ def _joined(first, second):
     return (len(first),) + tuple(first) + tuple(second)
 
 
+def _crossed(groups, others, with_first):
+    """The groups of the whole from those of its parts; with_first tells if its answer has that of the first part."""
+    told = []
+    for answer, behind, column in groups:
+        for other_answer, other_behind, other_column in others:
+            both = column & other_column
+            if both != 0:
+                whole = answer + other_answer if with_first else other_answer
+                told.append((whole, _joined(behind, other_behind), both))
+    return told
+
+
 class Beside(Book):
     """Two books beside one another: each reads its own inputs."""
 
@@ -32,18 +44,14 @@ class Beside(Book):
 
     def step(self, standing, reading):
         """The answer and the next standing."""
-        return self.step_cases(standing, self.checked(reading), 1)[0]
+        return self.groups(standing, self.checked(reading), 1)[0][:2]
 
-    def step_cases(self, standing, columns, full):
-        """For each case the answer and the next standing."""
+    def groups(self, standing, columns, full):
+        """For groups of cases answer, next standing and column."""
         first, second = _parted(standing)
         many = len(self.first.inputs)
-        steps = self.first.step_cases(first, columns[:many], full)
-        others = self.second.step_cases(second, columns[many:], full)
-        told = []
-        for (answer, behind), (other_answer, other_behind) in zip(steps, others):
-            told.append((answer + other_answer, _joined(behind, other_behind)))
-        return told
+        groups = self.first.groups(first, columns[:many], full)
+        return _crossed(groups, self.second.groups(second, columns[many:], full), True)
 
 
 class InRow(Book):
@@ -63,23 +71,16 @@ class InRow(Book):
 
     def step(self, standing, reading):
         """The answer and the next standing."""
-        return self.step_cases(standing, self.checked(reading), 1)[0]
+        return self.groups(standing, self.checked(reading), 1)[0][:2]
 
-    def step_cases(self, standing, columns, full):
-        """For each case the answer and the next standing."""
+    def groups(self, standing, columns, full):
+        """For groups of cases answer, next standing and column."""
         first, second = _parted(standing)
-        steps = self.first.step_cases(first, columns, full)
-        handed_on = []
-        for place in range(len(self.second.inputs)):
-            column = 0
-            for case, (answer, _) in enumerate(steps):
-                column = column | (answer[place] << case)
-            handed_on.append(column)
-        others = self.second.step_cases(second, handed_on, full)
-        told = []
-        for (_, behind), (answer, other_behind) in zip(steps, others):
-            told.append((answer, _joined(behind, other_behind)))
-        return told
+        groups = self.first.groups(first, columns, full)
+        handed_on = [0] * len(self.second.inputs)
+        for answer, _, column in groups:
+            handed_on = [told | column * bit for told, bit in zip(handed_on, answer)]
+        return _crossed(groups, self.second.groups(second, handed_on, full), False)
 
 
 class Bent(Book):
@@ -104,6 +105,6 @@ class Bent(Book):
         row = self.checked(reading)
         return self.book.step(standing, [row[place] for place in self.wires])
 
-    def step_cases(self, standing, columns, full):
-        """For each case the answer and the next standing."""
-        return self.book.step_cases(standing, [columns[place] for place in self.wires], full)
+    def groups(self, standing, columns, full):
+        """For groups of cases answer, next standing and column."""
+        return self.book.groups(standing, [columns[place] for place in self.wires], full)

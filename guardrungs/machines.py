@@ -1,6 +1,6 @@
 """Machines: books that tell by a table."""
 
-from guardrungs.bits import is_listed, is_row, is_whole, number_of
+from guardrungs.bits import is_listed, is_row, is_whole, number_of, spread_groups
 from guardrungs.books import Book, check_names
 from guardrungs.errors import BadMachine, BadNumber, OtherShape, TooMany
 
@@ -36,6 +36,13 @@ class Machine(Book):
     def step_each(self, standing):
         """For each reading, in counting order, the answer and the next standing."""
         return [(answer, (behind,)) for answer, behind in self.rows[standing[0]]]
+
+    def step_groups(self, standing):
+        """For groups of readings, by their first ones, answer, next standing and the column of the readings."""
+        told = {}
+        for case, pair in enumerate(self.rows[standing[0]]):
+            told[pair] = told.get(pair, 0) | (1 << case)
+        return [(answer, (behind,), column) for (answer, behind), column in told.items()]
 
     def __call__(self, standing, reading):
         if not is_whole(standing, 0, len(self.rows) - 1):
@@ -135,16 +142,15 @@ def book_rows(book):
     standings = [book.start()]
     rows = []
     while len(rows) < len(standings):
-        standing = standings[len(rows)]
-        row = []
-        for answer, behind in book.step_each(standing):
+        groups = []
+        for answer, behind, column in book.step_groups(standings[len(rows)]):
             if behind not in numbers:
                 numbers[behind] = len(standings)
                 standings.append(behind)
-            row.append((answer, numbers[behind]))
+            groups.append((answer, numbers[behind], column))
         if len(standings) > 2000:
             raise TooMany(2000)
-        rows.append(row)
+        rows.append(spread_groups(groups, (1 << (1 << len(book.inputs))) - 1))
     return rows
 
 

@@ -1,6 +1,6 @@
 """Books of rungs."""
 
-from guardrungs.bits import case_rows, is_order, is_whole, spread
+from guardrungs.bits import is_order, is_whole, told_groups
 from guardrungs.books import Book, check_names
 from guardrungs.errors import BadBook, BadName, BadNumber
 from guardrungs.formulas import EDGES, JOINTS, is_formula, told_edges, worked
@@ -134,9 +134,10 @@ class Rungs(Book):
 
     def step(self, standing, reading):
         """The answer and the next standing."""
-        return self.step_cases(standing, self.checked(reading), 1)[0]
+        return self.groups(standing, self.checked(reading), 1)[0][:2]
 
-    def step_cases(self, standing, columns, full):
+    def groups(self, standing, columns, full):
+        """For groups of cases answer, next standing and column."""
         cycle = RungCycle(self, standing, columns, full)
         seen = []
         for rung, edges in zip(self.rungs, self._edges):
@@ -145,16 +146,14 @@ class Rungs(Book):
         return self._ended(cycle, seen)
 
     def _ended(self, cycle, seen):
-        """For each case the answer and the standing behind the cycle."""
-        cases = cycle.full.bit_length()
-        answers = [spread(cycle.bits[name], cases) for name in self.outputs]
-        lists = answers + [spread(cycle.bits[name], cases) for name in self.cells]
+        """For groups of cases the answer, the standing behind the cycle and the column."""
+        answers = [cycle.bits[name] for name in self.outputs]
+        kept = answers + [cycle.bits[name] for name in self.cells]
         for name, _, _ in self.timers:
-            lists.extend([cycle.counts[name], spread(cycle.bits[name], cases)])
+            kept.extend([cycle.counts[name], cycle.bits[name]])
         for name, _ in self.counters:
-            lists.extend([cycle.counts[name], spread(cycle.counted_last[name], cases)])
-        lists.extend([spread(column, cases) for column in seen])
-        return list(zip(case_rows(answers, cases), case_rows(lists, cases)))
+            kept.extend([cycle.counts[name], cycle.counted_last[name]])
+        return told_groups(answers, kept + seen, cycle.full)
 
     def bit_in(self, standing, name):
         """The bit of this output, cell, timer or counter in the standing."""

@@ -2,7 +2,7 @@
 
 from heapq import heapify, heappop, heappush
 
-from guardrungs.bits import case_rows, is_whole, spread
+from guardrungs.bits import is_whole, told_groups
 from guardrungs.books import Book, check_names
 from guardrungs.errors import BadBook
 from guardrungs.formulas import is_name
@@ -60,29 +60,27 @@ class Sheet(Book):
 
     def step(self, standing, reading):
         """The answer and the next standing."""
-        return self.step_cases(standing, self.checked(reading), 1)[0]
+        return self.groups(standing, self.checked(reading), 1)[0][:2]
 
     def wires_in(self, standing, reading):
         """The blocks' bits, in the blocks' order, in the cycle that begins here."""
         bits, _ = self._worked(standing, self.checked(reading), 1)
         return tuple([bits[wire] for wire, _, _, _ in self.blocks])
 
-    def step_cases(self, standing, columns, full):
-        """For each case the answer and the standing behind the cycle."""
+    def groups(self, standing, columns, full):
+        """For groups of cases answer, next standing and column."""
         bits, counts = self._worked(standing, columns, full)
-        cases = full.bit_length()
-        answers = [spread(bits[wire], cases) for _, wire in self.wiring]
-        lists = []
+        kept = []
         for wire, kind, wires, _ in self.blocks:
             if kind == "cell":
-                lists.append(spread(bits[wires[0]], cases))
+                kept.append(bits[wires[0]])
             elif kind == "hold":
-                lists.append(spread(bits[wire], cases))
+                kept.append(bits[wire])
             elif kind in KINDS:
-                lists.append(counts[wire])
+                kept.append(counts[wire])
             elif kind == "count":
-                lists.extend([counts[wire], spread(bits[wires[0]], cases)])
-        return list(zip(case_rows(answers, cases), case_rows(lists, cases)))
+                kept.extend([counts[wire], bits[wires[0]]])
+        return told_groups([bits[wire] for _, wire in self.wiring], kept, full)
 
     def _worked(self, standing, columns, full):
         """For each wire its column in this cycle, and for each timer and counter its counts behind it."""

@@ -1,6 +1,6 @@
 """Timers and counters, worked cycle by cycle."""
 
-from guardrungs.bits import is_whole, spread
+from guardrungs.bits import is_whole
 from guardrungs.errors import BadNumber
 
 KINDS = ("on", "off", "pulse")
@@ -65,20 +65,17 @@ def counter_step(number, count, last, bit, clear):
 
 
 def timer_cases(kind, number, count, column, full):
-    """The timer worked with a column: the column of its bit, and its new count case by case."""
+    """The timer worked with a column: the column of its bit, and its new counts with their columns."""
     low, count_low = timer_step(kind, number, count, 0)
     high, count_high = timer_step(kind, number, count, 1)
     bits = (full * high & column) | (full * low & (full ^ column))
-    counts = [count_high if bit == 1 else count_low for bit in spread(column, full.bit_length())]
-    return bits, counts
+    return bits, [(count_low, full ^ column), (count_high, column)]
 
 
 def counter_cases(number, count, last, column, clear, full):
-    """The counter worked with two columns: the column of its bit, and its new count case by case."""
+    """The counter worked with two columns: the column of its bit, and its new counts with their columns."""
     stays, count_stays, _ = counter_step(number, count, last, 0, 0)
     grows, count_grows, _ = counter_step(number, count, last, 1, 0)
     bits = ((full * grows & column) | (full * stays & (full ^ column))) & (full ^ clear)
-    cases = full.bit_length()
-    counts = [count_grows if bit == 1 else count_stays for bit in spread(column, cases)]
-    counts = [0 if bit == 1 else told for bit, told in zip(spread(clear, cases), counts)]
-    return bits, counts
+    others = full ^ clear
+    return bits, [(0, clear), (count_grows, column & others), (count_stays, (full ^ column) & others)]
