@@ -73,7 +73,7 @@ class TestAlike(Case):
             told = self.check(*books, length)
             met[told] = met.get(told, 0) + 1
         self.assertGreater(met[None], 20)
-        self.assertGreater(len(met), 4)
+        self.assertGreater(len(met), 3)
 
     def test_books_of_all_kinds(self):
         chance = Chance(52)

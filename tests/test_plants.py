@@ -103,6 +103,44 @@ class TestPlants(Case):
                 self.assertEqual(plant.level_row(p), other.level_row(turned))
 
 
+    def test_a_machine_that_lets_all_come(self):
+        # [108]: without a machine that has arrows from all its standings the others make the same changes.
+        chance = plain.PlantChance(84)
+        for _ in range(40):
+            plant = chance.plant(machines=2, outputs=1, arrows=5)
+            shared = chance.some(plant.changes, 0, 2)
+            ways = tuple((s, change, chance.random.randrange(3)) for s in range(3) for change in shared)
+            more = Plant(plant.machines + ((3, ways),), 1, plant.inputs, drivers=plant.drivers)
+            p, q = plant.origin, more.origin
+            for _ in range(15):
+                for row in rows(1):
+                    self.assertEqual(sorted(plant.possible(p, row)), sorted(more.possible(q, row)))
+                changes = plant.possible(p, chance.reading(1))
+                if changes:
+                    change = chance.pick(changes)
+                    p, q = plant.after_change(p, change), more.after_change(q, change)
+                    self.assertEqual(q[:2], p)
+
+    def test_rows_of_changes_of_joined_plants(self):
+        chance = plain.PlantChance(85)
+        for _ in range(40):
+            one, two = chance.plant(machines=1, outputs=1), chance.plant(machines=1, outputs=1)
+            both, row = one.joined(two), chance.reading(2)
+            now, first, second = both.origin, one.origin, two.origin
+            for _ in range(12):
+                told = ["a." + c for c in one.possible(first, row[:1])] + ["b." + c for c in two.possible(second, row[1:])]
+                self.assertEqual(list(both.possible(now, row)), told)
+                if not told:
+                    break
+                change = chance.pick(told)
+                now = both.after_change(now, change)
+                if change.startswith("a."):
+                    first = one.after_change(first, change[2:])
+                else:
+                    second = two.after_change(second, change[2:])
+                self.assertEqual(now, first + second)
+
+
 class TestWrong(Case):
     def refuse(self, word, place, *args, **more):
         self.refused(BadPlant, {"word": word, "place": place}, Plant, *args, **more)

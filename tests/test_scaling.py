@@ -10,7 +10,7 @@ from guardrungs.machines import Machine, machine_of
 from guardrungs.rungs import Rungs
 from guardrungs.scaling import held, held_answers, scaled, settles
 from tests.checks import NO_BITS, NO_NUMBERS, NO_ROWS, Case
-from tests.plain import Chance, rows
+from tests.plain import Chance, rows, run_rungs
 
 EDGE = Rungs(("i",), ("x",), (), ((("rise", "i"), (("put", "x"),)),))
 
@@ -42,6 +42,14 @@ class TestScaled(Case):
                 self.assertEqual(told.timers, tuple((name, kind, n * k) for name, kind, n in book.timers))
                 for word in ("inputs", "outputs", "cells", "rungs", "counters"):
                     self.assertEqual(getattr(told, word), getattr(book, word))
+
+    def test_cut_anywhere(self):
+        chance = Chance(45)
+        for _ in range(20):
+            book = scaled(chance.rungs(timers=2, counters=1), 3)
+            readings = chance.readings(2, 40)
+            answers, middle = book.run_from(book.start(), readings[:13])
+            self.assertEqual(answers + book.run_from(middle, readings[13:])[0], run_rungs(book, readings)[0])
 
     def test_wrong(self):
         for call in (scaled, held_answers):

@@ -173,7 +173,10 @@ class TestCells(Case):
         for _ in range(60):
             sheet = chance.sheet(blocks=9)
             readings = chance.readings(2, 50)
-            self.assertEqual(self.check(sheet).run(readings), sheet.run(readings))
+            told = self.check(sheet)
+            self.assertEqual(told.run(readings), sheet.run(readings))
+            answers, middle = told.run_from(told.start(), readings[:20])
+            self.assertEqual(answers + told.run_from(middle, readings[20:])[0], sheet.run(readings))
 
     def test_each_timer_and_counter(self):
         for kind, number in TIMERS:
