@@ -1,6 +1,7 @@
 """Books that are alike around an arena, and parts that are needless there."""
 
 from guardrungs.errors import OtherShape
+from guardrungs.known import steps_to
 from guardrungs.loops import Around, fits_asked, fits_plain
 from guardrungs.needless import needless_by, trimmed_by, whole_order
 
@@ -33,7 +34,7 @@ class Both:
             steps = self.first.told_steps(place[0], place[2])
             others = self.second.told_steps(place[0], place[3])
             if [told for told, _ in steps] != [told for told, _ in others]:
-                return self.run_to(place)
+                return steps_to(self.before, place)
             self.go_on(place, steps, others)
             at += 1
         return None
@@ -50,14 +51,6 @@ class Both:
                 if following not in self.before:
                     self.before[following] = (place, told + (reading, q))
                     self.places.append(following)
-
-    def run_to(self, place):
-        """The run to this place."""
-        steps = []
-        while self.before[place] is not None:
-            place, step = self.before[place]
-            steps.append(step)
-        return tuple(reversed(list(steps)))
 
 
 def unlike_around(arena, book, other):

@@ -165,16 +165,24 @@ def told_groups(answers, kept, full):
     return list(zip(_rows_at(answers, firsts), _rows_at(kept, firsts), groups))
 
 
-def places_in(column):
-    """The places of the ones of a column, the highest first."""
-    signs = f"{column:b}"
+def mask_of(places):
+    """The integer that has ones at these places."""
+    mask = 0
+    for place in places:
+        mask = mask | (1 << place)
+    return mask
+
+
+def places_in(mask):
+    """The places of the ones of an integer, ascending."""
+    signs = f"{mask:b}"
     last = len(signs) - 1
-    told = []
-    at = signs.find("1")
+    places = []
+    at = signs.rfind("1")
     while at >= 0:
-        told.append(last - at)
-        at = signs.find("1", at + 1)
-    return told
+        places.append(last - at)
+        at = signs.rfind("1", 0, at)
+    return places
 
 
 def spread_groups(groups, full):

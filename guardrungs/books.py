@@ -14,6 +14,11 @@ def check_names(names):
         met[name] = True
 
 
+def numbered_names(prefix, many):
+    """The prefix with the numbers from 0 on behind it."""
+    return tuple([f"{prefix}{number}" for number in range(many)])
+
+
 class Fresh:
     """Makes names that begin with a prefix and are no keys of taken, one behind the other."""
 

@@ -1,7 +1,7 @@
 """Step chains: steps, transitions and actions."""
 
 from guardrungs.bits import is_order, is_whole, told_groups
-from guardrungs.books import Book, check_names
+from guardrungs.books import Book, check_names, numbered_names
 from guardrungs.errors import BadBook, BadNumber
 from guardrungs.formulas import is_formula, told_edges, worked
 
@@ -232,6 +232,6 @@ def _is_action(action, known):
 
 def free(chain):
     """The free chain: each transition's formula is an input of its own."""
-    names = [f"t{place}" for place in range(len(chain.transitions))]
+    names = numbered_names("t", len(chain.transitions))
     transitions = [(froms, ("name", name), tos) for (froms, _, tos), name in zip(chain.transitions, names)]
     return Chain(names, (), chain.steps, chain.marked, transitions, ())

@@ -1,10 +1,10 @@
 """Drums: rows of asks that, asked round and round, make the freest guard a good plain one."""
 
-from guardrungs.bits import is_whole, number_of
-from guardrungs.books import Book
+from guardrungs.bits import is_whole, mask_of, number_of, places_in
+from guardrungs.books import Book, numbered_names
 from guardrungs.errors import BadNumber, TooMany
-from guardrungs.freest import Freest, check_guards, numbered_names
-from guardrungs.known import check_rows, mask_of
+from guardrungs.freest import Freest, check_guards
+from guardrungs.known import check_rows
 from guardrungs.tables import Field
 
 
@@ -43,37 +43,27 @@ class Beat:
     def masks_behind(self, row):
         """For each pair the mask of the pairs behind it if the row is asked."""
         if row not in self.images:
-            told = []
-            for number in range(len(self.pairs)):
-                mask = 0
-                for behind in self.behind(number, row):
-                    mask = mask | (1 << behind)
-                told.append(mask)
-            self.images[row] = told
+            self.images[row] = [mask_of(self.behind(number, row)) for number in range(len(self.pairs))]
         return self.images[row]
 
     def in_end(self, end):
         """The mask of the pairs that are in the end."""
-        mask = 0
-        for number, (_, p) in enumerate(self.pairs):
-            if self.ends[end][p]:
-                mask = mask | (1 << number)
-        return mask
+        return mask_of([number for number, (_, p) in enumerate(self.pairs) if self.ends[end][p]])
 
     def distances_to(self, end):
         """For each pair how many calm steps, under rows that hold, a shortest path to the end has."""
         before = [[] for _ in self.pairs]
         for number, told in enumerate(self.steps):
-            for steps in told.values():
-                for _, behind in steps:
-                    before[behind].append(number)
+            for _, behind in [step for steps in told.values() for step in steps]:
+                before[behind].append(number)
         left = [number for number, (_, p) in enumerate(self.pairs) if self.ends[end][p]]
         told = {number: 0 for number in left}
         at = 0
         while at < len(left):
-            for number in before[left[at]]:
+            behind = left[at]
+            for number in before[behind]:
                 if number not in told:
-                    told[number] = told[left[at]] + 1
+                    told[number] = told[behind] + 1
                     left.append(number)
             at += 1
         return told
@@ -88,11 +78,6 @@ class Beat:
         return rows
 
 
-def _ones(mask):
-    """The places of the ones of an integer."""
-    return [place for place in range(mask.bit_length()) if (mask >> place) & 1 == 1]
-
-
 class Roll:
     """A row of asks in the making, and where calm runs can be behind it from each pair."""
 
@@ -103,7 +88,7 @@ class Roll:
         self.ends = [beat.in_end(end) for end in range(len(beat.ends))]
         self.distances = [beat.distances_to(end) for end in range(len(beat.ends))]
         everywhere = (1 << len(beat.pairs)) - 1
-        self.lacking = [_ones(everywhere ^ mask) for mask in self.ends]
+        self.lacking = [places_in(everywhere ^ mask) for mask in self.ends]
 
     def ask(self, row):
         """Add a row."""
@@ -112,7 +97,7 @@ class Roll:
         for mask in self.now:
             if mask not in images:
                 image = 0
-                for number in _ones(mask):
+                for number in places_in(mask):
                     image = image | masks[number]
                 images[mask] = image
         self.now = [images[mask] for mask in self.now]
@@ -123,8 +108,9 @@ class Roll:
     def bring(self, number, end):
         """Add rows by which a run that began at this pair comes to the end."""
         distances = self.distances[end]
-        nearest = min([(distances[other], other) for other in _ones(self.now[number])])[1]
-        for row in self.beat.path_rows(nearest, distances):
+        nearest = min([(distances[other], other) for other in places_in(self.now[number])])[1]
+        rows = self.beat.path_rows(nearest, distances)
+        for row in rows:
             self.ask(row)
 
 

@@ -1,8 +1,8 @@
 """How long books remember what they read."""
 
-from guardrungs.bits import is_whole, row_at
+from guardrungs.bits import is_whole, mask_of, places_in, row_at
 from guardrungs.errors import BadNumber
-from guardrungs.least import least, numbered, splits, telling_row
+from guardrungs.least import least, numbered, splits, telling_row, ways_to
 from guardrungs.machines import check_inputs, machine_of
 
 
@@ -34,7 +34,7 @@ class Memory:
     def mates(self):
         """For each standing, as bits of an integer, the standings that rows of one length lead to beside it."""
         follows = [sorted(set(row)) for row in self.behinds]
-        masks = [_mask(row) for row in follows]
+        masks = [mask_of(row) for row in follows]
         told = [0] * len(follows)
         fresh = [0] * len(follows)
         told[0] = 1
@@ -43,7 +43,7 @@ class Memory:
         while left:
             standing = left.pop()
             image = 0
-            for mate in _places(fresh[standing]):
+            for mate in places_in(fresh[standing]):
                 image = image | masks[mate]
             fresh[standing] = 0
             for behind in follows[standing]:
@@ -61,19 +61,6 @@ class Memory:
         for standing, number in enumerate(now):
             masks[number] = masks.get(number, 0) | (1 << standing)
         return all([told & masks[number] == told for told, number in zip(mates, now)])
-
-
-def _mask(places):
-    """The integer with ones at these places."""
-    mask = 0
-    for place in places:
-        mask = mask | (1 << place)
-    return mask
-
-
-def _places(mask):
-    """The places of the ones of an integer."""
-    return [place for place in range(mask.bit_length()) if (mask >> place) & 1 == 1]
 
 
 def _merges(behinds):
@@ -107,22 +94,9 @@ def remembered(book, k):
     if max(now) == 0:
         return None
     other = now.index(1)
-    ways = _ways(memory)
+    way = ways_to(memory.machine.rows)[other]
     behind = memory.told_row(0, other, k)
-    return behind, ways[other] + behind
-
-
-def _ways(memory):
-    """For each standing of the least machine a row of readings that leads to it."""
-    ways = {0: ()}
-    left = [0]
-    while left:
-        standing = left.pop()
-        for number, behind in enumerate(memory.behinds[standing]):
-            if behind not in ways:
-                ways[behind] = ways[standing] + (row_at(number, memory.inputs),)
-                left.append(behind)
-    return ways
+    return behind, tuple([row_at(number, memory.inputs) for number in way]) + behind
 
 
 def healing(book):

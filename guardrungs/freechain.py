@@ -1,21 +1,9 @@
 """The free chain: marks that can come, lots that fire, doubled steps, stuck marks."""
 
-from guardrungs.bits import is_listed, is_whole
+from guardrungs.bits import is_listed, is_whole, mask_of, places_in
 from guardrungs.errors import BadLot, TooMany
 
 # Marks and lots of transitions are numbers here, the sums of 2 ** k over the places of their steps or transitions.
-
-
-def _lot_number(places):
-    number = 0
-    for place in places:
-        number = number | (1 << place)
-    return number
-
-
-def _lot_told(number):
-    """The places of a lot, ascending."""
-    return tuple([place for place in range(number.bit_length()) if (number >> place) & 1 == 1])
 
 
 class Walk:
@@ -24,9 +12,9 @@ class Walk:
     def __init__(self, chain):
         self.steps = chain.steps
         places = {step: place for place, step in enumerate(chain.steps)}
-        self.froms = [_lot_number([places[step] for step in froms]) for froms, _, _ in chain.transitions]
-        self.tos = [_lot_number([places[step] for step in tos]) for _, _, tos in chain.transitions]
-        self.met = [_lot_number([places[step] for step in chain.marked])]
+        self.froms = [mask_of([places[step] for step in froms]) for froms, _, _ in chain.transitions]
+        self.tos = [mask_of([places[step] for step in tos]) for _, _, tos in chain.transitions]
+        self.met = [mask_of([places[step] for step in chain.marked])]
         # For all marks that are met the marks ahead and the lot that leads here; None for the start.
         self.came = {self.met[0]: None}
 
@@ -62,21 +50,21 @@ class Walk:
     def taken_by(self, lot):
         """The steps that the lot takes."""
         steps = 0
-        for place in _lot_told(lot):
+        for place in places_in(lot):
             steps = steps | self.froms[place]
         return steps
 
     def behind(self, marks, lot):
         """The marks behind the firing of the lot."""
         steps = marks & ~self.taken_by(lot)
-        for place in _lot_told(lot):
+        for place in places_in(lot):
             steps = steps | self.tos[place]
         return steps
 
     def doubles(self, marks, lot):
         """True if the firing of the lot doubles a step."""
         steps = marks & ~self.taken_by(lot)
-        for place in _lot_told(lot):
+        for place in places_in(lot):
             if steps & self.tos[place] != 0:
                 return True
             steps = steps | self.tos[place]
@@ -87,12 +75,12 @@ class Walk:
         lots = []
         while self.came[marks] is not None:
             marks, lot = self.came[marks]
-            lots.append(_lot_told(lot))
+            lots.append(tuple(places_in(lot)))
         return lots[::-1]
 
     def steps_of(self, marks):
         """The marks as a tuple of steps."""
-        return tuple([self.steps[place] for place in _lot_told(marks)])
+        return tuple([self.steps[place] for place in places_in(marks)])
 
 
 def walked(chain):
@@ -150,7 +138,7 @@ def doubled_by(chain):
     for marks in walk.met:
         for lot in walk.lots_at(marks):
             if walk.doubles(marks, lot):
-                return tuple(walk.lots_to(marks) + [_lot_told(lot)])
+                return tuple(walk.lots_to(marks) + [tuple(places_in(lot))])
     return None
 
 

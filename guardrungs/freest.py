@@ -1,7 +1,7 @@
 """The freest guard: asked whatever, it writes just what good guards may write."""
 
 from guardrungs.bits import number_of
-from guardrungs.books import Book
+from guardrungs.books import Book, numbered_names
 from guardrungs.errors import BadNumber, NoGuard
 from guardrungs.known import check_rows, lot_behind
 
@@ -10,11 +10,6 @@ def check_guards(table):
     """Raise NoGuard if there is no good guard."""
     if not table.guards:
         raise NoGuard()
-
-
-def numbered_names(prefix, many):
-    """The prefix with the numbers from 0 on."""
-    return tuple([f"{prefix}{number}" for number in range(many)])
 
 
 class Freest(Book):

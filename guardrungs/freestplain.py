@@ -1,9 +1,9 @@
 """The widest guard: a plain one that has each run of each good guard, where there is one."""
 
 from guardrungs.bits import number_of
-from guardrungs.books import Book
+from guardrungs.books import Book, numbered_names
 from guardrungs.errors import OtherShape
-from guardrungs.freest import check_guards, numbered_names
+from guardrungs.freest import check_guards
 from guardrungs.known import check_lot
 
 

@@ -3,7 +3,7 @@
 from guardrungs.bits import is_bit, is_whole, row_at
 from guardrungs.books import Book
 from guardrungs.errors import BadNumber
-from guardrungs.least import rounds_together, splits, telling_row
+from guardrungs.least import rounds_together, splits, telling_row, ways_to
 from guardrungs.machines import book_rows, check_inputs
 
 
@@ -94,7 +94,7 @@ def two_rows(book, output, place):
     twins = _twins(inputs, place)
     if not _twins_unlike(rows, parted[-1], twins):
         return None
-    ways = _ways(rows)
+    ways = ways_to(rows)
     # Some shortest twins differ in one reading alone: else others, alike the one or the other, would be as short.
     standing, number, other = _nearest(rows, parted, twins, ways)
     ahead = tuple([row_at(told, inputs) for told in ways[standing]])
@@ -102,19 +102,6 @@ def two_rows(book, output, place):
     if rows[standing][number][0] == rows[standing][other][0]:
         behind = telling_row(rows, parted, rows[standing][number][1], rows[standing][other][1], inputs)
     return ahead + (row_at(number, inputs),) + behind, ahead + (row_at(other, inputs),) + behind
-
-
-def _ways(rows):
-    """For each standing the numbers of the readings of a shortest row that leads to it."""
-    ways = {0: ()}
-    met = [0]
-    for at in range(len(rows)):
-        standing = met[at]
-        for number, (_, behind) in enumerate(rows[standing]):
-            if behind not in ways:
-                ways[behind] = ways[standing] + (number,)
-                met.append(behind)
-    return ways
 
 
 def _nearest(rows, parted, twins, ways):

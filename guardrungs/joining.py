@@ -1,7 +1,7 @@
 """Books of any kinds beside one another, in a row, and bent by wires."""
 
 from guardrungs.bits import is_listed, is_whole
-from guardrungs.books import Book
+from guardrungs.books import Book, numbered_names
 from guardrungs.errors import BadNumber, OtherShape
 from guardrungs.machines import two_names
 
@@ -93,7 +93,7 @@ class Bent(Book):
             raise BadNumber("wires")
         self.book = book
         self.wires = tuple(wires)
-        self.inputs = tuple([f"n{place}" for place in range(max(wires, default=-1) + 1)])
+        self.inputs = numbered_names("n", max(wires, default=-1) + 1)
         self.outputs = tuple(two_names(book.outputs, ()))
 
     def start(self):

@@ -1,6 +1,6 @@
 """Known lots: the standings that an arena may have, given all that was read and written."""
 
-from guardrungs.bits import check_row, is_listed, is_whole
+from guardrungs.bits import check_row, is_listed, is_whole, places_in
 from guardrungs.errors import BadLot, BadNumber, BadRow, TooMany
 
 
@@ -21,6 +21,15 @@ def check_rows(rows, many):
     if not is_listed(rows):
         raise BadRow(-1)
     return [check_row(row, many) for row in rows]
+
+
+def steps_to(before, place):
+    """The steps of a search to this place; before tells of each place the one ahead and the step, None at the start."""
+    steps = []
+    while before[place] is not None:
+        place, step = before[place]
+        steps.append(step)
+    return tuple(reversed(list(steps)))
 
 
 class Spread:
@@ -53,21 +62,6 @@ class Spread:
         return sorted(list(told.items()))
 
 
-def mask_of(lot):
-    """The integer that has ones at the places of the standings."""
-    mask = 0
-    for p in lot:
-        mask = mask | (1 << p)
-    return mask
-
-
-def lot_of(mask):
-    """The lot of this mask."""
-    signs = f"{mask:b}"
-    last = len(signs) - 1
-    return tuple([last - at for at in range(last, -1, -1) if signs[at] == "1"])
-
-
 class Reached:
     """The lots reached, numbered as met.
 
@@ -89,7 +83,7 @@ class Reached:
         for _, mask in pairs:
             if mask not in self.numbers:
                 self.numbers[mask] = len(self.lots)
-                self.lots.append(lot_of(mask))
+                self.lots.append(tuple(places_in(mask)))
                 if len(self.lots) > 600:
                     raise TooMany(600)
         return [(reading, self.numbers[mask]) for reading, mask in pairs]

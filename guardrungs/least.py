@@ -114,6 +114,19 @@ def _parting(row, other, told, left):
     return -1
 
 
+def ways_to(rows):
+    """For each standing the numbers of the readings of a shortest row that leads to it."""
+    ways = {0: ()}
+    met = [0]
+    for at in range(len(rows)):
+        standing = met[at]
+        for number, (_, behind) in enumerate(rows[standing]):
+            if behind not in ways:
+                ways[behind] = ways[standing] + (number,)
+                met.append(behind)
+    return ways
+
+
 def alike_machines(m, n):
     """True if the two machines answer all rows of readings alike."""
     if len(m.inputs) != len(n.inputs) or len(m.outputs) != len(n.outputs):

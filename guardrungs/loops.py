@@ -2,7 +2,7 @@
 
 from guardrungs.bits import columns_of, is_listed, is_whole
 from guardrungs.errors import BadNumber, OtherShape, TooMany
-from guardrungs.known import check_rows
+from guardrungs.known import check_rows, steps_to
 
 
 def fits_plain(arena, book):
@@ -84,11 +84,7 @@ class Around:
 
     def run_to(self, number):
         """The run to this place."""
-        steps = []
-        while self.before[number] is not None:
-            number, step = self.before[number]
-            steps.append(step)
-        return tuple(reversed(list(steps)))
+        return steps_to(self.before, number)
 
     def leading_to(self, ends):
         """The numbers of the places, as keys, from which calm moves lead to a standing of this lot of places."""
@@ -104,7 +100,8 @@ class Around:
         told = {number: True for number in left}
         met = {}
         while left:
-            for node in moves_before.get(self.places[left.pop()], []):
+            place = self.places[left.pop()]
+            for node in moves_before.get(place, []):
                 if node not in met:
                     met[node] = True
                     new = [number for number in nodes_before[node] if number not in told]

@@ -1,7 +1,7 @@
 """Machines: books that tell by a table."""
 
 from guardrungs.bits import is_listed, is_row, is_whole, number_of, spread_groups
-from guardrungs.books import Book, check_names
+from guardrungs.books import Book, check_names, numbered_names
 from guardrungs.errors import BadMachine, BadNumber, OtherShape, TooMany
 
 
@@ -21,8 +21,7 @@ class Machine(Book):
             raise BadNumber("many_inputs")
         if not is_whole(many_outputs, 0, None):
             raise BadNumber("many_outputs")
-        inputs = [f"i{place}" for place in range(many_inputs)]
-        return cls(inputs, [f"o{place}" for place in range(many_outputs)], rows)
+        return cls(numbered_names("i", many_inputs), numbered_names("o", many_outputs), rows)
 
     def start(self):
         """Standing 0."""
@@ -142,8 +141,9 @@ def book_rows(book):
     standings = [book.start()]
     rows = []
     while len(rows) < len(standings):
+        standing = standings[len(rows)]
         groups = []
-        for answer, behind, column in book.step_groups(standings[len(rows)]):
+        for answer, behind, column in book.step_groups(standing):
             if behind not in numbers:
                 numbers[behind] = len(standings)
                 standings.append(behind)

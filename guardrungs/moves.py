@@ -1,6 +1,6 @@
 """How plants move in one cycle: layers of changes, falling rows, and what these lead to."""
 
-from guardrungs.bits import all_rows, check_row, is_whole
+from guardrungs.bits import all_rows, check_row, is_whole, mask_of, places_in
 from guardrungs.errors import BadFalling, BadNumber
 from guardrungs.wishes import fits
 
@@ -24,11 +24,7 @@ class Ground:
 
     def _low(self, place):
         """The lot of all marks whose number has a 0 at this place."""
-        lot = 0
-        for number in range(self.width):
-            if (number >> place) & 1 == 0:
-                lot = lot | (1 << number)
-        return lot
+        return mask_of([number for number in range(self.width) if (number >> place) & 1 == 0])
 
     def _marks_of(self, change):
         """The places, in the numbers of marks, that the change sets."""
@@ -105,7 +101,7 @@ def _pairs(ground, layer):
     """The pairs of the number of marks and the number of the standing."""
     told = []
     for number, lot in layer.items():
-        told.extend([(marks, number) for marks in range(lot.bit_length()) if (lot >> marks) & 1 == 1])
+        told.extend([(marks, number) for marks in places_in(lot)])
     return told
 
 
@@ -269,14 +265,7 @@ class Everywhere:
 
     def pairs_of(self, lot):
         """The pairs of the number of marks and the number of the standing in a lot."""
-        told = []
-        signs = f"{lot:b}"
-        at = signs.find("1")
-        while at >= 0:
-            place = len(signs) - 1 - at
-            told.append((place % self.width, place // self.width))
-            at = signs.find("1", at + 1)
-        return told
+        return [(place % self.width, place // self.width) for place in places_in(lot)]
 
 
 def open_changes(plant, row):

@@ -1,6 +1,7 @@
 """Plants as step chains, and step chains as plants."""
 
 from guardrungs.bits import is_listed
+from guardrungs.books import numbered_names
 from guardrungs.chains import Chain
 from guardrungs.errors import BadLot
 from guardrungs.lotsofone import many_in, wrong_place
@@ -33,8 +34,7 @@ def _ways(plant, change):
 
 def chain_of_plant(plant):
     """The chain of a plant: a step for each standing of each machine, transitions for each change."""
-    inputs = [f"o{number}" for number in range(plant.outputs)]
-    inputs.extend([f"c{number}" for number in range(len(plant.changes))])
+    inputs = numbered_names("o", plant.outputs) + numbered_names("c", len(plant.changes))
     steps = []
     transitions = []
     for machine, (size, _) in enumerate(plant.machines):

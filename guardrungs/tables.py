@@ -1,8 +1,8 @@
 """Tables: lots at which some row holds, so that nothing bad comes and each end stays in reach."""
 
-from guardrungs.bits import is_listed, is_whole
+from guardrungs.bits import is_listed, is_whole, mask_of, places_in
 from guardrungs.errors import BadLot, BadNumber
-from guardrungs.known import Reached, Spread, check_lot, lot_of, mask_of
+from guardrungs.known import Reached, Spread, check_lot, steps_to
 
 
 class Field:
@@ -56,7 +56,7 @@ class Field:
             self.calm_before = self._calm_before()
         before = self.calm_before[choice]
         told = 0
-        for q in lot_of(mask):
+        for q in places_in(mask):
             told = told | before.get((reading, q), 0)
         return told
 
@@ -229,17 +229,13 @@ class Table:
         left = [(told, p)]
         at = 0
         while not self.game.is_end(left[at][1], j):
-            for row, reading, q, behind in self.calm_steps(left[at][0], left[at][1]):
+            pair = left[at]
+            for row, reading, q, behind in self.calm_steps(pair[0], pair[1]):
                 if (behind, q) not in before:
-                    before[(behind, q)] = (left[at], (row, reading, q))
+                    before[(behind, q)] = (pair, (row, reading, q))
                     left.append((behind, q))
             at += 1
-        steps = []
-        pair = left[at]
-        while before[pair] is not None:
-            pair, step = before[pair]
-            steps.append(step)
-        return tuple(reversed(list(steps)))
+        return steps_to(before, left[at])
 
 
 def _told_lots(arena, lots):

@@ -24,6 +24,12 @@ def check_timer(kind, number):
         raise BadNumber("number")
 
 
+def check_counter(number):
+    """Raise BadNumber unless this is a counter's number."""
+    if not is_counter(number):
+        raise BadNumber("number")
+
+
 def timer_start(kind, number):
     """The timer's count at the start."""
     check_timer(kind, number)
@@ -55,8 +61,7 @@ def timer_step(kind, number, count, bit):
 
 def counter_step(number, count, last, bit, clear):
     """The counter's bit, its new count and the bit counted last, worked with bit and clear."""
-    if not is_counter(number):
-        raise BadNumber("number")
+    check_counter(number)
     if clear == 1:
         count = 0
     elif bit == 1 and last == 0:

@@ -5,12 +5,7 @@ from guardrungs.errors import BadNumber
 from guardrungs.least import least
 from guardrungs.machines import machine_of
 from guardrungs.rungs import Rungs
-from guardrungs.ticks import check_timer, counter_step, is_counter, timer_start, timer_step
-
-
-def _check_counter(number):
-    if not is_counter(number):
-        raise BadNumber("number")
+from guardrungs.ticks import check_counter, check_timer, counter_step, timer_start, timer_step
 
 
 def timer_bits(kind, number, bits):
@@ -26,7 +21,7 @@ def timer_bits(kind, number, bits):
 
 def counter_bits(number, bits, clears):
     """The counter's bits, worked with one bit and one clearing bit after the other."""
-    _check_counter(number)
+    check_counter(number)
     row = check_bits(bits)
     told = []
     count = 0
@@ -46,7 +41,7 @@ def timer_machine(kind, number):
 
 def counter_machine(number):
     """The least machine of the counter."""
-    _check_counter(number)
+    check_counter(number)
     rungs = ((("name", "feed"), (("count", "u", "clear"),)), (("name", "u"), (("put", "out"),)))
     return least(machine_of(Rungs(("feed", "clear"), ("out",), (), rungs, counters=(("u", number),))))
 

@@ -266,16 +266,22 @@ class TestSubset(unittest.TestCase):
                     for decorator in node.decorator_list:
                         self.assertIn(decorator.id, ("property", "classmethod", "staticmethod"))
 
-    def test_loops_do_not_change_what_they_go_over(self):
+    def test_loops_do_not_change_what_their_heads_mention(self):
         changing = {"append", "extend", "insert", "pop", "remove", "update", "clear", "setdefault"}
         for name, tree in self.each():
             for node in ast.walk(tree):
-                if isinstance(node, ast.For) and isinstance(node.iter, (ast.Name, ast.Attribute)):
-                    over = ast.unparse(node.iter)
-                    for part in ast.walk(node):
-                        if isinstance(part, ast.Call) and isinstance(part.func, ast.Attribute):
-                            if part.func.attr in changing:
-                                self.assertNotEqual(ast.unparse(part.func.value), over, f"{name}:{part.lineno}")
+                if not isinstance(node, ast.For) or ast.unparse(node.iter).startswith("range("):
+                    continue
+                heads = {ast.unparse(part) for part in ast.walk(node.iter) if isinstance(part, (ast.Name, ast.Attribute))}
+                for part in [one for row in node.body for one in ast.walk(row)]:
+                    changed = None
+                    if isinstance(part, ast.Call) and isinstance(part.func, ast.Attribute):
+                        if part.func.attr in changing:
+                            changed = part.func.value
+                    elif isinstance(part, ast.Subscript) and isinstance(part.ctx, ast.Store):
+                        changed = part.value
+                    if changed is not None:
+                        self.assertNotIn(ast.unparse(changed), heads, f"{name}:{part.lineno}")
 
 
 if __name__ == "__main__":
