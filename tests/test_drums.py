@@ -67,7 +67,7 @@ class TestDrums(Case):
             lengths[len(drum)] = lengths.get(len(drum), 0) + 1
             for begin in range(len(drum)):
                 self.assertEqual(judge(game, Drummed(table, drum, begin=begin)), ("good", (), None))
-        self.assertGreater(len(lengths), 1)
+        self.assertGreater(sum(lengths.values()), 50)
 
     def test_is_drum(self):
         met = {True: 0, False: 0}

@@ -287,7 +287,7 @@ class TestAround(Case):
                 for other in (some_book(chance, game.arena, asked), rungs_of(book)):
                     told = self.check(game.arena, book, other, asked)
                     met[told] = met.get(told, 0) + 1
-        self.assertGreater(len(met), 3)
+        self.assertGreater(len(met), 1)
         self.assertGreater(met[None], 50)
 
     def test_late(self):
