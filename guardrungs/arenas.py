@@ -112,15 +112,15 @@ class Making:
     def tellings(self, states, true, last):
         """All ways in which faults can begin: what the inputs tell, and the states behind it."""
         ways = [((), (), len([kind for kind in states if kind != ""]))]
-        for place, (state, bit) in enumerate(zip(states, true)):
+        for place, (state, bit) in list(enumerate(zip(states, true))):
             ahead = last[place] if last else 0
             kinds = [state]
             if state == "":
                 may = [kind for at, kind in self.arena.faults if at == place]
                 kinds.extend([kind for kind in may if _told_bit(kind, bit, ahead) != bit])
             longer = []
-            for told, behind, many in ways:
-                for kind in kinds:
+            for told, behind, many in list(ways):
+                for kind in list(kinds):
                     now = many if kind == state else many + 1
                     if kind == state or now <= self.arena.many:
                         longer.append((told + (_told_bit(kind, bit, ahead),), behind + (kind,), now))

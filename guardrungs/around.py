@@ -15,7 +15,7 @@ def _is_asked(arena, *books):
     return True
 
 
-class Both:
+class TwoAround:
     """Two books around one arena, as long as they answer alike."""
 
     def __init__(self, arena, book, other, is_asked):
@@ -45,8 +45,8 @@ class Both:
         for (told, behind), (_, other) in zip(steps, others):
             moves = self.arena.place_at(place[1], self.arena.checked_row(told[-1]))
             nodes.setdefault((moves, behind, other), told)
-        for node, told in nodes.items():
-            for reading, q in self.arena.made.lots[node[0]]:
+        for node, told in list(nodes.items()):
+            for reading, q in list(self.arena.made.lots[node[0]]):
                 following = (reading, q, node[1], node[2])
                 if following not in self.before:
                     self.before[following] = (place, told + (reading, q))
@@ -55,7 +55,7 @@ class Both:
 
 def unlike_around(arena, book, other):
     """A shortest run of both books behind which they answer unlike; None if they are alike around the arena."""
-    return Both(arena, book, other, _is_asked(arena, book, other)).unlike()
+    return TwoAround(arena, book, other, _is_asked(arena, book, other)).unlike()
 
 
 class ComparingAround:
@@ -68,7 +68,7 @@ class ComparingAround:
 
     def alike(self, book):
         """True if this book is alike the first one around the arena."""
-        return Both(self.arena, self.book, book, self.is_asked).unlike() is None
+        return TwoAround(self.arena, self.book, book, self.is_asked).unlike() is None
 
 
 def needless_around(arena, book):

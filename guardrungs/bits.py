@@ -146,9 +146,9 @@ def _groups_in(lists, full):
     groups = [full]
     if full == 1:
         return groups
-    for column in _columns_in(lists):
+    for column in list(_columns_in(lists)):
         parted = []
-        for group in groups:
+        for group in list(groups):
             inside = group & column
             if inside in (0, group):
                 parted.append(group)

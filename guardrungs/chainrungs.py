@@ -31,7 +31,7 @@ class Names:
             oldest[action[1]] = max([oldest[action[1]]] + numbers)
         cells = fresh_names("a", sum(list(oldest.values())), taken)
         self.ages = {}
-        for step, many in oldest.items():
+        for step, many in list(oldest.items()):
             self.ages[step] = cells[:many]
             cells = cells[many:]
 

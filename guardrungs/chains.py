@@ -19,10 +19,10 @@ class ChainCycle:
         many = len(chain.steps)
         self.old = {step: full for step, bit in zip(chain.steps, standing) if bit == 1}
         self.ages = {step: age for step, age in zip(chain.steps, standing[many:]) if step in self.old}
-        for step in chain.steps:
+        for step in list(chain.steps):
             self.bits[step] = self.old.get(step, 0)
         names = chain.outputs + chain.cells
-        for name, bit in zip(names, standing[2 * many:]):
+        for name, bit in list(zip(names, standing[2 * many:])):
             self.bits[name] = full * bit
         self.seen = [full * bit for bit in standing[2 * many + len(names):]]
         self.taken = {}
@@ -39,9 +39,9 @@ class ChainCycle:
             column = column & worked(formula, self.bits, seen, self.full)
         if column == 0:
             return
-        for step in froms:
+        for step in list(froms):
             self.taken[step] = self.taken.get(step, 0) | column
-        for step in tos:
+        for step in list(tos):
             self.given[step] = self.given.get(step, 0) | column
         self.fired.append(place)
 
@@ -54,7 +54,7 @@ class ChainCycle:
         """Set marks and ages; top is the greatest age. Each step that is marked in some case is returned."""
         marked = []
         new = [step for step in self.given if step not in self.old]
-        for step in list(self.old) + new:
+        for step in list(list(self.old) + new):
             self.bits[step] = self.stays(step) | self.given.get(step, 0)
             self.ages[step] = min(self.ages.get(step, 0) + 1, top)
             if self.bits[step] != 0:
@@ -88,14 +88,14 @@ class Chain(Book):
         self._check()
         self._edges = {}
         self._leaving = {step: [] for step in self.steps}
-        for place, (froms, formula, _) in enumerate(self.transitions):
+        for place, (froms, formula, _) in list(enumerate(self.transitions)):
             self._leaving[froms[0]].append(place)
             edges = told_edges(formula)
             if edges:
                 self._edges[place] = edges
         self._shown = tuple([action[2] for action in self.actions if action[0] == "show"])
         self._acts = {step: [] for step in self.steps}
-        for action in self.actions:
+        for action in list(self.actions):
             self._acts[action[1]].append(action)
         numbers = [number for action in self.actions for number in action[3:] if number is not None]
         self._top = max(numbers, default=0)
@@ -174,10 +174,10 @@ class Chain(Book):
     def _act(self, cycle, marked):
         """Set the names behind the marks and ages."""
         bits = cycle.bits
-        for name in self._shown:
+        for name in list(self._shown):
             bits[name] = 0
         actions = [action for step in marked for action in self._acts[step]]
-        for action in actions:
+        for action in list(actions):
             word, step, name = action[:3]
             if word == "show":
                 bits[name] = bits[name] | cycle.shown(step, action[3], action[4])

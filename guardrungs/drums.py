@@ -21,7 +21,7 @@ class Beat:
         self.numbers = {pair: number for number, pair in enumerate(self.pairs)}
         # For each pair its calm steps under the rows that hold, by the choices of these rows.
         self.steps = []
-        for lot, p in self.pairs:
+        for lot, p in list(self.pairs):
             told = {}
             for row, _, q, behind in table.calm_steps(lot, p):
                 told.setdefault(self.choice_of(row), []).append((row, self.numbers[(behind, q)]))
@@ -61,7 +61,7 @@ class Beat:
         at = 0
         while at < len(left):
             behind = left[at]
-            for number in before[behind]:
+            for number in list(before[behind]):
                 if number not in told:
                     told[number] = told[behind] + 1
                     left.append(number)
@@ -102,7 +102,7 @@ class Roll:
                 images[mask] = image
         self.now = [images[mask] for mask in self.now]
         self.rows.append(row)
-        for end, mask in enumerate(self.ends):
+        for end, mask in list(enumerate(self.ends)):
             self.lacking[end] = [number for number in self.lacking[end] if self.now[number] & mask == 0]
 
     def bring(self, number, end):
@@ -158,9 +158,9 @@ class Backwards:
     def ask_ahead(self, row):
         """Let this row be asked ahead of all others."""
         ahead = dict(self.there)
-        for number in self.numbers:
+        for number in list(self.numbers):
             choice = self.choice_at(number, row)
-            for reading, behind in self.field.steps[number][choice]:
+            for reading, behind in list(self.field.steps[number][choice]):
                 begins = self.begins(choice, reading, self.now[behind])
                 ahead[number] = ahead[number] | (begins & self.field.masks[number])
         self.now = ahead

@@ -25,7 +25,7 @@ def is_formula(value, names=None, depth=DEEPEST):
     level = [value]
     for _ in range(depth):
         below = []
-        for part in level:
+        for part in list(level):
             if not _is_part(part, names):
                 return False
             if part[0] == "not":

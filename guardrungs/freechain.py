@@ -25,7 +25,7 @@ class Walk:
         at = 0
         while at < len(self.met):
             marks = self.met[at]
-            for lot in self.lots_at(marks):
+            for lot in list(self.lots_at(marks)):
                 behind = self.behind(marks, lot)
                 if behind not in self.came:
                     self.came[behind] = (marks, lot)

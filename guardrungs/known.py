@@ -80,7 +80,7 @@ class Reached:
 
     def numbered(self, pairs):
         """The pairs with the numbers of lots in place of masks; new lots are added."""
-        for _, mask in pairs:
+        for _, mask in list(pairs):
             if mask not in self.numbers:
                 self.numbers[mask] = len(self.lots)
                 self.lots.append(tuple(places_in(mask)))

@@ -64,15 +64,15 @@ class Around:
         behinds gets for each place of the level its nodes.
         """
         following = []
-        for number in self.level:
+        for number in list(self.level):
             nodes = {}
             _, p, _ = self.places[number]
-            for told, behind in self.answers(number):
+            for told, behind in list(self.answers(number)):
                 node = (self.arena.place_at(p, self.arena.checked_row(told[-1])), behind)
                 if node in nodes:
                     continue
                 nodes[node] = True
-                for reading, q in self.arena.made.lots[node[0]]:
+                for reading, q in list(self.arena.made.lots[node[0]]):
                     place = (reading, q, behind)
                     if place not in self.numbers and (most is None or len(self.places) <= most):
                         self.numbers[place] = len(self.places)

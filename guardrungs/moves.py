@@ -36,7 +36,7 @@ class Ground:
         while len(self.told_arrows) <= number:
             standing = self.standings[len(self.told_arrows)]
             told = []
-            for change in self.plant.changes:
+            for change in list(self.plant.changes):
                 behind = self.plant.led(standing, change)
                 if behind is not None:
                     if behind not in self.numbers:
@@ -89,7 +89,7 @@ def _following(ground, row, layer):
 def _added(found, layer):
     """Add the layer to what is found; the pairs that are new are returned."""
     fresh = {}
-    for number, lot in layer.items():
+    for number, lot in list(layer.items()):
         old = found.get(number, 0)
         if lot | old != old:
             fresh[number] = (lot | old) ^ old
@@ -171,8 +171,8 @@ def rows_of_changes(plant, standing, row, many):
     length = 0
     while level and length < many:
         longer = []
-        for changes, now in level:
-            for change in plant.possible(now, told):
+        for changes, now in list(level):
+            for change in list(plant.possible(now, told)):
                 longer.append((changes + (change,), plant.led(now, change)))
                 yield changes + (change,)
         level = longer
@@ -247,7 +247,7 @@ class Everywhere:
             old = list(self.lots)
             touched = sorted({number for behind in grown for number in ahead[behind]})
             grown = []
-            for number in touched:
+            for number in list(touched):
                 self.lots[number] = self.own[number] | self._behind(number, old)
                 if self.lots[number] != old[number]:
                     grown.append(number)
@@ -259,9 +259,8 @@ class Everywhere:
         self.grow(None if most is None else most - least)
         for _ in range(least):
             old = list(self.lots)
-            for number, ways in enumerate(self.ways):
+            for number, ways in list(enumerate(self.ways)):
                 self.lots[number] = self._behind(number, old) if ways else self.own[number]
-
 
     def pairs_of(self, lot):
         """The pairs of the number of marks and the number of the standing in a lot."""

@@ -40,7 +40,7 @@ class Plant:
         self.origin = (0,) * len(self.machines)
         self._ways = []
         self._having = {}
-        for number, (_, arrows) in enumerate(self.machines):
+        for number, (_, arrows) in list(enumerate(self.machines)):
             self._ways.append({(begin, change): end for begin, change, end in arrows})
             for change in sorted({change for _, change, _ in arrows}):
                 self._having[change] = self._having.get(change, ()) + (number,)
@@ -85,7 +85,7 @@ class Plant:
         """Look at the drivers and keep what drives each change."""
         if not is_listed(drivers):
             raise BadPlant("driver", -1)
-        for place, driver in enumerate(drivers):
+        for place, driver in list(enumerate(drivers)):
             if not isinstance(driver, tuple) or len(driver) != 3 or not self._is_change(driver[0]):
                 raise BadPlant("driver", place)
             change, output, bit = driver

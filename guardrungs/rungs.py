@@ -25,14 +25,14 @@ class RungCycle:
         self.timers = {name: (kind, number) for name, kind, number in book.timers}
         self.counters = {name: number for name, number in book.counters}
         at = 0
-        for name in book.outputs + book.cells:
+        for name in list(book.outputs + book.cells):
             self.bits[name] = full * standing[at]
             at += 1
-        for name, _, _ in book.timers:
+        for name, _, _ in list(book.timers):
             self.counts[name] = standing[at]
             self.bits[name] = full * standing[at + 1]
             at += 2
-        for name, number in book.counters:
+        for name, number in list(book.counters):
             self.counts[name] = standing[at]
             self.counted_last[name] = standing[at + 1]
             self.bits[name] = full if standing[at] == number else 0
@@ -149,9 +149,9 @@ class Rungs(Book):
         """For groups of cases the answer, the standing behind the cycle and the column."""
         answers = [cycle.bits[name] for name in self.outputs]
         kept = answers + [cycle.bits[name] for name in self.cells]
-        for name, _, _ in self.timers:
+        for name, _, _ in list(self.timers):
             kept.extend([cycle.counts[name], cycle.bits[name]])
-        for name, _ in self.counters:
+        for name, _ in list(self.counters):
             kept.extend([cycle.counts[name], cycle.counted_last[name]])
         return told_groups(answers, kept + seen, cycle.full)
 

@@ -79,8 +79,8 @@ def held_answers(book, k):
         if len(rows) > 2000:
             raise TooMany(2000)
         following = []
-        for pair in level:
-            for number, (answer, behind) in enumerate(plain.each_step(pair[0])):
+        for pair in list(level):
+            for number, (answer, behind) in list(enumerate(plain.each_step(pair[0]))):
                 held_behind = holder.behind(pair[1], number, answer)
                 if held_behind is None:
                     return tuple([row_at(one, len(book.inputs)) for one in rows[pair] + (number,)])

@@ -22,7 +22,7 @@ class Field:
         self.masks = [mask_of(lot) for lot in lots]
         self.ahead = [[] for _ in lots]
         self.lost = []
-        for number, lot in enumerate(lots):
+        for number, lot in list(enumerate(lots)):
             self.lost.append([self.against(number, lot, choice) for choice in range(len(steps[number]))])
         self.calm_before = None
 
@@ -32,7 +32,7 @@ class Field:
         row = self.made.choices.index(choice)
         if any([self.game.bad_at(p, row) for p in lot]):
             many += 1
-        for reading, behind in self.steps[number][choice]:
+        for reading, behind in list(self.steps[number][choice]):
             if behind < 0:
                 many += 1
             else:
@@ -46,7 +46,7 @@ class Field:
     def throw_out(self, number):
         """Let this lot be left no more."""
         self.left[number] = False
-        for other, choice, _ in self.ahead[number]:
+        for other, choice, _ in list(self.ahead[number]):
             lost = self.lost[other]
             lost[choice] += 1
 
@@ -144,7 +144,7 @@ class Table:
         self.lots = tuple(sorted([lot for lot, at in zip(reached.lots, rounds) if at is None]))
         self.places = {lot: place for place, lot in enumerate(self.lots)}
         self.told_rows = {}
-        for number, lot in enumerate(reached.lots):
+        for number, lot in list(enumerate(reached.lots)):
             if rounds[number] is None:
                 choices = {choice: True for choice in field.holding(number)}
                 held = [row for row, choice in zip(arena.rows, arena.made.choices) if choice in choices]

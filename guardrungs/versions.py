@@ -61,7 +61,7 @@ class Weaver:
         formula, deeds = rung
         seen = {name: self.gate("cell", (self.look(name),)) for name in told_edges(formula)}
         wire = self.formula(formula, seen)
-        for deed in deeds:
+        for deed in list(deeds):
             self.wires[deed[1]] = self.deed(deed, wire)
 
     def deed(self, deed, wire):

@@ -32,6 +32,71 @@ NODES = (
     ast.Set, ast.NamedExpr, ast.AnnAssign, ast.Try, ast.Match, ast.Nonlocal, ast.MatMult)
 
 
+CHANGING = {
+    "append", "extend", "insert", "pop", "remove", "update", "clear", "setdefault", "reverse", "sort", "appendleft",
+    "popleft"}
+NEW = {"list", "sorted", "range", "tuple", "dict", "set"}
+
+
+def is_new(node):
+    """True for a value that is nothing else: a literal, a comprehension, a copy."""
+    if isinstance(node, (ast.List, ast.Tuple, ast.Dict, ast.ListComp, ast.DictComp)):
+        return True
+    if isinstance(node, ast.BinOp) and isinstance(node.op, ast.Mult):
+        return isinstance(node.left, ast.List)
+    return isinstance(node, ast.Call) and isinstance(node.func, ast.Name) and node.func.id in NEW
+
+
+def branches(node):
+    """The values that this expression may be, as far as they are written there."""
+    if isinstance(node, ast.IfExp):
+        return branches(node.body) + branches(node.orelse)
+    if isinstance(node, (ast.BoolOp, ast.Tuple)):
+        return [one for part in (node.values if isinstance(node, ast.BoolOp) else node.elts) for one in branches(part)]
+    return [node]
+
+
+def own_lists(function):
+    """The local names that are only ever new lists and dicts, and are given to no other name and no field."""
+    fine, other = set(), {arg.arg for arg in ast.walk(function.args) if isinstance(arg, ast.arg)}
+    for node in ast.walk(function):
+        if isinstance(node, ast.Assign):
+            other |= {one.id for one in branches(node.value) if isinstance(one, ast.Name)}
+            for target in node.targets:
+                for part in ast.walk(target):
+                    if isinstance(part, ast.Name) and isinstance(part.ctx, ast.Store):
+                        (fine if target is part and is_new(node.value) else other).add(part.id)
+        elif isinstance(node, ast.For):
+            other |= {part.id for part in ast.walk(node.target) if isinstance(part, ast.Name)}
+    return fine - other
+
+
+def changed_in(loop):
+    """What the rows of the loop change: names, or fields of whatever."""
+    for part in [one for row in loop.body + loop.orelse for one in ast.walk(row)]:
+        root = None
+        if isinstance(part, ast.Call) and isinstance(part.func, ast.Attribute) and part.func.attr in CHANGING:
+            root = part.func.value
+        elif isinstance(part, ast.Call) and isinstance(part.func, ast.Name) and part.func.id.startswith("heap"):
+            root = part.args[0]
+        elif isinstance(part, ast.Subscript) and isinstance(part.ctx, (ast.Store, ast.Del)):
+            root = part.value
+        while isinstance(root, (ast.Subscript, ast.Call)):
+            root = root.func if isinstance(root, ast.Call) else root.value
+            root = root.value if isinstance(root, ast.Attribute) and root.attr in CHANGING else root
+        if root is not None:
+            yield root
+
+
+def old_walks(function):
+    """The rows of loops that walk what may be a list that they change."""
+    fine = own_lists(function)
+    for loop in ast.walk(function):
+        if isinstance(loop, ast.For) and not is_new(loop.iter):
+            if not all(isinstance(root, ast.Name) and root.id in fine for root in changed_in(loop)):
+                yield loop.lineno
+
+
 def files():
     return sorted(name for name in os.listdir(ROOT) if name.endswith(".py"))
 
@@ -282,6 +347,25 @@ class TestSubset(unittest.TestCase):
                         changed = part.value
                     if changed is not None:
                         self.assertNotIn(ast.unparse(changed), heads, f"{name}:{part.lineno}")
+
+    def test_loops_that_change_something_walk_new_lists(self):
+        """What a loop changes is a list of its function that nothing else is, or what the loop walks is a new list."""
+        for name, tree in self.each():
+            for function in ast.walk(tree):
+                if isinstance(function, ast.FunctionDef):
+                    self.assertEqual(list(old_walks(function)), [], name)
+
+    def test_the_rule_of_loops_sees_what_it_should(self):
+        told = {
+            "for x in xs:\n  ys.append(x)\n ys = xs": 1, "ys = []\n for x in xs:\n  ys.append(x)\n xs = ys": 1,
+            "ys = []\n for x in xs:\n  ys.append(x)": 0, "for x in list(xs):\n  self.ys.append(x)": 0,
+            "for x in xs:\n  self.ys.append(x)": 1, "for x in self.xs:\n  self.ys[x] = 1": 1,
+            "ys = {}\n for x, k in zip(self.xs, xs):\n  ys[k] = x": 0, "for x in list(xs) + new:\n  self.ys[x] = 1": 1,
+            "for x in range(3):\n  self.ys[x] = 1": 0, "for k, x in list(enumerate(xs)):\n  self.ys[k].append(x)": 0,
+            "ys = {}\n zs = ys if xs else {}\n for x in xs:\n  zs[x] = 1": 1}
+        for body, many in told.items():
+            function = ast.parse(f"def f(self, xs, new):\n {body}\n").body[0]
+            self.assertEqual(len(list(old_walks(function))), many, body)
 
 
 if __name__ == "__main__":
