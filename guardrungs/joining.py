@@ -6,18 +6,18 @@ from guardrungs.errors import BadNumber, OtherShape
 from guardrungs.machines import two_names
 
 
-def _parted(standing):
+def parts_of(standing):
     """The standings of the two parts."""
     many = standing[0]
     return tuple(standing[1:1 + many]), tuple(standing[1 + many:])
 
 
-def _joined(first, second):
+def both_standings(first, second):
     """The standing of the whole."""
     return (len(first),) + tuple(first) + tuple(second)
 
 
-def _crossed(groups, others, with_first):
+def crossed(groups, others, with_first):
     """The groups of the whole from those of its parts; with_first tells if its answer has that of the first part."""
     told = []
     for answer, behind, column in groups:
@@ -25,7 +25,7 @@ def _crossed(groups, others, with_first):
             both = column & other_column
             if both != 0:
                 whole = answer + other_answer if with_first else other_answer
-                told.append((whole, _joined(behind, other_behind), both))
+                told.append((whole, both_standings(behind, other_behind), both))
     return told
 
 
@@ -40,7 +40,7 @@ class Beside(Book):
 
     def start(self):
         """Both stand at their starts."""
-        return _joined(self.first.start(), self.second.start())
+        return both_standings(self.first.start(), self.second.start())
 
     def step(self, standing, reading):
         """The answer and the next standing."""
@@ -48,10 +48,10 @@ class Beside(Book):
 
     def groups(self, standing, columns, full):
         """For groups of cases answer, next standing and column."""
-        first, second = _parted(standing)
+        first, second = parts_of(standing)
         many = len(self.first.inputs)
         groups = self.first.groups(first, columns[:many], full)
-        return _crossed(groups, self.second.groups(second, columns[many:], full), True)
+        return crossed(groups, self.second.groups(second, columns[many:], full), True)
 
 
 class InRow(Book):
@@ -67,7 +67,7 @@ class InRow(Book):
 
     def start(self):
         """Both stand at their starts."""
-        return _joined(self.first.start(), self.second.start())
+        return both_standings(self.first.start(), self.second.start())
 
     def step(self, standing, reading):
         """The answer and the next standing."""
@@ -75,25 +75,21 @@ class InRow(Book):
 
     def groups(self, standing, columns, full):
         """For groups of cases answer, next standing and column."""
-        first, second = _parted(standing)
+        first, second = parts_of(standing)
         groups = self.first.groups(first, columns, full)
         handed_on = [0] * len(self.second.inputs)
         for answer, _, column in groups:
             handed_on = [told | column * bit for told, bit in zip(handed_on, answer)]
-        return _crossed(groups, self.second.groups(second, handed_on, full), False)
+        return crossed(groups, self.second.groups(second, handed_on, full), False)
 
 
-class Bent(Book):
-    """A book that reads at its input k the bit of the input at the place wires[k]."""
+class Wired(Book):
+    """A book of so many inputs that hands those at the places wires, in their order, to another one."""
 
-    def __init__(self, book, wires):
-        if not is_listed(wires) or len(wires) != len(book.inputs):
-            raise BadNumber("wires")
-        if not all([is_whole(place, 0, 11) for place in wires]):
-            raise BadNumber("wires")
+    def __init__(self, book, many, wires):
         self.book = book
         self.wires = tuple(wires)
-        self.inputs = numbered_names("n", max(wires, default=-1) + 1)
+        self.inputs = numbered_names("n", many)
         self.outputs = tuple(two_names(book.outputs, ()))
 
     def start(self):
@@ -108,3 +104,28 @@ class Bent(Book):
     def groups(self, standing, columns, full):
         """For groups of cases answer, next standing and column."""
         return self.book.groups(standing, [columns[place] for place in self.wires], full)
+
+
+class Bent(Book):
+    """A book that reads at its input k the bit of the input at the place wires[k]."""
+
+    def __init__(self, book, wires):
+        if not is_listed(wires) or len(wires) != len(book.inputs):
+            raise BadNumber("wires")
+        if not all([is_whole(place, 0, 11) for place in wires]):
+            raise BadNumber("wires")
+        self.wired = Wired(book, max(wires, default=-1) + 1, wires)
+        self.inputs = self.wired.inputs
+        self.outputs = self.wired.outputs
+
+    def start(self):
+        """The book's start."""
+        return self.wired.start()
+
+    def step(self, standing, reading):
+        """The answer and the next standing."""
+        return self.wired.step(standing, reading)
+
+    def groups(self, standing, columns, full):
+        """For groups of cases answer, next standing and column."""
+        return self.wired.groups(standing, columns, full)

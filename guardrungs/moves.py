@@ -56,10 +56,22 @@ class Ground:
             number += 1
         return True
 
+    def named_ways(self, number, row):
+        """For each change that is possible at this standing under the row: it, its marks, the standing behind it."""
+        arrows = self.arrows_of(number)
+        return [(change, self.marks[change], behind) for change, behind in arrows if self.plant.lets(change, row)]
+
     def ways_from(self, number, row):
-        """For each change that is possible at this standing under the row its marks and the standing behind it."""
+        """The same without the changes."""
         arrows = self.arrows_of(number)
         return [(self.marks[change], behind) for change, behind in arrows if self.plant.lets(change, row)]
+
+    def marks_number(self, row):
+        """The number that the marks in a row of a bit for each input have."""
+        number = 0
+        for place in self.marked:
+            number = 2 * number + row[place]
+        return number
 
     def marks_row(self, number):
         """The row of a bit for each input, 1 for the marks that this number tells."""
@@ -77,7 +89,7 @@ def lifted(lot, places, lows):
     return lot
 
 
-def _following(ground, row, layer):
+def following_layer(ground, row, layer):
     """The pairs that one change more leads to; a layer is a dict from standings' numbers to lots of marks."""
     told = {}
     for number, lot in layer.items():
@@ -86,7 +98,7 @@ def _following(ground, row, layer):
     return told
 
 
-def _added(found, layer):
+def added(found, layer):
     """Add the layer to what is found; the pairs that are new are returned."""
     fresh = {}
     for number, lot in list(layer.items()):
@@ -97,7 +109,7 @@ def _added(found, layer):
     return fresh
 
 
-def _pairs(ground, layer):
+def layer_pairs(layer):
     """The pairs of the number of marks and the number of the standing."""
     told = []
     for number, lot in layer.items():
@@ -110,7 +122,7 @@ def is_falling(least, most):
     return is_whole(least, 0, 24) and (most is None or is_whole(most, least, 24))
 
 
-def _check_falling(least, most):
+def check_falling(least, most):
     if not is_falling(least, most):
         raise BadFalling()
 
@@ -128,23 +140,25 @@ def layers(plant, standing, row, many):
     layer = {0: 1}
     found = []
     for _ in range(many + 1):
-        pairs = [(ground.marks_row(marks), ground.standings[number]) for marks, number in _pairs(ground, layer)]
+        pairs = [(ground.marks_row(marks), ground.standings[number]) for marks, number in layer_pairs(layer)]
         found.append(tuple(sorted(pairs)))
-        layer = _following(ground, told, layer)
+        layer = following_layer(ground, told, layer)
     return tuple(found)
 
 
-def _fallen(ground, row, least, most):
-    """All pairs that falling rows lead to, as a layer."""
-    layer = {0: 1}
+def fallen(ground, row, least, most, layer):
+    """All pairs that falling rows lead to from those of the layer, as a layer; no bounds are looked at."""
     found = {}
     for _ in range(least):
-        _added(found, {number: lot for number, lot in layer.items() if not ground.ways_from(number, row)})
-        layer = _following(ground, row, layer)
-    fresh = _added(found, layer)
+        added(found, {number: lot for number, lot in layer.items() if not ground.ways_from(number, row)})
+        following = following_layer(ground, row, layer)
+        if following == layer:
+            break
+        layer = following
+    fresh = added(found, layer)
     left = None if most is None else most - least
     while fresh and left != 0:
-        fresh = _added(found, _following(ground, row, fresh))
+        fresh = added(found, following_layer(ground, row, fresh))
         left = None if left is None else left - 1
     return found
 
@@ -152,10 +166,15 @@ def _fallen(ground, row, least, most):
 def falling_moves(plant, standing, row, least, most):
     """The moves, pairs of true reading and plant standing."""
     told = check_row(row, plant.outputs)
-    _check_falling(least, most)
+    check_falling(least, most)
+    return moves_from(plant, standing, told, least, most)
+
+
+def moves_from(plant, standing, row, least, most):
+    """The moves; the row is right, and the numbers may be greater than those of a falling."""
     ground = Ground(plant, standing)
     moves = []
-    for marks, number in _pairs(ground, _fallen(ground, told, least, most)):
+    for marks, number in layer_pairs(fallen(ground, row, least, most, {0: 1})):
         levels = plant.level_row(ground.standings[number])
         reading = tuple([bit | mark for bit, mark in zip(levels, ground.marks_row(marks))])
         moves.append((reading, ground.standings[number]))
@@ -188,14 +207,14 @@ def depth(plant, standing, row):
     many = -1
     while fresh:
         many += 1
-        fresh = _added(found, _following(ground, told, fresh))
+        fresh = added(found, following_layer(ground, told, fresh))
     return many
 
 
 def meets(plant, standing, row, least, most, never):
     """True if some falling row meets a place of never."""
     told = check_row(row, plant.outputs)
-    _check_falling(least, most)
+    check_falling(least, most)
     # Each row of at most most changes is the beginning of a falling row.
     ground = Ground(plant, standing)
     met = {}

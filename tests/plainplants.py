@@ -190,22 +190,30 @@ class PlainArena:
             self.runs_out.append(out)
 
     def pairs(self, standing, row):
-        p, counts, states, last = standing
         told, over = set(), False
-        for true, q in moves(self.plant, p, row, self.least, self.most):
-            left = []
-            for count, (begin, end, n) in zip(counts, self.waits):
-                if count == 0:
-                    left.append(n if is_in(begin, q) and not is_in(end, q) else 0)
-                elif is_in(end, q):
-                    left.append(0)
-                else:
-                    over = over or count == 1
-                    left.append(count - 1)
-            for kinds in itertools.product(("", "stuck0", "stuck1", "late"), repeat=len(states)):
-                if self.may(states, kinds, true, last):
-                    reading = tuple(self.bit(kind, bit, last, k) for k, (kind, bit) in enumerate(zip(kinds, true)))
-                    told.add((reading, (q, tuple(left), kinds, true if self.late else ())))
+        for true, q in moves(self.plant, standing[0], row, self.least, self.most):
+            pairs, out = self.behind(standing, true, q)
+            told |= pairs
+            over = over or out
+        return told, over
+
+    def behind(self, standing, true, q):
+        """The pairs of what is told and the arena standing behind, for a true reading at q; whether a wait runs out."""
+        _, counts, states, last = standing
+        told, over = set(), False
+        left = []
+        for count, (begin, end, n) in zip(counts, self.waits):
+            if count == 0:
+                left.append(n if is_in(begin, q) and not is_in(end, q) else 0)
+            elif is_in(end, q):
+                left.append(0)
+            else:
+                over = over or count == 1
+                left.append(count - 1)
+        for kinds in itertools.product(("", "stuck0", "stuck1", "late"), repeat=len(states)):
+            if self.may(states, kinds, true, last):
+                reading = tuple(self.bit(kind, bit, last, k) for k, (kind, bit) in enumerate(zip(kinds, true)))
+                told.add((reading, (q, tuple(left), kinds, true if self.late else ())))
         return told, over
 
     def bit(self, kind, bit, last, place):

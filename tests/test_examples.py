@@ -1,4 +1,4 @@
-"""The examples of the document's stages 1 to 9, as they stand there."""
+"""The examples of the document, as they stand there."""
 
 import doctest
 import unittest
@@ -199,6 +199,69 @@ EXAMPLES = r"""
 >>> book = Machine((), ("y",), ((((1,), 0),),))
 >>> (is_play(game, play), reason_wrong(game, ()), lasts(game, 0), lasts(game, 1), judge(game, book))
 (True, 0, True, False, ('bad', (), (1,)))
+
+>>> from guardrungs.carried import carried_upto
+>>> from guardrungs.charts import judge_chart
+>>> from guardrungs.plants import Plant
+>>> from guardrungs.wishes import Wish
+>>> arrows = ((0, "aa", 1), (0, "bb", 2), (1, "bb", 3), (2, "aa", 3), (3, "cc", 0))
+>>> plant = Plant(((4, arrows),), 2, (("level", 0, (1,)), ("level", 0, (2,))), drivers=(("aa", 0, 1), ("bb", 1, 1)))
+>>> chart = (((1, 1), (1, 0), (0, 1), (0, 0)), ((1, 2, 0), (1, 3, 1), (3, 2, 2), (3, 3, 0)))
+>>> (judge_chart(plant, Wish((((0, 3),),), ()), chart), carried_upto(plant, chart))
+(('good', (), None), 1)
+
+>>> from guardrungs.manychanges import rows_at
+>>> from guardrungs.onebyone import freest_chart
+>>> from guardrungs.plants import Plant
+>>> from guardrungs.wishes import Wish
+>>> arrows = ((0, "aa", 1), (0, "bb", 2), (1, "bb", 3), (2, "aa", 3))
+>>> plant = Plant(((4, arrows),), 2, (), drivers=(("aa", 0, 1), ("bb", 1, 1)))
+>>> wish = Wish((((0, 3),),), ())
+>>> (freest_chart(plant, wish), rows_at(plant, wish, (0,), 2))
+((((1, 1), (1, 0), (0, 1)), ((1, 2), (1, 1), (2, 2))), ((0, 0), (0, 1), (1, 0)))
+
+>>> from guardrungs.arenas import Arena
+>>> from guardrungs.noticing import noticed_free
+>>> from guardrungs.plants import Plant
+>>> plant = Plant(((3, ((0, "a", 1), (0, "d", 2), (1, "b", 0), (2, "e", 1))),), 0, (("level", 0, (1,)),))
+>>> rests = Arena(plant, 0, 1, faults=((0, "stuck0"),), many=1)
+>>> turns = Arena(plant, 1, 1, faults=((0, "stuck0"),), many=1)
+>>> (noticed_free(rests), noticed_free(turns))
+(None, 1)
+
+>>> from guardrungs.alarms import Watched
+>>> from guardrungs.arenas import Arena
+>>> from guardrungs.machines import Machine
+>>> from guardrungs.plants import Plant
+>>> plant = Plant(((3, ((0, "a", 1), (0, "d", 2), (1, "b", 0), (2, "e", 1))),), 0, (("level", 0, (1,)),))
+>>> turns = Arena(plant, 1, 1, faults=((0, "stuck0"),), many=1)
+>>> watched = Watched(turns, Machine(("i",), (), ((((), 0), ((), 0)),)))
+>>> (watched.outputs, watched.run([(0,), (0,), (0,), (1,)]))
+(('z',), ((0,), (0,), (1,), (1,)))
+
+>>> from guardrungs.arenas import Arena, Game
+>>> from guardrungs.eyes import enough, least_eyes
+>>> from guardrungs.plants import Plant
+>>> from guardrungs.wishes import Wish
+>>> inputs = (("level", 0, (1,)), ("mark", ("b",)), ("level", 0, (0,)))
+>>> plant = Plant(((3, ((0, "a", 1), (1, "a", 2), (1, "b", 0))),), 1, inputs, drivers=(("a", 0, 1),))
+>>> game = Game(Arena(plant, 0, 1), Wish((((0, 2),),), ((((0, 1),),),)))
+>>> (least_eyes(game), enough(game, (1,)))
+(((0,), (2,)), False)
+
+>>> from guardrungs.rungs import Rungs
+>>> from guardrungs.tasks import Tasks
+>>> first = Rungs(("i",), ("x",), (), ((("name", "i"), (("put", "x"),)),))
+>>> second = Rungs(("x",), ("y",), (), ((("name", "x"), (("put", "y"),)),))
+>>> tasks = Tasks(("i",), ("x", "y"), ((first, 2, 0), (second, 3, 1)))
+>>> rows = [[1], [0], [0], [0], [1]]
+>>> (tasks.common, tasks.due(4), tasks.run(rows), tasks.in_rank((1, 0)).run(rows)[4])
+(6, (0, 1), ((1, 0), (1, 1), (0, 1), (0, 1), (1, 1)), (1, 0))
+
+>>> from guardrungs.ranks import due_together, first_together, same_for_all_ranks
+>>> frame = ((("a",), "x"), (("x",), "y"))
+>>> (first_together(2, 0, 3, 1), due_together(2, 0, 4, 1), same_for_all_ranks(frame, ((2, 0), (3, 1)), (0, 1), (1, 0)), same_for_all_ranks(frame, ((2, 0), (4, 1)), (0, 1), (1, 0)))
+(4, False, False, True)
 """
 
 

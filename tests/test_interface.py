@@ -61,6 +61,22 @@ FUNCTIONS = {
     "plays": "play_of(game) is_play(game,play) reason_wrong(game,play) beaten(game,play,book) lasts(game,cycles)",
     "around": "unlike_around(arena,book,other) needless_around(arena,book) trimmed_around(arena,book,order=())",
     "freestplain": "widest_row(table,lot) pair_open(table)",
+    "freeplants": "is_free(game) safe(game) top_row(game,lot)",
+    "joined": "joined_game(game,other) split_lot(game,other,joined,lot) joined_books(first,second,game,other)",
+    "charts": "check_chart(plant,chart) chart_after(plant,chart,q,changes) chart_row(chart,q) "
+              "judge_chart(plant,wish,chart)",
+    "carried": "carried_by(arena,chart) is_carried(arena,chart) carried_upto(plant,chart)",
+    "onebyone": "freest_chart(plant,wish) rest_of(plant,wish) let_rows(plant,wish,standing)",
+    "manychanges": "rows_at(plant,wish,standing,most) guard_at(plant,wish,most) greatest_most(plant,wish) "
+                   "row_for(plant,standing,row,least,most,reading,after) shut_shortest(plant,chart,most)",
+    "eyes": "blind_to(plant,places) with_eyes(game,places) enough(game,places) least_eyes(game) "
+            "with_faults(game,faults,many) deaf(book,many,places)",
+    "noticing": "noticed_within(arena,book) hidden_runs(arena,book,n) hidden_ring(arena,book) noticed_free(arena) "
+                "first_false(arena,run)",
+    "alarms": "all_faulty(arena,lot) all_sound(arena,lot)",
+    "ranks": "due_together(period,offset,other_period,other_offset) "
+             "first_together(period,offset,other_period,other_offset) same_for_all_ranks(frame,times,order,other) "
+             "ranked(frame,filling,times,order) telling_ranks(frame,times,order,other)",
 }
 
 CLASSES = {
@@ -79,6 +95,10 @@ CLASSES = {
     "freest": {"Freest": "__init__ start step lot_in row_in"},
     "drums": {"Drummed": "__init__ start step"},
     "freestplain": {"Widest": "__init__ start step"},
+    "freeplants": {"Both": "__init__ start step"},
+    "carried": {"Carrier": "__init__ start step lot_of"},
+    "alarms": {"Watched": "__init__ start step lot_known"},
+    "tasks": {"Tasks": "__init__ start step due in_rank"},
 }
 
 CREATED = {
@@ -98,6 +118,10 @@ CREATED = {
     ("freest", "Freest"): "(self, table)",
     ("drums", "Drummed"): "(self, table, rows, *, begin=0)",
     ("freestplain", "Widest"): "(self, table)",
+    ("freeplants", "Both"): "(self, first, second)",
+    ("carried", "Carrier"): "(self, arena, chart)",
+    ("alarms", "Watched"): "(self, arena, book)",
+    ("tasks", "Tasks"): "(self, inputs, outputs, tasks)",
 }
 
 
@@ -144,7 +168,10 @@ class TestInterface(unittest.TestCase):
                                      "sound(self,p) plant_standing(self,p)",
                 ("arenas", "Game"): "in_never(self,p) bad(self,p,y) ends_at(self,p) is_end(self,p,j)",
                 ("tables", "Table"): "let_at(self,lot) holding(self,lot) round_of(self,lot) path(self,lot,p,j)",
-                ("freest", "Freest"): "lot_in(self,standing) row_in(self,standing)"}
+                ("freest", "Freest"): "lot_in(self,standing) row_in(self,standing)",
+                ("carried", "Carrier"): "start(self) step(self,standing,reading) lot_of(self,standing)",
+                ("alarms", "Watched"): "start(self) step(self,standing,reading) lot_known(self,standing)",
+                ("tasks", "Tasks"): "start(self) step(self,standing,reading) due(self,tick) in_rank(self,order)"}
         for (name, word), methods in told.items():
             for one in methods.split():
                 method, args = one[:-1].split("(", 1)
