@@ -17,7 +17,7 @@ class Doubles:
     def __init__(self, arena, book):
         self.arena = arena
         self.book = book
-        self.is_sound = [arena.sound(p) for p in range(len(arena.standings))]
+        self.soundness = [arena.sound(p) for p in range(len(arena.standings))]
         self.told_moves = {}
         start = ((), 0, 0, ()) if book is None else (arena.first, 0, 0, book.start())
         self.places = [start]
@@ -52,7 +52,7 @@ class Doubles:
             told = {}
             for reading, p in list(self.arena.made.lots[place]):
                 told.setdefault(reading, []).append(p)
-            sound = {reading: [p for p in told[reading] if self.is_sound[p]] for reading in told}
+            sound = {reading: [p for p in told[reading] if self.soundness[p]] for reading in told}
             self.told_moves[place] = (told, sound)
         return self.told_moves[place]
 
@@ -102,8 +102,8 @@ class Hidden:
 
     def __init__(self, doubles):
         self.met_doubles = doubles
-        is_sound = doubles.is_sound
-        self.pairs = [number for number, place in enumerate(doubles.places) if not is_sound[place[1]]]
+        soundness = doubles.soundness
+        self.pairs = [number for number, place in enumerate(doubles.places) if not soundness[place[1]]]
         places = {number: place for place, number in enumerate(self.pairs)}
         joints = {}
         follows = []

@@ -50,20 +50,26 @@ def _entries(field, numbers):
     return entries
 
 
+def play_up_to(table, number):
+    """All lots that are thrown out in rounds ahead of that of the reached lot with this number, and then this lot."""
+    game = table.game
+    field = Field(game, table.reached_lots, table.steps)
+    last = table.round_numbers[field.lots[number]]
+    entries = []
+    for at in range(last + 1):
+        numbers = [other for other, lot in enumerate(field.lots) if table.round_numbers[lot] == at]
+        entries.extend(_entries(field, numbers if at < last else [number]))
+        for other in numbers:
+            field.throw_out(other)
+    return tuple(entries)
+
+
 def play_of(game):
     """A play: all lots that are thrown out in rounds ahead of that of (0,), and then this lot."""
     table = Table(game)
     if table.guards:
         raise HasGuard()
-    field = Field(game, table.reached_lots, table.steps)
-    last = table.round_numbers[(0,)]
-    entries = []
-    for at in range(last + 1):
-        numbers = [number for number, lot in enumerate(field.lots) if table.round_numbers[lot] == at]
-        entries.extend(_entries(field, numbers if at < last else [0]))
-        for number in numbers:
-            field.throw_out(number)
-    return tuple(entries)
+    return play_up_to(table, 0)
 
 
 class Checking:
@@ -132,15 +138,15 @@ class Checking:
         """True if, by what is kept, a path leads to the end."""
         return (self.reaches[end][self.numbers[lot]] >> p) & 1 == 1
 
-    def wrong(self, play):
-        """The place of the first entry that is not right; None if this is a play."""
+    def wrong(self, play, last=(0,)):
+        """The place of the first entry that is not right; None if this is a play to the lot last."""
         if not is_listed(play):
             return 0
         for place, entry in enumerate(play):
             if not self.is_right(entry):
                 return place
             self.field.throw_out(self.numbers[entry[0]])
-        return None if len(play) > 0 and play[-1][0] == (0,) else len(play)
+        return None if len(play) > 0 and play[-1][0] == last else len(play)
 
 
 def reason_wrong(game, play):

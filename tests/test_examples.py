@@ -262,6 +262,85 @@ EXAMPLES = r"""
 >>> frame = ((("a",), "x"), (("x",), "y"))
 >>> (first_together(2, 0, 3, 1), due_together(2, 0, 4, 1), same_for_all_ranks(frame, ((2, 0), (3, 1)), (0, 1), (1, 0)), same_for_all_ranks(frame, ((2, 0), (4, 1)), (0, 1), (1, 0)))
 (4, False, False, True)
+
+>>> from guardrungs.cutting import first_miss, job_ends, who_runs
+>>> from guardrungs.worst import load, response, rows_of_response
+>>> jobs = ((1, 3, 0), (2, 5, 0))
+>>> (who_runs(jobs, 8), first_miss(jobs), job_ends(jobs, 1, 2), rows_of_response(jobs, 1), response(jobs, 1), load(jobs))
+((0, 1, 1, 0, -1, 1, 0, 1), None, (3, 3), (2, 3), 3, (11, 15))
+
+>>> from guardrungs.instants import always_one, one_moment, stretch, torn
+>>> jobs = ((1, 2, 0), (2, 4, 0))
+>>> programs = (((("i",), ("a", "b")),), ((("a",), ("c",)), (("b", "c"), ())))
+>>> (stretch(jobs, programs, 1, 0), one_moment(jobs, programs, 1, 0), always_one(jobs, programs, 1), torn(jobs, programs, 1))
+((('a', 1, 1, 2), ('b', 3, 3, 4)), None, False, (0, ('a', 1, 1, 2), ('b', 3, 3, 4)))
+
+>>> from guardrungs.plants import Plant
+>>> from guardrungs.slow import moves_in_turn
+>>> plant = Plant(((3, ((0, "go", 1), (1, "go", 2))),), 1, (("level", 0, (2,)), ("mark", ("go",))))
+>>> moves_in_turn(plant, (0,), (0,), 1, 1, 2)
+(((1, 1), (2,)),)
+
+>>> from guardrungs.keptbits import least_kept, map_by, torn_kept
+>>> from guardrungs.machines import Machine
+>>> from guardrungs.rightness import like_rights
+>>> from guardrungs.safemoments import Changed, unsafe_within
+>>> old = Machine.of_rows(1, 1, ((((0,), 0), ((0,), 1)), (((1,), 2), ((1,), 2)), (((1,), 1), ((1,), 1))))
+>>> new = Machine.of_rows(1, 1, ((((1,), 0), ((1,), 0)), (((0,), 1), ((0,), 0))))
+>>> rights = like_rights(old, new)
+>>> codes = ((0, 0), (1, 0), (1, 1))
+>>> maps = (map_by(codes, rights, (0,)), least_kept(codes, rights), torn_kept(codes, rights, (1,)))
+>>> book = Changed(old, new, (-1, 0, 0), since=2)
+>>> run = book.run_from(book.start(), [(1,), (0,), (1,)])
+>>> (rights, maps, run, unsafe_within(old, ((1,), (), (0,))), unsafe_within(old, ((), (0,), (0,))))
+(((1,), (0,), (0,)), ((((0,), 1), ((1,), 0)), ((0,),), (0, 1)), (((0,), (1,), (1,)), (1, 0, 0)), 1, None)
+
+>>> from guardrungs.arenas import Arena, Game
+>>> from guardrungs.handing import always_safe, both_always, keeping_pairs, sets_meet
+>>> from guardrungs.plants import Plant
+>>> from guardrungs.tables import Table
+>>> from guardrungs.wishes import Wish
+>>> plant = Plant(((3, ((0, "a", 1), (0, "b", 2))),), 1, (), drivers=(("a", 0, 1), ("b", 0, 0)))
+>>> arena = Arena(plant, 1, 1)
+>>> one = Game(arena, Wish((((0, 2),),), ()))
+>>> two = Game(arena, Wish((((0, 1),),), ()))
+>>> pair = (Table(one), Table(two))
+>>> (sets_meet(pair[0], pair[1]), both_always(one, two).guards, always_safe(pair[0], pair[1]), keeping_pairs(pair[0], pair[1])[0])
+(((0,),), False, False, (((0,), (1,)), False))
+
+>>> from guardrungs.arenas import Arena, Game
+>>> from guardrungs.desks import Desk
+>>> from guardrungs.listings import history_lines
+>>> from guardrungs.machines import Machine
+>>> from guardrungs.plants import Plant
+>>> from guardrungs.wishes import Wish
+>>> plant = Plant(((3, ((0, "a", 1), (0, "d", 2), (1, "b", 0), (2, "e", 1))),), 0, (("level", 0, (1,)),))
+>>> turns = Arena(plant, 1, 1, faults=((0, "stuck0"),), many=1)
+>>> desk = Desk(Game(turns, Wish((), ())), Machine(("i",), (), ((((), 0), ((), 0)),)))
+>>> told = [desk.cycle(), desk.cycle(0), desk.cycle(0)]
+>>> (desk.history[2], desk.lot, desk.is_sure, history_lines(desk))
+((None, (0,), (), 4), (1, 4), True, ['  0 0 -   1 sound', '  1 0 -   2 may be', '  2 0 -   2 sure'])
+
+>>> from guardrungs.papers import lean_paper, what_if
+>>> from guardrungs.rungs import Rungs
+>>> rungs = ((("name", "i"), (("set", "x"),)), (("name", "j"), (("reset", "x"),)))
+>>> book = Rungs(("i", "j"), ("x",), (), rungs)
+>>> readings = ((1, 0), (0, 0), (0, 0))
+>>> (lean_paper(book, readings, 0), what_if(book, readings, 1, 1), what_if(book, readings, 0, 2))
+(((0, 0), (1, 0), (1, 1), (1, 2)), (1, 0), None)
+
+>>> from guardrungs.arenas import Arena, Game
+>>> from guardrungs.listings import table_lines
+>>> from guardrungs.plants import Plant
+>>> from guardrungs.tables import Table
+>>> from guardrungs.whynot import is_play_to, why_not
+>>> from guardrungs.wishes import Wish
+>>> plant = Plant(((3, ((0, "a", 1), (1, "c", 2))),), 1, (("level", 0, (1,)),), drivers=(("a", 0, 1),))
+>>> game = Game(Arena(plant, 0, 1), Wish((((0, 2),),), ()))
+>>> table = Table(game)
+>>> why = why_not(table, (0,), (1,))
+>>> (table_lines(table), why[:2], is_play_to(game, why[2], (1,)))
+(['0 : 0'], ('reading', (1,)), True)
 """
 
 

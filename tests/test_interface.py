@@ -77,6 +77,21 @@ FUNCTIONS = {
     "ranks": "due_together(period,offset,other_period,other_offset) "
              "first_together(period,offset,other_period,other_offset) same_for_all_ranks(frame,times,order,other) "
              "ranked(frame,filling,times,order) telling_ranks(frame,times,order,other)",
+    "cutting": "who_runs(jobs,ticks) first_miss(jobs) job_ends(jobs,place,many)",
+    "worst": "rows_of_response(jobs,place) response(jobs,place) never_misses(jobs) by_periods(jobs) load(jobs)",
+    "instants": "stretch(jobs,programs,place,number) one_moment(jobs,programs,place,number) "
+                "always_one(jobs,programs,place) torn(jobs,programs,place) torn_bits(jobs,programs,place)",
+    "slow": "slowed(arena,times) moves_in_turn(plant,standing,row,least,most,times) slowest(game,limit)",
+    "rightness": "like_rights(old,new) smooth_rights(old,new) common_rights(rights,other) places_behind(arena,old) "
+                 "loop_smooth(arena,old,new) keeping_rights(game,old,new) keeping_from(game,new,q,x,t)",
+    "keptbits": "standing_codes(book) map_by(codes,rights,columns) is_map(codes,rights,columns,pairs) "
+                "least_kept(codes,rights) torn_kept(codes,rights,columns)",
+    "safemoments": "unsafe_within(old,rights) unsafe_within_loop(arena,old,rights) unsafe_row(old,rights,n)",
+    "handing": "keeping_pairs(table,other) always_safe(table,other) both_always(game,other) sets_meet(table,other)",
+    "papers": "is_paper(book,readings,output,lot) told_otherwise(book,readings,output,lot) "
+              "lean_paper(book,readings,output) what_if(book,readings,place,cycle)",
+    "whynot": "why_not(table,lot,row) play_to(game,lot) is_play_to(game,play,lot)",
+    "listings": "bits_line(row) history_lines(desk) table_lines(table) play_lines(play) machine_lines(machine)",
 }
 
 CLASSES = {
@@ -99,6 +114,11 @@ CLASSES = {
     "carried": {"Carrier": "__init__ start step lot_of"},
     "alarms": {"Watched": "__init__ start step lot_known"},
     "tasks": {"Tasks": "__init__ start step due in_rank"},
+    "safemoments": {"Changed": "__init__ start step"},
+    "handing": {"Handed": "__init__ start step changed lot_in"},
+    "desks": {"Desk": "__init__ __iter__ cycle change back tried branch history cycles deeds lot is_sure is_sound may_be "
+                      "bad_now would_let",
+              "Trial": "__init__ __enter__ __exit__"},
 }
 
 CREATED = {
@@ -122,6 +142,10 @@ CREATED = {
     ("carried", "Carrier"): "(self, arena, chart)",
     ("alarms", "Watched"): "(self, arena, book)",
     ("tasks", "Tasks"): "(self, inputs, outputs, tasks)",
+    ("safemoments", "Changed"): "(self, old, new, turn, *, since=0)",
+    ("handing", "Handed"): "(self, table, other, *, since)",
+    ("desks", "Desk"): "(self, game, book)",
+    ("desks", "Trial"): "(self, desk)",
 }
 
 
@@ -158,7 +182,9 @@ class TestInterface(unittest.TestCase):
         self.assertIsInstance(inspect.getattr_static(machine, "of_rows"), classmethod)
         self.assertEqual(list(inspect.signature(machine.of_rows).parameters), ["many_inputs", "many_outputs", "rows"])
         for name, word, told in (("sheets", "Sheet", "kept"), ("plants", "Plant", "free_changes"),
-                                 ("tables", "Table", "guards")):
+                                 ("tables", "Table", "guards"), ("desks", "Desk", "history"), ("desks", "Desk", "cycles"),
+                                 ("desks", "Desk", "deeds"), ("desks", "Desk", "lot"), ("desks", "Desk", "is_sure"),
+                                 ("desks", "Desk", "is_sound"), ("desks", "Desk", "bad_now")):
             self.assertIsInstance(inspect.getattr_static(getattr(module(name), word), told), property)
 
     def test_methods_take_what_is_told(self):
@@ -171,7 +197,11 @@ class TestInterface(unittest.TestCase):
                 ("freest", "Freest"): "lot_in(self,standing) row_in(self,standing)",
                 ("carried", "Carrier"): "start(self) step(self,standing,reading) lot_of(self,standing)",
                 ("alarms", "Watched"): "start(self) step(self,standing,reading) lot_known(self,standing)",
-                ("tasks", "Tasks"): "start(self) step(self,standing,reading) due(self,tick) in_rank(self,order)"}
+                ("tasks", "Tasks"): "start(self) step(self,standing,reading) due(self,tick) in_rank(self,order)",
+                ("handing", "Handed"): "start(self) step(self,standing,reading) changed(self,standing) "
+                                       "lot_in(self,standing)",
+                ("desks", "Desk"): "cycle(self,pick=0,*,ask=None) change(self,book,standing=None) back(self,deeds=1) "
+                                   "tried(self,deeds) branch(self) may_be(self,p) would_let(self,table,reading,ask)"}
         for (name, word), methods in told.items():
             for one in methods.split():
                 method, args = one[:-1].split("(", 1)

@@ -224,6 +224,16 @@ class TestSubset(unittest.TestCase):
                     if isinstance(node, ast.ClassDef):
                         self.assertRegex(node.name, "^[A-Z]")
 
+    def test_names_that_stand_nowhere(self):
+        nowhere = {"mro", "elements", "open", "input", "law", "version_info", "with_traceback", "add_note", "register",
+                   "format", "format_map"}
+        for name, tree in self.each():
+            for node in ast.walk(tree):
+                if isinstance(node, ast.Attribute):
+                    self.assertNotIn(node.attr, nowhere, f"{name}:{node.lineno}")
+                if isinstance(node, ast.keyword):
+                    self.assertNotIn(node.arg, nowhere, f"{name}:{node.lineno}")
+
     def test_words(self):
         for name, tree in self.each():
             text = source(name)
