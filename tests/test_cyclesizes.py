@@ -1,4 +1,4 @@
-"""The largest sizes that the document names, for stages 9 to 12."""
+"""The largest sizes that the document names, for stages 9 to 14."""
 
 import unittest
 
@@ -7,8 +7,14 @@ from guardrungs.arenas import Arena, Game
 from guardrungs.carried import Carrier, carried_by, carried_upto
 from guardrungs.charts import check_chart, judge_chart
 from guardrungs.errors import TooMany
+from guardrungs.cutting import first_miss, job_ends, who_runs
+from guardrungs.desks import Desk
 from guardrungs.eyes import deaf, least_eyes
 from guardrungs.freeplants import Both, safe, top_row
+from guardrungs.handing import Handed, keeping_pairs
+from guardrungs.instants import always_one, stretch
+from guardrungs.keptbits import least_kept, map_by
+from guardrungs.listings import history_lines, machine_lines
 from guardrungs.machines import Machine, machine_of
 from guardrungs.manychanges import greatest_most, row_for, rows_at, shut_shortest
 from guardrungs.moves import falling_moves
@@ -16,7 +22,11 @@ from guardrungs.noticing import hidden_ring, hidden_runs, noticed_free, noticed_
 from guardrungs.onebyone import let_rows, rest_of
 from guardrungs.plants import Plant
 from guardrungs.ranks import ranked, same_for_all_ranks, telling_ranks
+from guardrungs.rightness import common_rights, keeping_rights, like_rights, loop_smooth, places_behind, smooth_rights
 from guardrungs.rungs import Rungs
+from guardrungs.safemoments import Changed, unsafe_row, unsafe_within
+from guardrungs.slow import moves_in_turn, slowed, slowest
+from guardrungs.tables import Table
 from guardrungs.tasks import Tasks
 from guardrungs.wishes import Wish
 from tests.checks import Case
@@ -143,6 +153,76 @@ class TestTasks(Case):
         for _ in range(39):
             deep = ("not", deep)
         self.assertEqual(len(ranked(frame, (deep,) * 1 + (("bit", 0),) * 3, times, (0, 1, 2, 3)).run([(0,) * 4] * 200)), 200)
+
+
+class TestChanges(Case):
+    def test_machines_of_500(self):
+        chance = Chance(371)
+        old, new = chance.machine(500, 9, 6), chance.machine(500, 9, 6)
+        rights = smooth_rights(old, new)
+        self.assertEqual(common_rights(rights, like_rights(old, old))[0], common_rights(like_rights(old, old), rights)[0])
+        unsafe = unsafe_within(old, rights)
+        self.assertIs(unsafe_row(old, rights, 1000) is None, unsafe is not None)
+        self.assertEqual(unsafe_row(old, ((),) * 500, 200)[1][-1], (0,) * 9)
+        turn = [chance.pick((-1, -1, -1, 7)) for _ in range(500)]
+        readings = chance.readings(9, 200)
+        self.assertEqual(len(Changed(old, new, turn, since=60).run(readings)), 200)
+        codes = tuple(tuple((s >> k) & 1 for k in range(9)) for s in range(256))
+        told = least_kept(tuple(code[:8] for code in codes), tuple((code[3],) for code in codes))
+        self.assertEqual(told, ((3,),))
+        self.assertEqual(len(map_by(codes, tuple((code[3],) for code in codes), list(range(9)))), 256)
+
+    def test_arenas_of_600(self):
+        chance = Chance(372)
+        still, new = Machine.of_rows(6, 4, [[((0, 0, 0, 0), 0)] * 64]), chance.machine(500, 6, 4)
+        for falling in ((0, 1), (24, 24)):
+            game = Game(Arena(grid((6, 5, 5, 4), 3), *falling), Wish([((0, 5), (1, 4))], [(((0, 1),),)] * 3))
+            self.assertEqual(len(game.arena), 600)
+            keeping = keeping_rights(game, still, new)
+            self.assertEqual(len(keeping), 1)
+            self.assertEqual(len(loop_smooth(game.arena, still, new)), 1)
+            self.assertEqual(len(places_behind(game.arena, still)), 1)
+            desk = Desk(game, new)
+            for k in range(60):
+                desk.cycle(k * k)
+            self.assertEqual((len(history_lines(desk)), desk.deeds), (60, 60))
+            self.assertEqual(len(desk.tried([(k, None) for k in range(200)])), 200)
+        self.assertEqual(len(machine_lines(new)), 32000)
+
+    def test_slow(self):
+        plant = grid((6, 5, 5, 4), 3, 6)
+        self.assertEqual(len(slowed(Arena(plant, 1, 1), 24)), 600)
+        self.assertEqual(moves_in_turn(plant, plant.origin, (1, 1, 1, 1), 24, 24, 24),
+                         moves_in_turn(plant, plant.origin, (1, 1, 1, 1), 24, 24, 23))
+        wish = Wish([((0, 5), (1, 4))], ())
+        try:
+            self.assertIn(slowest(Game(Arena(grid((3, 2), 1, 6), 0, 1), wish), 24), range(25))
+        except TooMany as error:
+            self.assertEqual(error.limit, 600)
+
+    def test_handing(self):
+        plant = grid((3, 2, 2), 0, 6)
+        one, two = [Game(Arena(plant, 1, 1), Wish([((0, s), (1, 1), (2, 1))], ())) for s in (1, 2)]
+        try:
+            tables = [Table(one), Table(two)]
+            pairs = keeping_pairs(tables[0], tables[1])
+            self.assertEqual(len(pairs), sum(len(tables[0].let_at(lot)) for lot in tables[0].lots))
+            book = Handed(tables[0], tables[1], since=60)
+            self.assertEqual(len(book.run(Chance(373).readings(10, 200))), 200)
+        except TooMany as error:
+            self.assertEqual(error.limit, 600)
+
+    def test_cut_tasks(self):
+        jobs = ((1, 16, 0), (1, 9, 8), (1, 5, 4), (2, 7, 6), (12, 24, 23))
+        self.assertEqual(len(who_runs(jobs, 5040)), 5040)
+        told = first_miss(jobs)
+        self.assertTrue(told is None or told[1] >= 0)
+        self.assertLessEqual(len(job_ends(jobs, 4, 200)), 200)
+        jobs = ((1, 16, 0), (1, 9, 8), (1, 5, 4), (1, 7, 6))
+        programs = tuple(((("a", "b", "c", "d"), (name,)),) for name in "abcd")
+        for place in range(4):
+            self.assertIs(always_one(jobs, programs, place), True)
+        self.assertEqual(len(stretch(jobs, programs, 0, 200)), 3)
 
 
 if __name__ == "__main__":
