@@ -64,20 +64,20 @@ class Cuts:
         """Pairs of a reading and the mask of the lot behind, ascending."""
         row = self.row_at(number)
         layers = {}
-        for p, q in self.pairs_in(number):
+        for p, q in list(self.pairs_in(number)):
             layers.setdefault(self.context_of(p), {})[self.node_of(p, q)] = 1
         told = {}
-        for context, layer in layers.items():
+        for context, layer in list(layers.items()):
             found = fallen(self.followed, row, self.arena.fewest, self.arena.most, layer)
-            for marks, node in layer_pairs(found):
+            for marks, node in list(layer_pairs(found)):
                 standing, q = self.followed.pairs[node]
-                for reading, p in self.behind(context, marks, standing):
+                for reading, p in list(self.behind(context, marks, standing)):
                     told[reading] = told.get(reading, 0) | (1 << (p * self.many + q))
         return sorted(list(told.items()))
 
     def go_on(self):
         """Meet the lots behind those of the level, which are the next one."""
-        found = [(number, self.steps_from(number)) for number in self.level]
+        found = [(number, self.steps_from(number)) for number in list(self.level)]
         following = []
         for number, pairs in list(found):
             told = {}
@@ -106,7 +106,7 @@ class Cuts:
         """A pair of the lot and changes from there, only the last of which the chart does not let; None without any."""
         row = self.row_at(number)
         clean = self.clean[row]
-        firsts = {self.node_of(p, q): (p, q) for p, q in self.pairs_in(number)}
+        firsts = {self.node_of(p, q): (p, q) for p, q in list(self.pairs_in(number))}
         before = {node: None for node in firsts}
         level = [node for node in before if node not in clean]
         left = self.arena.most
@@ -151,7 +151,7 @@ class Cuts:
         node = self.node_of(p, q)
         standing = self.followed.pairs[node][0]
         row = self.row_at(number)
-        for ahead in self.pairs_in(number):
+        for ahead in list(self.pairs_in(number)):
             context = self.context_of(ahead[0])
             lot = 0
             for marks in range(self.made.ground.width):

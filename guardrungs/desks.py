@@ -99,7 +99,7 @@ class Desk:
     def tried(self, deeds):
         """The answers that these cycles would give."""
         other = self.branch()
-        return tuple([other.cycle(pick, ask=ask) for pick, ask in deeds])
+        return tuple([other.cycle(pick, ask=ask) for pick, ask in list(deeds)])
 
     def branch(self):
         """Another desk that is what this one is."""

@@ -105,14 +105,18 @@ class Hidden:
         soundness = doubles.soundness
         self.pairs = [number for number, place in enumerate(doubles.places) if not soundness[place[1]]]
         places = {number: place for place, number in enumerate(self.pairs)}
-        joints = {}
+        self.many = len(self.pairs)
+        hubs = {}
         follows = []
         for number in list(self.pairs):
-            many = len(self.pairs)
-            follows.append([joints.setdefault(joint, many + len(joints)) for joint in doubles.joints[number]])
-        for joint in list(joints):
+            told = []
+            for joint in list(doubles.joints[number]):
+                if joint not in hubs:
+                    hubs[joint] = self.many + len(hubs)
+                told.append(hubs[joint])
+            follows.append(told)
+        for joint in list(hubs):
             follows.append([places[behind] for behind in doubles.behinds[joint]])
-        self.many = len(self.pairs)
         self.rows = Longest(follows, [place < self.many for place in range(len(follows))])
 
     def least(self):

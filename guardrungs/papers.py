@@ -97,7 +97,8 @@ class Trail:
         told = 0
         for number in list(places_in(mask)):
             if number not in images:
-                images[number] = mask_of([behind for _, behind, some in self.groups(number) if some & column != 0])
+                groups = list(self.groups(number))
+                images[number] = mask_of([behind for _, behind, some in groups if some & column != 0])
             told = told | images[number]
         return told
 
@@ -113,8 +114,8 @@ class Trail:
     def other_group(self, mask):
         """A standing of the mask and a reading of the last cycle with the other bit; None if there are none."""
         column = self.column(len(self.readings) - 1)
-        for number in places_in(mask):
-            for bit, _, some in self.groups(number):
+        for number in list(places_in(mask)):
+            for bit, _, some in list(self.groups(number)):
                 if bit != self.wanted and some & column != 0:
                     return number, some & column
         return None
@@ -145,8 +146,8 @@ class Trail:
     def led_by(self, cycle, behind):
         """A standing ahead of the cycle, and readings, that lead to the one behind."""
         allowed = self.column(cycle)
-        for number in places_in(self.masks[cycle]):
-            for _, following, some in self.groups(number):
+        for number in list(places_in(self.masks[cycle])):
+            for _, following, some in list(self.groups(number)):
                 if following == behind and some & allowed != 0:
                     return number, some & allowed
         return None
@@ -183,7 +184,7 @@ def lean_paper(book, readings, output):
     every = [(place, cycle) for place in range(len(book.inputs)) for cycle in range(len(told))]
     trail = Trail(book, told, output)
     trail.free_all_but(every)
-    return tuple([pair for pair in every if not trail.leave_out(pair)])
+    return tuple([pair for pair in list(every) if not trail.leave_out(pair)])
 
 
 def what_if(book, readings, place, cycle):

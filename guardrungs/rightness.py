@@ -90,7 +90,7 @@ class Behind:
             joint = (arena.place_at(p, row), s)
             self.joints.append(joint)
             if joint not in self.behinds:
-                self.behinds[joint] = [self.meet(reading, q, s) for reading, q in arena.made.lots[joint[0]]]
+                self.behinds[joint] = [self.meet(reading, q, s) for reading, q in list(arena.made.lots[joint[0]])]
 
     def meet(self, reading, p, s):
         """The number of the place behind the answer to the reading at p, old standing at s."""

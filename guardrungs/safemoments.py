@@ -48,11 +48,14 @@ def unsafe_within_loop(arena, old, rights):
     numbers = [number for number, (_, _, s) in enumerate(behind.places) if _unsafe(rights[s])]
     places = {number: place for place, number in enumerate(numbers)}
     # Places lead on by joints, which do not count.
-    joints = {}
+    hubs = {}
     follows = []
-    for number in numbers:
-        follows.append([joints.setdefault(behind.joints[number], len(numbers) + len(joints))])
-    for joint in list(joints):
+    for number in list(numbers):
+        joint = behind.joints[number]
+        if joint not in hubs:
+            hubs[joint] = len(numbers) + len(hubs)
+        follows.append([hubs[joint]])
+    for joint in list(hubs):
         follows.append([places[following] for following in behind.behinds[joint] if following in places])
     counts = [place < len(numbers) for place in range(len(follows))]
     return Longest(follows, counts).longest(range(len(numbers)))
