@@ -213,7 +213,8 @@ class Keeping:
                 new = now & (now ^ gathered[place])
                 if new != 0:
                     gathered[place] = gathered[place] | new
-                    left.extend(self.lead_on(place, new, told, fresh))
+                    grown = self.lead_on(place, new, told, fresh)
+                    left.extend(list(grown))
         return told
 
     def lead_on(self, place, new, told, fresh):

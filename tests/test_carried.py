@@ -15,8 +15,8 @@ from guardrungs.tables import Table
 from guardrungs.wishes import Wish
 from tests.checks import Case, is_tuples
 from tests.plain import rows
-from tests.plaincycles import CycleChance, cut_lots, follow, lets
-from tests.plainplants import led, possible, reading_of
+from tests.plaincycles import CycleChance, cut_lots, follow, lets, one_by_one
+from tests.plainplants import led, marks_of, possible, reading_of
 
 ARROWS = ((0, "aa", 1), (0, "bb", 2), (1, "bb", 3), (2, "aa", 3), (3, "cc", 0))
 FORK = Plant(((4, ARROWS),), 2, (("level", 0, (1,)), ("level", 0, (2,))), drivers=(("aa", 0, 1), ("bb", 1, 1)))
@@ -31,6 +31,23 @@ def ring(many, tail=0):
 
 def ring_chart(many):
     return (((),) * many, tuple(((q + 1) % many,) for q in range(many)))
+
+
+def deepest_triples(plant, chart):
+    """The greatest depth, in triples of marks, plant standing and chart's standing, of a place met one by one."""
+    deepest = 0
+    for p, q in one_by_one(plant, chart):
+        now, met, length = {(frozenset(), p, q)}, set(), 0
+        while True:
+            shown = {(marks_of(plant, come), s, r) for come, s, r in now}
+            if shown <= met:
+                break
+            met |= shown
+            deepest = max(deepest, length)
+            now = {(come | {c}, led(plant, s, c), follow(plant, chart, r, c))
+                   for come, s, r in now for c in possible(plant, s, chart[0][q])}
+            length += 1
+    return deepest
 
 
 class TestCarried(Case):
@@ -174,6 +191,9 @@ class TestCarried(Case):
             carried = [is_carried(Arena(plant, 0, k), chart) for k in range(25)]
             self.assertTrue(carried[0])
             self.assertEqual(carried, sorted(carried, reverse=True))
+            deepest = deepest_triples(plant, chart)
+            if carried[min(deepest + 1, 24)]:
+                self.assertIsNone(told)
             if told is None:
                 self.assertTrue(all(carried) and is_carried(Arena(plant, 0, None), chart))
             else:

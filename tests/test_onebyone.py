@@ -6,12 +6,13 @@ import unittest
 from guardrungs.arenas import Arena, Game
 from guardrungs.carried import Carrier, carried_upto, is_carried
 from guardrungs.charts import check_chart, judge_chart
+from guardrungs.drums import Drummed
 from guardrungs.errors import BadFalling, BadPlant, BadRow, BadWish, NoGuard, OtherShape, TooMany
 from guardrungs.known import lots_reached, single
 from guardrungs.loops import judge
 from guardrungs.machines import machine_of
 from guardrungs.manychanges import greatest_most, guard_at, row_for, rows_at, shut_shortest
-from guardrungs.moves import falling_moves
+from guardrungs.moves import falling_moves, meets
 from guardrungs.onebyone import freest_chart, let_rows, rest_of
 from guardrungs.plants import Plant
 from guardrungs.tables import Table
@@ -237,6 +238,31 @@ class TestGreatest(Case):
                 self.assertFalse(guard_at(plant, wish, None))
             met[told] = met.get(told, 0) + 1
         self.assertGreaterEqual(len(met), 3, met)
+
+    def test_more_changes_alone_are_bad(self):
+        """[145]: a good guard of (0, k), run at (0, k + 1), is bad only by more than k changes in a cycle."""
+        chance, met = CycleChance(329), {"move": 0, "last": 0}
+        for number in range(400):
+            game, plain = chance.lively_game(waits=0, faults=0, outputs=1, inputs=number % 3, size=4, ends=0,
+                                             most_standings=8)
+            plant, wish = game.arena.plant, game.wish
+            k = greatest_most(plant, wish)
+            if k is None or k < 0 or k > 3:
+                continue
+            small, large = Game(Arena(plant, 0, k), wish), Game(Arena(plant, 0, k + 1), wish)
+            word, run, answer = judge(large, Drummed(Table(small), [(1,)]))
+            self.assertEqual(word, "bad")
+            p, is_long = 0, False
+            for row, reading, q in run:
+                here, there = large.arena.plant_standing(p), large.arena.plant_standing(q)
+                is_long = is_long or row_for(plant, here, row, 0, k, reading, there) is None
+                p = q
+            here = large.arena.plant_standing(p)
+            last = not meets(plant, here, answer, 0, k, wish.never) and meets(plant, here, answer, 0, k + 1, wish.never)
+            self.assertTrue(is_long or last)
+            met["move"] += is_long
+            met["last"] += last
+        self.assertGreater(met["last"], 10, met)
 
     def test_edges(self):
         self.told(-1, greatest_most, DOOR, Wish(((),), ()))

@@ -145,6 +145,27 @@ class TestRights(Case):
                     self.assertIs(told_apart(old, s, t) is None, both_alike(old, s, old, t, inputs))
         self.assertGreater(min(met.values()), 20, met)
 
+    def test_one_behind_the_other(self):
+        """[182]: like changes one behind the other are a like change, smooth ones a smooth one."""
+        chance, met = Chance(429), 0
+        for _ in range(60):
+            one = chance.machine(3, 1, 1)
+            two, three = [Machine.of_rows(1, 1, [row for row in one.rows] + [row for row in one.rows]) for _ in range(2)]
+            for rights in (like_rights, smooth_rights):
+                first, second, both = rights(one, two), rights(two, three), rights(one, three)
+                for s, row in enumerate(first):
+                    for t in row or ():
+                        for u in second[t] or ():
+                            self.assertIn(u, both[s])
+                            met += 1
+            # Changed at a like standing at any moment, nothing is seen in the answers.
+            like = like_rights(one, two)
+            turn = [-1 if row is None else row[-1] for row in like]
+            readings = chance.readings(1, 10)
+            for since in (0, 1, 4):
+                self.assertEqual(Changed(one, two, turn, since=since).run(readings), one.run(readings))
+        self.assertGreater(met, 100)
+
     def test_common(self):
         self.told(((1,), None, None, (), None), common_rights, ((0, 1, 2), None, (1,), (0,), None),
                   ((1, 3), (1,), None, (1,), None))
@@ -288,6 +309,13 @@ class TestMaps(Case):
                         met["torn"] += len(torn) > 1
             least = tuple(sorted(one for one in good if not any(set(other) < set(one) for other in good)))
             self.told(least, least_kept, codes, rights)
+            for columns in good:
+                for more in range(width):
+                    self.assertIn(tuple(sorted(set(columns) | {more})), good)
+            looked = [code for code, right in zip(codes, rights) if right is not None]
+            for column in range(width):
+                if len({code[column] for code in looked}) < 2:
+                    self.assertFalse(any(column in columns for columns in least))
             met["two"] += len(least) > 1
             met["empty"] += not least
         self.assertGreater(min(met.values()), 10, met)
