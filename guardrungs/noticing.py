@@ -10,8 +10,8 @@ class Doubles:
     """The double places around a book, or, without a book (None), those of any rows, as met.
 
     A double place is (reading, p, q, standing); without a book reading and standing are (). What leads on from it is
-    told by joints: the places, in what the arena made, of the moves from p and from q, and the book's next standing.
-    Many double places share one.
+    told by joints, which many double places share: the place, in what the arena made, of the moves from p; a reading
+    and a sound standing that q moves to with it; and the book's next standing.
     """
 
     def __init__(self, arena, book):
@@ -19,6 +19,7 @@ class Doubles:
         self.book = book
         self.soundness = [arena.sound(p) for p in range(len(arena.standings))]
         self.told_moves = {}
+        self.told_joints = {}
         start = ((), 0, 0, ()) if book is None else (arena.first, 0, 0, book.start())
         self.places = [start]
         self.numbers = {start: 0}
@@ -34,39 +35,44 @@ class Doubles:
         reading, p, q, standing = place
         made = self.arena.made
         if self.book is None:
-            told = {pair + ((),): True for pair in zip(made.moved[p], made.moved[q])}
+            both = [pair + ((),) for pair in zip(made.moved[p], made.moved[q])]
         else:
             answer, behind = self.book.step(standing, reading)
             self.answered.append(answer)
             row = self.arena.checked_row(answer)
-            told = {(self.arena.place_at(p, row), self.arena.place_at(q, row), behind): True}
+            both = [(self.arena.place_at(p, row), self.arena.place_at(q, row), behind)]
+        told = {joint: True for key in both for joint in self.joints_by(key)}
         number = len(self.joints)
         for joint in list(told):
             if joint not in self.behinds:
                 self.behinds[joint] = self.met_behind(number, joint)
         return list(told)
 
-    def moves_by_reading(self, place):
-        """From readings to the standings that the moves at this place lead to, all of them and the sound ones."""
+    def joints_by(self, key):
+        """The joints for the places of the moves from p and from q and the book's next standing."""
+        if key not in self.told_joints:
+            first, second, behind = key
+            readings = self.standings_by_reading(first)
+            moves = self.arena.made.lots[second]
+            self.told_joints[key] = [(first, reading, q, behind) for reading, q in moves
+                                     if self.soundness[q] and reading in readings]
+        return self.told_joints[key]
+
+    def standings_by_reading(self, place):
+        """From readings to the standings that the moves at this place lead to."""
         if place not in self.told_moves:
             told = {}
             for reading, p in list(self.arena.made.lots[place]):
                 told.setdefault(reading, []).append(p)
-            sound = {reading: [p for p in told[reading] if self.soundness[p]] for reading in told}
-            self.told_moves[place] = (told, sound)
+            self.told_moves[place] = told
         return self.told_moves[place]
 
     def met_behind(self, number, joint):
         """The numbers of the double places behind the joint."""
-        firsts = self.moves_by_reading(joint[0])[0]
-        seconds = self.moves_by_reading(joint[1])[1]
-        told = {}
-        for reading in list(firsts):
-            shown = () if self.book is None else reading
-            for p in list(firsts[reading]):
-                for q in list(seconds.get(reading, [])):
-                    told[self.number_at((shown, p, q, joint[2]), number)] = True
-        return list(told)
+        place, reading, q, behind = joint
+        shown = () if self.book is None else reading
+        standings = list(self.standings_by_reading(place)[reading])
+        return [self.number_at((shown, p, q, behind), number) for p in standings]
 
     def number_at(self, place, number):
         """The number of this double place; a new one comes behind the one with the number."""
