@@ -272,7 +272,7 @@ class Game:
             return {}
         ahead = {}
         for number in range(len(ground.standings)):
-            for _, behind in ground.ways_from(number, row):
+            for _, behind in list(ground.ways_from(number, row)):
                 ahead.setdefault(behind, []).append(number)
         fresh = [number for number, standing in enumerate(ground.standings) if fits(self.wish.never, standing)]
         met = {}

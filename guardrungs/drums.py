@@ -23,7 +23,7 @@ class Beat:
         self.steps = []
         for lot, p in list(self.pairs):
             told = {}
-            for row, _, q, behind in table.calm_steps(lot, p):
+            for row, _, q, behind in list(table.calm_steps(lot, p)):
                 told.setdefault(self.choice_of(row), []).append((row, self.numbers[(behind, q)]))
             self.steps.append(told)
         self.images = {}
@@ -53,7 +53,7 @@ class Beat:
     def distances_to(self, end):
         """For each pair how many calm steps, under rows that hold, a shortest path to the end has."""
         before = [[] for _ in self.pairs]
-        for number, told in enumerate(self.steps):
+        for number, told in list(enumerate(self.steps)):
             for _, behind in [step for steps in told.values() for step in steps]:
                 before[behind].append(number)
         left = [number for number, (_, p) in enumerate(self.pairs) if self.ends[end][p]]

@@ -61,7 +61,7 @@ def doomed(ground, never):
     zeros = (0,) * ground.plant.outputs
     ahead = [[] for _ in ground.standings]
     for number in range(len(ground.standings)):
-        for _, behind in ground.ways_from(number, zeros):
+        for _, behind in list(ground.ways_from(number, zeros)):
             ahead[behind].append(number)
     told = {number: True for number, standing in enumerate(ground.standings) if fits(never, standing)}
     left = list(told)

@@ -44,7 +44,7 @@ def joined_books(first, second, game, other):
     beside = Beside(first, second)
     inputs = len(beside.inputs)
     if fits_plain(game.arena, first) and fits_plain(other.arena, second):
-        return Wired(beside, inputs, range(inputs))
+        return Wired(beside, inputs, list(range(inputs)))
     if not fits_asked(game.arena, first) or not fits_asked(other.arena, second):
         raise OtherShape()
     # The whole reads both readings ahead of both asks; each part reads its ask behind its reading.

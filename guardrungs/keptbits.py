@@ -41,7 +41,7 @@ def _looked_at(rights):
 def _kept_parts(codes, rights, columns):
     """From kept parts to the standings looked at that have them."""
     told = {}
-    for s in _looked_at(rights):
+    for s in list(_looked_at(rights)):
         told.setdefault(tuple([codes[s][column] for column in columns]), []).append(s)
     return told
 

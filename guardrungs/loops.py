@@ -89,12 +89,12 @@ class Around:
     def leading_to(self, ends):
         """The numbers of the places, as keys, from which calm moves lead to a standing of this lot of places."""
         nodes_before = {}
-        for number, nodes in enumerate(self.behinds):
-            for node in nodes:
+        for number, nodes in list(enumerate(self.behinds)):
+            for node in list(nodes):
                 nodes_before.setdefault(node, []).append(number)
         moves_before = {}
-        for node in nodes_before:
-            for reading, q in self.arena.made.calm_lots[node[0]]:
+        for node in list(nodes_before):
+            for reading, q in list(self.arena.made.calm_lots[node[0]]):
                 moves_before.setdefault((reading, q, node[1]), []).append(node)
         left = [number for number, place in enumerate(self.places) if ends[place[1]]]
         told = {number: True for number in left}

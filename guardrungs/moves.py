@@ -258,8 +258,8 @@ class Everywhere:
     def grow(self, most):
         """Let the lots hold what at most so many changes lead to; None is no bound."""
         ahead = [[] for _ in self.ways]
-        for number, ways in enumerate(self.ways):
-            for _, behind in ways:
+        for number, ways in list(enumerate(self.ways)):
+            for _, behind in list(ways):
                 ahead[behind].append(number)
         grown = list(range(len(self.ways)))
         while grown and self.rounds != most:

@@ -127,7 +127,7 @@ class Hidden:
 
     def least(self):
         """The number of pairs in the longest row; None if there are ever longer ones."""
-        return self.rows.longest(range(self.many))
+        return self.rows.longest(list(range(self.many)))
 
     def numbers_of(self, row):
         """The double places on the way to the first one of a row of pairs, and then the row."""
@@ -159,7 +159,7 @@ def hidden_runs(arena, book, n):
     least = hidden.least()
     if least is not None and n >= least:
         return None
-    first = hidden.rows.highest(range(hidden.many))
+    first = hidden.rows.highest(list(range(hidden.many)))
     return hidden.met_doubles.runs(hidden.numbers_of(hidden.rows.row_from(first, n + 1)))
 
 
@@ -169,7 +169,7 @@ def hidden_ring(arena, book):
     hidden = _hidden(arena, book)
     if hidden.least() is not None:
         return None
-    row = hidden.rows.ring_from(hidden.rows.highest(range(hidden.many)))
+    row = hidden.rows.ring_from(hidden.rows.highest(list(range(hidden.many))))
     run, other = hidden.met_doubles.runs(hidden.numbers_of(row))
     return run, other, len(row) - 1 - row.index(row[-1])
 

@@ -54,9 +54,9 @@ class Rest:
         """The standings left, as keys, that have no row that is let or from which an end cannot be reached."""
         told = {standing: True for standing in self.left if self.shut_outputs(standing) is None}
         ahead = {}
-        for standing in self.left:
+        for standing in list(self.left):
             if standing not in told:
-                for _, behind in self.kept_ways(standing):
+                for _, behind in list(self.kept_ways(standing)):
                     ahead.setdefault(behind, []).append(standing)
         for end in self.wish.ends:
             reach = self.leading_to(end, ahead)

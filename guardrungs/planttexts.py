@@ -75,7 +75,7 @@ def _input_from(words):
 def _machines_from(lines):
     """The machines, and how many of the lines tell them."""
     machines = []
-    for at, (number, line) in enumerate(lines):
+    for at, (number, line) in list(enumerate(lines)):
         words = words_of(line)
         size = _head_from(words, "machine")
         if size is not None:
@@ -142,7 +142,7 @@ def wish_from(text):
     """The wish that the text tells."""
     never = []
     ends = []
-    for number, line in _first_line(text, "wish"):
+    for number, line in list(_first_line(text, "wish")):
         words = words_of(line)
         if _head_from(words, "end") == len(ends):
             ends.append([])

@@ -106,7 +106,7 @@ class Behind:
     def moves_at(self):
         """For each standing of old the places, in what the arena made, of the moves at its places behind."""
         told = [{} for _ in self.old.rows]
-        for place, s in self.behinds:
+        for place, s in list(self.behinds):
             told[s][place] = True
         return told
 

@@ -31,7 +31,7 @@ class Waiting:
 
     def longest(self):
         """The length of the longest row; None if there are ever longer ones."""
-        return self.rows.longest(range(len(self.standings)))
+        return self.rows.longest(list(range(len(self.standings))))
 
 
 def unsafe_within(old, rights):
@@ -58,7 +58,7 @@ def unsafe_within_loop(arena, old, rights):
     for joint in list(hubs):
         follows.append([places[following] for following in behind.behinds[joint] if following in places])
     counts = [place < len(numbers) for place in range(len(follows))]
-    return Longest(follows, counts).longest(range(len(numbers)))
+    return Longest(follows, counts).longest(list(range(len(numbers))))
 
 
 def _readings_through(old, standings):
@@ -98,7 +98,7 @@ def unsafe_row(old, rights, n):
     longest = waiting.longest()
     if longest is not None and n >= longest:
         return None
-    first = waiting.rows.highest(range(len(waiting.standings)))
+    first = waiting.rows.highest(list(range(len(waiting.standings))))
     row = [waiting.standings[place] for place in waiting.rows.row_from(first, n + 1)]
     return _readings_through(old, _way_to(old, row[0])), _readings_through(old, row)
 

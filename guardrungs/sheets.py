@@ -177,9 +177,9 @@ def order_of(inputs, blocks):
     reads = _direct_reads(blocks)
     readers = {place: [] for place in reads}
     lacking = {}
-    for place, ahead in reads.items():
+    for place, ahead in list(reads.items()):
         lacking[place] = len(ahead)
-        for maker in ahead:
+        for maker in list(ahead):
             readers[maker].append(place)
     ready = [place for place, many in lacking.items() if many == 0]
     heapify(ready)

@@ -51,7 +51,7 @@ def read_parts(lines, read, sorts):
     """
     parts = [[] for _ in range(sorts)]
     latest = 0
-    for number, line in lines:
+    for number, line in list(lines):
         told = read(line)
         if told is None or told[0] < latest:
             raise BadText(number)

@@ -6,6 +6,8 @@ import os
 import re
 import unittest
 
+from tests.walks import left_unwalked, old_walks
+
 ROOT = os.path.join(os.path.dirname(os.path.dirname(os.path.abspath(__file__))), "guardrungs")
 BUILTINS = set(
     "len range enumerate zip min max sum abs sorted reversed int str bool list tuple dict set isinstance ord repr any "
@@ -30,71 +32,6 @@ LIBRARY = {"heapq": {"heappush", "heappop", "heapify", "heapreplace", "heappushp
 NODES = (
     ast.AsyncFunctionDef, ast.AsyncFor, ast.AsyncWith, ast.Await, ast.Global, ast.GeneratorExp, ast.Lambda, ast.Div,
     ast.Set, ast.NamedExpr, ast.AnnAssign, ast.Try, ast.Match, ast.Nonlocal, ast.MatMult)
-
-
-CHANGING = {
-    "append", "extend", "insert", "pop", "remove", "update", "clear", "setdefault", "reverse", "sort", "appendleft",
-    "popleft"}
-NEW = {"list", "sorted", "range", "tuple", "dict", "set"}
-
-
-def is_new(node):
-    """True for a value that is nothing else: a literal, a comprehension, a copy."""
-    if isinstance(node, (ast.List, ast.Tuple, ast.Dict, ast.ListComp, ast.DictComp)):
-        return True
-    if isinstance(node, ast.BinOp) and isinstance(node.op, ast.Mult):
-        return isinstance(node.left, ast.List)
-    return isinstance(node, ast.Call) and isinstance(node.func, ast.Name) and node.func.id in NEW
-
-
-def branches(node):
-    """The values that this expression may be, as far as they are written there."""
-    if isinstance(node, ast.IfExp):
-        return branches(node.body) + branches(node.orelse)
-    if isinstance(node, (ast.BoolOp, ast.Tuple)):
-        return [one for part in (node.values if isinstance(node, ast.BoolOp) else node.elts) for one in branches(part)]
-    return [node]
-
-
-def own_lists(function):
-    """The local names that are only ever new lists and dicts, and are given to no other name and no field."""
-    fine, other = set(), {arg.arg for arg in ast.walk(function.args) if isinstance(arg, ast.arg)}
-    for node in ast.walk(function):
-        if isinstance(node, ast.Assign):
-            other |= {one.id for one in branches(node.value) if isinstance(one, ast.Name)}
-            for target in node.targets:
-                for part in ast.walk(target):
-                    if isinstance(part, ast.Name) and isinstance(part.ctx, ast.Store):
-                        (fine if target is part and is_new(node.value) else other).add(part.id)
-        elif isinstance(node, ast.For):
-            other |= {part.id for part in ast.walk(node.target) if isinstance(part, ast.Name)}
-    return fine - other
-
-
-def changed_in(loop):
-    """What the rows of the loop change: names, or fields of whatever."""
-    for part in [one for row in loop.body + loop.orelse for one in ast.walk(row)]:
-        root = None
-        if isinstance(part, ast.Call) and isinstance(part.func, ast.Attribute) and part.func.attr in CHANGING:
-            root = part.func.value
-        elif isinstance(part, ast.Call) and isinstance(part.func, ast.Name) and part.func.id.startswith("heap"):
-            root = part.args[0]
-        elif isinstance(part, ast.Subscript) and isinstance(part.ctx, (ast.Store, ast.Del)):
-            root = part.value
-        while isinstance(root, (ast.Subscript, ast.Call)):
-            root = root.func if isinstance(root, ast.Call) else root.value
-            root = root.value if isinstance(root, ast.Attribute) and root.attr in CHANGING else root
-        if root is not None:
-            yield root
-
-
-def old_walks(function):
-    """The rows of loops that walk what may be a list that they change."""
-    fine = own_lists(function)
-    for loop in ast.walk(function):
-        if isinstance(loop, ast.For) and not is_new(loop.iter):
-            if not all(isinstance(root, ast.Name) and root.id in fine for root in changed_in(loop)):
-                yield loop.lineno
 
 
 def files():
@@ -270,7 +207,7 @@ class TestSubset(unittest.TestCase):
                 if isinstance(node, ast.Attribute) and isinstance(node.ctx, ast.Load):
                     self.assertIn(node.attr, METHODS | own | attributes | {"__init__"}, f"{name}:{node.lineno}")
 
-    def test_sets_and_views_on_the_spot(self):
+    def test_sets_on_the_spot(self):
         for name, tree in self.each():
             parents = {}
             for node in ast.walk(tree):
@@ -283,11 +220,6 @@ class TestSubset(unittest.TestCase):
                     above = parents[node]
                     fine = isinstance(above, ast.Call) and isinstance(above.func, ast.Name)
                     self.assertTrue(fine and above.func.id in ("sorted", "len"), where)
-                if isinstance(node, ast.Call) and isinstance(node.func, ast.Name) and node.func.id in ("zip", "enumerate"):
-                    above = parents[node]
-                    loop = isinstance(above, (ast.For, ast.comprehension)) and above.iter is node
-                    call = isinstance(above, ast.Call) and isinstance(above.func, ast.Name)
-                    self.assertTrue(loop or call and above.func.id in ("list", "tuple", "enumerate", "dict"), where)
                 if isinstance(node, ast.Starred) and isinstance(parents[node], ast.Call):
                     self.assertIsInstance(node.value, (ast.Name, ast.Attribute), where)
                 if isinstance(node, ast.BinOp) and isinstance(node.op, ast.Pow):
@@ -372,10 +304,45 @@ class TestSubset(unittest.TestCase):
             "for x in xs:\n  self.ys.append(x)": 1, "for x in self.xs:\n  self.ys[x] = 1": 1,
             "ys = {}\n for x, k in zip(self.xs, xs):\n  ys[k] = x": 0, "for x in list(xs) + new:\n  self.ys[x] = 1": 1,
             "for x in range(3):\n  self.ys[x] = 1": 0, "for k, x in list(enumerate(xs)):\n  self.ys[k].append(x)": 0,
-            "ys = {}\n zs = ys if xs else {}\n for x in xs:\n  zs[x] = 1": 1}
+            "ys = {}\n zs = ys if xs else {}\n for x in xs:\n  zs[x] = 1": 1,
+            "ys = {}\n for x in self.xs[0]:\n  ys.setdefault(x, []).append(x)": 1,
+            "ys = {}\n for x in list(self.xs[0]):\n  ys.setdefault(x, []).append(x)": 0,
+            "ys = [[]]\n for x in xs:\n  ys[0].append(x)": 1, "ys = [[]]\n for x in xs:\n  ys[0][x] = 1": 1,
+            "return [self.ys.pop() for x in xs]": 1, "return [x for x in self.xs if self.ys.pop()]": 1,
+            "return {x: k for x in self.xs for k in self.ys.pop()}": 1, "return [x for x in self.xs.pop()]": 0,
+            "ys = {}\n return {ys.setdefault(x, x): 1 for x in xs}": 0, "return [self.ys.pop() for x in list(xs)]": 0}
         for body, many in told.items():
             function = ast.parse(f"def f(self, xs, new):\n {body}\n").body[0]
             self.assertEqual(len(list(old_walks(function))), many, body)
+
+    def test_ranges_zips_and_views_are_walked_on_the_spot(self):
+        for name, tree in self.each():
+            self.assertEqual(list(left_unwalked(tree)), [], name)
+
+    def test_the_rule_of_what_is_walked_on_the_spot_sees_what_it_should(self):
+        fine = [
+            "for x in range(3):\n  f(x)", "return [x for x in zip(xs, ys)]", "return sum(range(3))",
+            "return list(enumerate(zip(xs, ys)))", "return sorted(xs.items(), key=k)", "return min(xs.values())",
+            "return max(xs.values(), default=0)", "return \" \".join(xs.keys())", "return len(range(3))",
+            "return xs in range(3)", "return xs not in ys.keys()", "return list(reversed(range(3)))",
+            "return f(list(range(3)))", "r = range(3)\n return r[0], len(r), [x for x in r], xs in r",
+            "r = range(3)\n for x in enumerate(r):\n  f(x)"]
+        wrong = [
+            "return f(range(3))", "return xs.longest(range(3))", "f(3, range(3))", "return f(k=zip(xs, ys))",
+            "return range(3)", "self.xs = range(3)", "xs[0] = range(3)", "r, s = range(3), 1", "r = zip(xs, ys)",
+            "r = xs.items()", "return [range(3)]", "return (1, enumerate(xs))", "return range(3) if xs else xs",
+            "for x in range(3) if xs else ys:\n  f(x)", "return max(xs.values(), 0)", "return max(xs.items(), key=f)",
+            "return zip(xs, range(3))", "return list(zip(xs, range(3)))", "return len(zip(xs, ys))",
+            "return range(3) == xs", "return xs in zip(ys, ys)", "return xs in ys.values()", "a, *b = range(3)",
+            "return f(*range(3))", "return list(reversed(xs.items()))", "return xs.join(range(3))",
+            "return set(xs.keys())",
+            "r = range(3)\n return f(r)", "r = range(3)\n return r", "r = range(3)\n r = range(4)\n return len(r)",
+            "r = range(3)\n s = r\n return len(s)", "r = range(3)\n if r:\n  f(3)", "r = range(3)\n return f(k=r)",
+            "r = range(3)\n def g():\n  return len(r)\n return g"]
+        for bodies, many in ((fine, 0), (wrong, 1)):
+            for body in bodies:
+                told = sorted(set(left_unwalked(ast.parse(f"def f(self, xs, ys):\n {body}\n"))))
+                self.assertEqual(min(len(told), 1), many, body)
 
 
 if __name__ == "__main__":
